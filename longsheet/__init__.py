@@ -1,0 +1,1 @@
+"""Longsheet: spreadsheets of any length, told for all lengths at once."""

@@ -1,0 +1,55 @@
+"""Sets of rows as integers, a bit for each row, so that whole columns are led along an edge at once."""
+
+from longsheet.graph import turned_edge
+
+
+def rows_of(mask):
+    """The ascending list of the rows in a mask."""
+    return [row for row in range(mask.bit_length()) if mask >> row & 1]
+
+
+def led_along(mask, low, high, rows):
+    """The mask of the rows to which the distances from low to high lead from those in a mask."""
+    if mask == 0:
+        return 0
+    full = (1 << rows) - 1
+    least = (mask & -mask).bit_length() - 1
+    most = mask.bit_length() - 1
+    if low is None:
+        return full if high is None else full & _rows_up_to(most + high)
+    if high is None:
+        return full & ~_rows_up_to(least + low - 1)
+    led = 0
+    for distance in range(low, high + 1):
+        led = led | (mask << distance if distance >= 0 else mask >> -distance)
+    return full & led
+
+
+def ringed_masks(many, edges, rows):
+    """The list of the masks, column by column, of the cells from which a walk along the edges leads to a ring."""
+    masks = [(1 << rows) - 1] * many
+    doubtful = {column: True for column in range(many)}
+    # A cell without a next one that is left leads to no ring; what hangs next on it is then looked at again.
+    while doubtful:
+        column = next(iter(doubtful), None)
+        del doubtful[column]
+        left = masks[column] & _with_next(column, masks, edges, rows)
+        if left != masks[column]:
+            masks[column] = left
+            for edge in edges:
+                if edge[1] == column:
+                    doubtful[edge[0]] = True
+    return masks
+
+
+def _with_next(column, masks, edges, rows):
+    found = 0
+    for edge in edges:
+        if edge[0] == column:
+            there, low, high = turned_edge(edge)[1:]
+            found = found | led_along(masks[there], low, high, rows)
+    return found
+
+
+def _rows_up_to(row):
+    return (1 << max(0, row + 1)) - 1

@@ -1,0 +1,101 @@
+"""The examples of the document, as they stand there, and those of README.md."""
+
+import doctest
+import pathlib
+import unittest
+
+README = pathlib.Path(__file__).resolve().parent.parent / "README.md"
+
+PART_1 = '''
+>>> from longsheet.formulas import fits, is_linear, reads
+>>> from longsheet.notation import read_at, read_formula, show_at, show_formula
+>>> above, left = ("name", ("by", 0), ("by", -1)), ("name", ("by", -1), ("by", 0))
+>>> balance = ("sum", (above, left))
+>>> [show_formula(balance), show_at(balance, 1, 3), read_at("sum(b3, a4)", 1, 3) == balance]
+['sum(.[-1], <1[0])', 'sum(b3, a4)', True]
+>>> [show_at(read_at("times(2, $a4)", 1, 3), 4, 0), show_at(("total", ("rows", ("at", 0), None, -1)), 1, 3)]
+['times(2, $a1)', 'total($a:$a3)']
+>>> [fits(balance, "body"), fits(balance, "foot"), is_linear(balance), is_linear(("most", (above,)))]
+[True, False, True, False]
+>>> read_formula("case(.[-1] >= 0, $0 head, over(1, 0))")[1:4]
+(('name', ('by', 0), ('by', -1)), '>=', ('number', 0))
+'''
+
+PART_2 = '''
+>>> from longsheet.edits import copy_columns, exchange, move_column, put_column, set_formula, strike_column
+>>> from longsheet.sheets import Sheet
+>>> paid, none = (("empty",), ("input",), ("total", ("rows", ("by", 0), None, None))), ("empty",)
+>>> balance = (("input",), ("sum", (("name", ("by", 0), ("by", -1)), ("name", ("by", -1), ("by", 0)))), ("name", ("by", 0), ("last", 0)))
+>>> sheet = Sheet([paid, balance])
+>>> [sheet.inputs(2), sheet.means((1, 0), ("name", ("by", 0), ("by", -1)), 2), sheet.means((1, 2), ("name", ("by", 0), ("last", 0)), 2)]
+[[(0, 0), (0, 1), (1, -1)], [(1, -1)], [(1, 1)]]
+>>> put_column(sheet, 1, (none, none, none))[2][1]
+('sum', (('name', ('by', 0), ('by', -1)), ('name', ('by', -2), ('by', 0))))
+>>> [move_column(sheet, 0, 1)[0][1][1][1], strike_column(sheet, 0)[0][1][1][1]]
+[('name', ('by', 1), ('by', 0)), ('name', ('lost',), ('by', 0))]
+>>> [copy_columns(put_column(sheet, 2, (none, none, none)), 1, 2, 1)[2] == balance, exchange(exchange(sheet, 0, 1), 1, 0) == sheet]
+[True, True]
+'''
+
+PART_3 = '''
+>>> from longsheet.graph import Web, next_on
+>>> from longsheet.parts import parts, way
+>>> from longsheet.rings import is_against, least_ring, ring_at, ringed
+>>> from longsheet.slopes import is_slope, slope
+>>> web = Web(2, [(0, 1, 1, 1), (1, 0, -2, -2)])
+>>> [parts(web), way(web, [0, 1]), slope(web, [0, 1]), way(~web, [0, 1]), next_on(web, 4, (1, 3)), least_ring(web)]
+[[[0, 1]], 'up', (2, {0: 3, 1: 0}), 'down', [(0, 1)], None]
+>>> is_slope(web, [0, 1], (1, {0: 2, 1: 0})), is_slope(web, [0, 1], (1, {0: 1, 1: 0}))
+(False, False)
+>>> more = Web(2, web.edges() + [(1, 1, 2, 2)])
+>>> [way(more, [0, 1]), slope(more, [0, 1]), least_ring(more), len(ring_at(more, 4)), ringed(more, 3)]
+['ring', None, 4, 5, []]
+>>> up, down = ((1, 0, -2, -2), -2), ((0, 1, 1, 1), 1)
+>>> is_against(more, [0, 1], ([((1, 1, 2, 2), 2)], [up, down]))
+True
+'''
+
+PART_4 = '''
+>>> from longsheet.graph import Web
+>>> from longsheet.orders import first_late, is_plan, is_web_order, order_by, plan
+>>> from longsheet.sweeps import are_sweeps, fewest_sweeps, needing_row, row_needs, sweeps
+>>> web = Web(3, [(0, 0, -1, -1), (1, 0, 2, 2), (1, 1, 1, 1), (2, 1, None, 0)])
+>>> plan(web)
+[([0], 1, {0: 0}), ([1], -1, {1: 0}), ([2], 0, {2: 0})]
+>>> [order_by(plan(web), 2), first_late(web, 2, [(0, 0), (1, 0), (1, 1), (0, 1), (2, 0), (2, 1)]), is_plan(web, plan(web)[::-1])]
+[[(0, 0), (0, 1), (1, 1), (1, 0), (2, 0), (2, 1)], 1, False]
+>>> [fewest_sweeps(web, "down"), fewest_sweeps(web, "up"), needing_row(web, "up")]
+[3, 4, [[0], [1], [2]]]
+>>> are_sweeps(web, [(1, {0: 0}), (-1, {1: 0}), (1, {2: 0})])
+True
+'''
+
+
+class Examples(unittest.TestCase):
+    def check(self, text):
+        test = doctest.DocTestParser().get_doctest(text, {}, "example", "DOC", 0)
+        told = []
+        result = doctest.DocTestRunner(verbose=False).run(test, out=told.append)
+        self.assertGreater(result.attempted, 0)
+        self.assertEqual(result.failed, 0, "".join(told))
+
+    def test_part_1(self):
+        self.check(PART_1)
+
+    def test_part_2(self):
+        self.check(PART_2)
+
+    def test_part_3(self):
+        self.check(PART_3)
+
+    def test_part_4(self):
+        self.check(PART_4)
+
+    def test_readme(self):
+        blocks = [block for block in README.read_text(encoding="utf-8").split("```") if ">>>" in block]
+        self.assertEqual(len(blocks), 1)
+        self.check(blocks[0])
+
+
+if __name__ == "__main__":
+    unittest.main()

@@ -1,0 +1,63 @@
+"""The interface: names, arguments, and where each function, class and method is defined."""
+
+import importlib
+import inspect
+import unittest
+
+FUNCTIONS = {
+    "values": ["is_integer(thing)", "is_number(thing)", "is_value(thing)", "is_error(thing)", "plain(value)",
+               "first_error(values)"],
+    "names": ["is_name(thing)", "is_range(thing)", "column_of(read, column)", "with_column(read, part)"],
+    "formulas": ["is_formula(thing)", "fits(formula, place)", "is_linear(formula)", "parts(formula)", "reads(formula)",
+                 "depth(formula)", "with_reads(formula, reads)"],
+    "notation": ["show_formula(formula)", "read_formula(text)", "show_at(formula, column, row)",
+                 "read_at(text, column, row)"],
+    "led": ["led(formula, column, to, places)"],
+    "edits": ["put_column(sheet, at, column)", "strike_column(sheet, at)", "move_column(sheet, at, to)",
+              "exchange(sheet, at, to)", "copy_columns(sheet, at, to, many)", "set_formula(sheet, at, place, formula)"],
+    "graph": ["web_of(sheet)", "next_on(web, rows, cell)", "next_from(web, rows, cell)"],
+    "walks": ["is_walk(web, rows, thing)", "is_web_ring(web, rows, thing)", "is_loop(web, thing)",
+              "walk_between(web, rows, start, goal)", "sum_of(loop)"],
+    "parts": ["parts(web)", "way(web, part)"],
+    "slopes": ["is_slope(web, columns, thing)", "slope(web, part)"],
+    "rings": ["against(web, part)", "is_against(web, part, thing)", "least_ring(web)", "first_ring(sheet)",
+              "ring_at(web, rows)", "ringed(web, rows)"],
+    "orders": ["is_plan(web, thing)", "is_web_order(web, rows, thing)", "plan(web)", "order_by(plan, rows)",
+               "first_late(web, rows, cells)"],
+    "sweeps": ["are_sweeps(web, thing)", "is_row(web, thing)", "fewest_sweeps(web, first)",
+               "row_needs(web, first, row)", "sweeps(web, first)", "needing_row(web, first)"],
+}
+CLASSES = {
+    ("sheets", "Sheet(columns)"): ["columns(self)", "inputs(self, rows)", "addresses(self, rows)",
+                                   "formula_at(self, address, rows)", "means(self, address, read, rows)"],
+    ("graph", "Web(many, edges)"): ["edges(self)"],
+}
+OPERATORS = {"Sheet": ["__len__", "__eq__", "__getitem__"], "Web": ["__len__", "__eq__", "__invert__"]}
+
+
+class Interface(unittest.TestCase):
+    def defined(self, file, told):
+        module = importlib.import_module(f"longsheet.{file}")
+        name = told.split("(")[0]
+        thing = getattr(module, name)
+        self.assertEqual(thing.__module__, f"longsheet.{file}")
+        self.assertEqual(name + str(inspect.signature(thing)), told)
+        return thing
+
+    def test_functions(self):
+        for file, functions in FUNCTIONS.items():
+            for told in functions:
+                self.assertTrue(inspect.isfunction(self.defined(file, told)), told)
+
+    def test_classes(self):
+        for (file, told), methods in CLASSES.items():
+            found = self.defined(file, told)
+            for method in methods:
+                own = vars(found)[method.split("(")[0]]
+                self.assertEqual(method.split("(")[0] + str(inspect.signature(own)), method)
+            for method in OPERATORS[found.__name__]:
+                self.assertIn(method, vars(found))
+
+
+if __name__ == "__main__":
+    unittest.main()

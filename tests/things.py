@@ -1,0 +1,201 @@
+"""What several tests need: values of all kinds, and drawn formulas, sheets and Webs."""
+
+import random
+
+from longsheet.formulas import GATHERING, SIGNS
+from longsheet.graph import Web
+from longsheet.sheets import Sheet
+
+FAR = 10 ** 12
+NONE = ("empty",)
+
+
+def some_values():
+    """Values of kinds that are told nowhere as right but for a few plain ones."""
+    return [
+        None, True, False, 0, 1, -1, 7, 10 ** 59, -(10 ** 59), "", "a", "name", "head", "empty", "#lost", "#nothing",
+        "input", "down", "=", b"", b"name", (), [], {}, set(), {1}, {0: 0}, {True: 0}, {"a": [1]}, [[]], [()], ((),),
+        (0,), (0, 0), [0, 0], (True, 0), (0, True), (0, None), ("name",), ("number",), ("number", True), ["empty"],
+        (None, None), ([], []), [(0, 0)], [[0, 0]], [(0, 0), (0, 0)], (1, {0: 0}), (1, {}), [(1, {})], [([0], 0, {0: 0})],
+        Web(0, []), Web(1, [(0, 0, 0, 0)]), Sheet([]), Sheet([(NONE, NONE, NONE)]), frozenset([1]), (1, 2, 3), range(3),
+        ("empty", "empty"), (("empty",),), [("empty",)], ("sum", [("empty",)]), ("input",), 10 ** 12, 10 ** 12 + 1,
+    ]
+
+
+def nested(depth):
+    """A value so deep."""
+    thing = ("sum", ())
+    for turn in range(depth):
+        thing = [thing] if turn % 2 else (thing,)
+    return thing
+
+
+class Draw:
+    """Draws things by a seed."""
+
+    def __init__(self, seed):
+        self.random = random.Random(seed)
+
+    def one(self, things):
+        return self.random.choice(things)
+
+    def number(self, low, high):
+        return self.random.randint(low, high)
+
+    def column_part(self, far=3):
+        kind = self.number(0, 9)
+        if kind == 0:
+            return ("lost",)
+        if kind < 4:
+            return ("at", self.number(0, far))
+        return ("by", self.number(-far, far))
+
+    def read(self, place, ranges, far=3):
+        """A name or range that fits; place None takes all sorts of rows."""
+        column = self.column_part(far)
+        if ranges and place != "head":
+            ends = (None,) if place == "foot" else (None, -5, -2, -1, 0, 1, 3, 5)
+            return ("rows", column, self.one(ends), self.one(ends))
+        rows = {"head": [("head",)], "body": [("head",), ("by", self.number(-5, 5)), ("by", self.number(-1, 1))],
+                "foot": [("head",), ("foot",), ("last", self.number(0, 5))]}
+        rows[None] = rows["body"] + rows["foot"]
+        return ("name", column, self.one(rows[place]))
+
+    def formula(self, place, deep=3, inputs=False, far=3):
+        """A formula that fits a place; place None and inputs bring others, too."""
+        kinds = ["number", "empty", "name", "name"]
+        if place != "head":
+            kinds += ["total", "many", "top", "low"]
+        if inputs:
+            kinds.append("input")
+        if deep > 0:
+            kinds += ["sum", "most", "least", "times", "over", "case"]
+        kind = self.one(kinds)
+        if kind in ("empty", "input"):
+            return (kind,)
+        if kind == "number":
+            return ("number", self.one([0, 1, -1, 12, FAR, -FAR, self.number(-9, 9)]))
+        if kind == "name":
+            return self.read(place, False, far)
+        if kind in ("total", "many", "top", "low"):
+            return (kind, self.read(place, True, far))
+        inner = [self.formula(place, deep - 1, inputs, far) for _ in range(4)]
+        if kind in GATHERING:
+            return (kind, tuple(inner[:self.number(0, 3)]))
+        if kind == "times":
+            return (kind, self.number(-3, 3), inner[0])
+        if kind == "over":
+            return (kind, inner[0], inner[1])
+        return (kind, inner[0], self.one(SIGNS), inner[1], inner[2], inner[3])
+
+    def sheet(self, most=4, deep=2):
+        """A sheet with inputs, of columns that read each other."""
+        columns = []
+        many = self.number(0, most)
+        for _ in range(many):
+            column = [self.formula(place, deep, False, max(1, many - 1)) for place in ("head", "body", "foot")]
+            for at in (0, 1):
+                if self.number(0, 2) == 0:
+                    column[at] = ("input",)
+            columns.append(tuple(column))
+        return Sheet(columns)
+
+    def end(self, spread=5):
+        return self.one([None, self.number(-spread, spread), self.number(-spread, spread)])
+
+    def edge(self, many):
+        here, there = self.number(0, many - 1), self.number(0, many - 1)
+        spread = self.one([1, 2, 5])
+        low = self.number(-spread, spread)
+        kind = self.number(0, 9)
+        if kind < 6:
+            return (here, there, low, low)
+        high = self.number(low, spread)
+        return (here, there, None if kind == 9 else low, None if kind == 8 else high)
+
+    def leaning_edge(self, many, lean):
+        """An edge along which lean tells the way: most of such Webs have no rings."""
+        here, there = self.number(0, many - 1), self.number(0, many - 1)
+        low = high = here - there + lean * self.number(1, 2)
+        if lean < 0 and self.number(0, 4) == 0:
+            low = None
+        if lean > 0 and self.number(0, 4) == 0:
+            high = None
+        within = [end is None or -5 <= end <= 5 for end in (low, high)]
+        return (here, there, low, high) if all(within) else (here, here, lean, lean)
+
+    def web(self, most=8):
+        """A Web with or without rings, with loops that go up, or down, or both."""
+        many = self.number(0, most)
+        if many == 0:
+            return Web(0, [])
+        edges = self.number(0, self.one([3, 8, 16, 48]))
+        kind = self.number(0, 3)
+        if kind == 0:
+            return Web(many, [self.edge(many) for _ in range(edges)])
+        if kind == 3:
+            return self.thin_web()
+        if kind == 1:
+            lean = self.one([-1, 1])
+            return Web(many, [self.leaning_edge(many, lean) for _ in range(edges)])
+        return self.tiered_web(many, edges)
+
+    def thin_web(self):
+        """A Web of few edges, of which many have a ring, but not at one row."""
+        many = self.one([1, 1, 2, 3])
+        ends = [self.one([-5, -3, -2, -1, 1, 2, 4]) for _ in range(self.number(2, 5))]
+        return Web(many, [(self.number(0, many - 1), self.number(0, many - 1), end, end) for end in ends])
+
+    def tiered_web(self, many, edges):
+        """A Web without rings, of columns that go up, or down, or stand alone, and read columns ahead of them."""
+        order = list(range(many))
+        self.random.shuffle(order)
+        found = []
+        for at, here in enumerate(order):
+            kind = self.number(0, 2)
+            if kind < 2:
+                found.append((here, here, -1, -1) if kind == 0 else (here, here, 1, 2))
+            if at > 0:
+                for _ in range(max(1, edges // many)):
+                    low = self.number(-3, 3)
+                    ends = self.one([(low, low), (None, low), (low, None), (low, low + 1)])
+                    found.append((here, order[self.number(0, at - 1)]) + ends)
+        return Web(many, found[:48])
+
+
+def cells_of(web, rows):
+    return [(column, row) for column in range(len(web)) for row in range(rows)]
+
+
+def plain_next(web, rows, cell):
+    """The cells on which a cell hangs next, each one asked by itself."""
+    found = []
+    for other in cells_of(web, rows):
+        for here, there, low, high in web.edges():
+            distance = other[1] - cell[1]
+            if (here, there) == (cell[0], other[0]) and (low is None or low <= distance):
+                if (high is None or distance <= high) and other not in found:
+                    found.append(other)
+    return found
+
+
+def plain_ringed(web, rows):
+    """The cells that are left when those without a next one are taken out, again and again."""
+    left = cells_of(web, rows)
+    following = {cell: set(plain_next(web, rows, cell)) for cell in left}
+    while True:
+        kept = [cell for cell in left if following[cell] & set(left)]
+        if kept == left:
+            return left
+        left = kept
+
+
+def plain_shortest(web, rows, start, goal):
+    """The number of cells of a shortest walk of at least two cells, or None."""
+    reached, many = {start}, 1
+    while many <= len(web) * rows:
+        many += 1
+        reached = {other for cell in reached for other in plain_next(web, rows, cell)}
+        if goal in reached:
+            return many
+    return None
