@@ -42,10 +42,7 @@ def is_against(web, part, thing):
 
 def least_ring(web):
     """The least number of rows at which there is a ring, or None if there is none at any."""
-    edges = []
-    for part in parts(web):
-        if way(web, part) == "ring":
-            edges = edges + edges_within(web, part)
+    edges = [edge for part in _ring_parts(web) for edge in edges_within(web, part)]
     if not edges:
         return None
     without, rows = 0, 1
@@ -62,10 +59,13 @@ def least_ring(web):
 
 def ring_at(web, rows):
     """A ring of as few cells as possible, or None."""
+    length = least_ring(web)
+    if length is None or rows < length:
+        return None
     # Each ring can be moved up until it has a cell in row 0.
-    walks = [walk_of_steps(web, rows, (column, 0), (column, 0)) for column in range(len(web))]
-    found = [walk[:-1] for walk in walks if walk is not None]
-    return min(found, key=len) if found else None
+    columns = [column for part in _ring_parts(web) for column in part]
+    walks = [walk_of_steps(web, rows, (column, 0), (column, 0)) for column in columns]
+    return min([walk[:-1] for walk in walks if walk is not None], key=len)
 
 
 def ringed(web, rows):
@@ -80,6 +80,10 @@ def first_ring(sheet):
     if _have_ring(sheet, 0, "head") or _have_ring(sheet, 2, "foot"):
         return 0
     return least_ring(web_of(sheet))
+
+
+def _ring_parts(web):
+    return [part for part in parts(web) if way(web, part) == "ring"]
 
 
 def _have_ring(sheet, place, row):

@@ -30,17 +30,17 @@ def are_sweeps(web, thing):
 def fewest_sweeps(web, first):
     """The least number of sweeps of a Web, the first one going as first tells."""
     must_have_plan(web)
-    return _sweeps_up_to([number for _, number, _ in _numbered(web, first)])
+    return _sweeps_up_to([entry[1] for entry in _numbered(web, first)])
 
 
 def sweeps(web, first):
     """As few sweeps as there can be, the first one going as first tells."""
     must_have_plan(web)
     numbered = _numbered(web, first)
-    many = _sweeps_up_to([number for _, number, _ in numbered])
+    many = _sweeps_up_to([entry[1] for entry in numbered])
     found = []
     for turn in range(many):
-        columns = sorted([column for part, number, _ in numbered if number == turn for column in part])
+        columns = sorted([column for entry in numbered if entry[1] == turn for column in entry[0]])
         step = _step(web, first, turn)
         found.append((step, least_starts(columns, falls(edges_within(web, columns), step))))
     return found
@@ -68,9 +68,8 @@ def needing_row(web, first):
         if at is None or entry[1] > numbered[at][1]:
             at = index
     while at is not None:
-        part, _, ahead = numbered[at]
-        row = [part] + row
-        at = ahead
+        row = [numbered[at][0]] + row
+        at = numbered[at][2]
     return row
 
 
@@ -111,9 +110,9 @@ def _numbered(web, first):
     numbered = []
     for part in parts(web):
         number, ahead = _least_number(web, first, part), None
-        for at, (other, behind, _) in enumerate(numbered):
-            if _edges_between(web, part, other):
-                needed = _number_behind(web, first, part, other, behind)
+        for at, entry in enumerate(numbered):
+            if _edges_between(web, part, entry[0]):
+                needed = _number_behind(web, first, part, entry[0], entry[1])
                 if needed > number:
                     number, ahead = needed, at
         numbered.append((part, number, ahead))

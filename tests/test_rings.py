@@ -43,10 +43,13 @@ class Against(unittest.TestCase):
 
     def test_ways_beside_the_greatest(self):
         # From 2 to 3 and back by 4 and 5 the sum is 0; by 0 or 1 in their place it is less.
-        edges = [(2, 0, -1, -1), (2, 4, 0, 0), (0, 3, 0, 0), (4, 3, 0, 0), (3, 1, -1, -1), (3, 5, 0, 0), (1, 2, 0, 0), (5, 2, 0, 0)]
-        for web in (Web(6, edges), ~Web(6, edges)):
-            told = against(web, list(range(6)))
-            self.assertIs(is_against(web, list(range(6)), told), True)
+        columns = list(range(6))
+        for first, second in ((-1, 0), (0, -1), (-2, 1), (1, -2)):
+            ways = [(2, 0, first), (2, 4, 0), (0, 3, second), (4, 3, 0), (3, 1, first), (3, 5, 0), (1, 2, second), (5, 2, 0)]
+            for order in ([0, 1, 2, 3, 4, 5], [5, 4, 3, 2, 1, 0], [4, 5, 2, 3, 0, 1], [2, 5, 3, 1, 4, 0]):
+                web = Web(6, [(order[here], order[there], end, end) for here, there, end in ways])
+                self.assertIs(is_against(web, columns, against(web, columns)), True)
+                self.assertIs(is_against(~web, columns, against(~web, columns)), True)
 
     def test_far_apart(self):
         edges = [(at, at + 1, 5, 5) for at in range(7)] + [(at + 1, at, 5, 5) for at in range(7)]

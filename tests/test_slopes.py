@@ -161,7 +161,8 @@ class Slopes(unittest.TestCase):
                            ((-2, 2), [True, True, True])):
             web = Web(2, [(0, 1) + ends])
             self.assertEqual([is_slope(web, [0, 1], (step, {0: 9, 1: 0})) for step in (4, 0, -4)], told)
-            self.assertIs(is_slope(web, [0, 1], (0, {0: 0, 1: 0})), False)
+            self.assertEqual([is_slope(web, [0, 1], (0, {0: start, 1: 5})) for start in (4, 5, 6, 7)],
+                             [False, False, True, True])
         web = Web(2, [(0, 1, -2, 3)])
         self.assertEqual([is_slope(web, [0, 1], (2, {0: start, 1: 0})) for start in (6, 7)], [False, True])
         self.assertEqual([is_slope(web, [0, 1], (-2, {0: start, 1: 0})) for start in (4, 5)], [False, True])
