@@ -25,6 +25,28 @@ def led_along(mask, low, high, rows):
     return full & led
 
 
+def masks_led_to(many, edges, rows, cell):
+    """The list of the masks, column by column, of the cells to which walks of at least two cells lead along edges."""
+    leading = [[edge for edge in edges if edge[0] == here] for here in range(many)]
+    masks = [0] * many
+    waiting = {cell[0]: 1 << cell[1]}
+    while waiting:
+        column = next(iter(waiting), None)
+        start = waiting[column]
+        del waiting[column]
+        for _, there, low, high in leading[column]:
+            fresh = led_along(start, low, high, rows) & ~masks[there]
+            if fresh != 0:
+                masks[there] = masks[there] | fresh
+                waiting[there] = waiting.get(there, 0) | fresh
+    return masks
+
+
+def cells_in(masks):
+    """The ascending list of the cells in masks, column by column."""
+    return [(column, row) for column, mask in enumerate(masks) for row in rows_of(mask)]
+
+
 def ringed_masks(many, edges, rows):
     """The list of the masks, column by column, of the cells from which a walk along the edges leads to a ring."""
     masks = [(1 << rows) - 1] * many
@@ -33,7 +55,7 @@ def ringed_masks(many, edges, rows):
     while doubtful:
         column = next(iter(doubtful), None)
         del doubtful[column]
-        left = masks[column] & _with_next(column, masks, edges, rows)
+        left = masks[column] & with_next(column, masks, edges, rows)
         if left != masks[column]:
             masks[column] = left
             for edge in edges:
@@ -42,7 +64,8 @@ def ringed_masks(many, edges, rows):
     return masks
 
 
-def _with_next(column, masks, edges, rows):
+def with_next(column, masks, edges, rows):
+    """The mask of the rows of a column that hang next on a cell in masks."""
     found = 0
     for edge in edges:
         if edge[0] == column:

@@ -3,7 +3,7 @@
 from longsheet.formulas import reads
 from longsheet.graph import turned_edge, web_of
 from longsheet.heights import edges_within
-from longsheet.masks import ringed_masks, rows_of
+from longsheet.masks import cells_in, ringed_masks
 from longsheet.names import column_of
 from longsheet.parts import parts, way
 from longsheet.walks import is_loop, sum_of, walk_of_steps
@@ -70,8 +70,7 @@ def ring_at(web, rows):
 
 def ringed(web, rows):
     """The ascending list of the cells that lie on a ring, or from which a walk leads to one."""
-    masks = ringed_masks(len(web), web.edges(), rows)
-    return [(column, row) for column, mask in enumerate(masks) for row in rows_of(mask)]
+    return cells_in(ringed_masks(len(web), web.edges(), rows))
 
 
 def first_ring(sheet):

@@ -23,7 +23,7 @@ def is_loop(web, thing):
     if not isinstance(thing, list) or len(thing) == 0:
         return False
     for step in thing:
-        if not _is_step(web, step):
+        if not is_step(web, step):
             return False
     return all([ahead[0][1] == step[0][0] for ahead, step in zip(thing[-1:] + thing[:-1], thing)])
 
@@ -57,6 +57,16 @@ def walk_of_steps(web, rows, start, goal):
     return None
 
 
+def is_step(web, thing):
+    """Whether any value is a tuple of an edge of a Web and one of its distances."""
+    if not isinstance(thing, tuple) or len(thing) != 2 or not is_integer(thing[1]):
+        return False
+    edge = thing[0]
+    if not isinstance(edge, tuple) or any([isinstance(part, bool) for part in edge]):
+        return False
+    return edge in web.edges() and has_distance(edge, thing[1])
+
+
 def _walk_back(came, start, goal):
     walk = [goal, came[goal]]
     while walk[-1] != start:
@@ -77,12 +87,3 @@ def _hangs_next(web, cell, other):
     distance = other[1] - cell[1]
     ways = [edge for edge in web.edges() if edge[0] == cell[0] and edge[1] == other[0]]
     return any([has_distance(edge, distance) for edge in ways])
-
-
-def _is_step(web, thing):
-    if not isinstance(thing, tuple) or len(thing) != 2 or not is_integer(thing[1]):
-        return False
-    edge = thing[0]
-    if not isinstance(edge, tuple) or any([isinstance(part, bool) for part in edge]):
-        return False
-    return edge in web.edges() and has_distance(edge, thing[1])

@@ -2,12 +2,17 @@
 
 import unittest
 
+from longsheet.anew import Live, changed, reached
+from longsheet.contents import is_contents, lengthened, only_inputs
+from longsheet.distances import distances, is_distance
 from longsheet.edits import exchange, move_column, put_column, strike_column
 from longsheet.formulas import depth, reads
 from longsheet.graph import Web, next_from, next_on, web_of
 from longsheet.notation import read_formula, show_formula
 from longsheet.orders import first_late, is_plan, is_web_order, order_by, plan
 from longsheet.parts import parts, way
+from longsheet.reach import bar_between, depends, hanging_from, hanging_on, hangs, is_bar_between
+from longsheet.reckoning import hanging, is_order, is_ring, next_cells, on_rings, order_for, value_at, values
 from longsheet.rings import against, first_ring, is_against, least_ring, ring_at, ringed
 from longsheet.sheets import Sheet
 from longsheet.slopes import slope
@@ -65,6 +70,71 @@ class Chains(unittest.TestCase):
         self.assertEqual(row_needs(web, "up", needing_row(web, "up")), 16)
 
 
+def chain_sheet():
+    """Eight columns: each cell is one more than the one to its left, or than the last one of the row above."""
+    columns = []
+    for column in ALL:
+        left = ("by", -1) if column else ("at", 7)
+        body = ("sum", (("name", left, ("by", 0 if column else -1)), ("number", 1)))
+        head = ("sum", (("name", left, ("head",)), ("number", 1))) if column else ("input",)
+        last = ("sum", (("name", left, ("foot",) if column else ("last", 0)), ("number", 1)))
+        columns.append((head, body, last))
+    return Sheet(columns)
+
+
+class SheetChains(unittest.TestCase):
+    CELLS = [(column, row) for row in range(-1, 31) for column in ALL]
+
+    def test_all_cells_hang_on_the_first(self):
+        sheet, cells = chain_sheet(), self.CELLS
+        self.assertEqual(hanging(sheet, 30, (7, 30)), sorted(cells[:-1]))
+        self.assertEqual(hanging(sheet, 30, (0, -1)), [])
+        self.assertEqual(next_cells(sheet, 30, (7, 30)), [(6, 30)])
+        self.assertEqual(reached(sheet, 30, (0, -1)), sorted(cells))
+        self.assertEqual([on_rings(sheet, 30), order_for(sheet, 30)], [[], cells])
+        self.assertIs(is_order(sheet, 30, cells), True)
+        self.assertIs(is_order(sheet, 30, cells[1:] + cells[:1]), False)
+        self.assertIs(is_ring(sheet, 30, cells[::-1]), False)
+
+    def test_values(self):
+        sheet, cells = chain_sheet(), self.CELLS
+        told = values(sheet, 30, {(0, -1): 1000})
+        self.assertEqual([told[cell] for cell in cells], list(range(1000, 1256)))
+        self.assertEqual(value_at(sheet, 30, {(0, -1): 1000}, (7, 30)), 1255)
+        self.assertEqual(changed(sheet, 30, {}, {(0, -1): 1}), sorted(cells))
+        self.assertEqual(changed(sheet, 30, {}, {(0, -1): 0}), [(0, -1)])
+        live = Live(sheet, 30, {})
+        self.assertEqual(live.put((0, -1), 1000), sorted(cells))
+        self.assertEqual(live.worked(), sorted(cells[1:]))
+        self.assertEqual([live.value(cell) for cell in cells], list(range(1000, 1256)))
+        self.assertIs(is_contents(sheet, 30, {(0, -1): 5, (0, 0): 5}), False)
+        self.assertEqual(lengthened(sheet, 30, only_inputs(sheet, 30, {(0, -1): 5, (0, 0): 5}), 0), {(0, -1): 5})
+
+    def test_closed_to_a_ring(self):
+        sheet = chain_sheet()
+        columns = sheet.columns()
+        columns[0] = (columns[0][0], ("sum", (columns[0][1], ("name", ("at", 7), ("by", 1)))), columns[0][2])
+        ringed_sheet = Sheet(columns)
+        bodies = [cell for cell in self.CELLS if 0 <= cell[1] < 30]
+        # The first row reads the last column of the second one, and so on; the last row reads no row below.
+        self.assertEqual(on_rings(ringed_sheet, 30), sorted(bodies))
+        self.assertEqual(values(ringed_sheet, 30, {})[(7, 30)], "#ring")
+        self.assertEqual(value_at(ringed_sheet, 30, {(0, -1): 4}, (7, -1)), 11)
+
+    def test_reach(self):
+        cells = [(column, row) for row in range(60) for column in ALL]
+        self.assertEqual(hanging_on(CHAIN, 60, (7, 59)), sorted(cells[:-1]))
+        self.assertEqual(hanging_from(CHAIN, 60, (0, 0)), sorted(cells[1:]))
+        self.assertEqual(bar_between(CHAIN, 60, (6, 59), (7, 59)), sorted(cells[:-2]))
+        self.assertIs(is_bar_between(CHAIN, 60, (6, 59), (7, 59), sorted(cells[:-2])), True)
+        self.assertIs(is_bar_between(CHAIN, 60, (6, 59), (7, 59), sorted(cells[1:-2])), False)
+        self.assertEqual([depends(CHAIN, 60, 0, 7), depends(CHAIN, 60, 7, 0)], [list(range(-59, 0)), list(range(-59, 1))])
+        self.assertIs(hangs(CHAIN, 60, (7, 59), (7, 59)), False)
+        wide = Web(8, [(here, there, None, None) for here in range(6) for there in ALL])
+        self.assertEqual(len(hanging_on(wide, 60, (5, 30))), 480)
+        self.assertEqual(depends(wide, 60, 0, 7), list(range(-59, 60)))
+
+
 class Widest(unittest.TestCase):
     def webs(self, draw):
         """Webs of eight columns and forty-eight edges: without loops that do not go up, and such with all sorts."""
@@ -100,6 +170,14 @@ class Widest(unittest.TestCase):
             self.assertTrue(set(ring_at(mixed, 30)) <= set(ringed(mixed, 30)))
             for part in parts(mixed):
                 self.assertEqual(slope(mixed, part) is None, against(mixed, part) is not None)
+
+    def test_distances_of_all_edges(self):
+        edges = [(here, there, low, high) for here in range(4) for there in range(4)
+                 for low, high in ((-3, -3), (None, -2), (-1, 2))]
+        web = Web(4, edges)
+        self.assertEqual(len(web.edges()), 48)
+        self.assertEqual(distances(web, 0, 3), ((0, 1, [0]), [0], (0, 1, [0])))
+        self.assertIs(is_distance(distances(web, 3, 3), 10 ** 40), True)
 
     def test_thirty_rows_without_ends(self):
         web = Web(8, [(here, there, None, None) for here in range(6) for there in ALL])

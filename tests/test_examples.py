@@ -70,6 +70,54 @@ PART_4 = '''
 True
 '''
 
+PART_5 = '''
+>>> from longsheet.distances import count_distances, distances, is_distance, steps_for
+>>> from longsheet.graph import Web
+>>> from longsheet.reach import bar_between, hanging_on, hangs
+>>> web = Web(2, [(0, 0, -2, -2), (0, 0, -3, -3), (1, 0, 1, 1)])
+>>> [hanging_on(web, 5, (0, 4)), hangs(web, 5, (0, 4), (0, 3)), bar_between(web, 5, (0, 3), (1, 0))]
+[[(0, 0), (0, 1), (0, 2)], False, [(0, 0), (0, 1)]]
+>>> distances(web, 0, 0)
+((-1, 1, [0]), [], (0, 1, []))
+>>> distances(web, 1, 0)
+((0, 1, [0]), [1], (1, 1, []))
+>>> tide = distances(Web(1, [(0, 0, -2, -2)]), 0, 0)
+>>> [tide, is_distance(tide, -10 ** 30), count_distances(tide, -7, 7), steps_for(web, 0, 0, -6)]
+[((0, 2, [0]), [], (0, 1, [])), True, 3, [((0, 0, -3, -3), -3), ((0, 0, -3, -3), -3)]]
+'''
+
+PART_6 = '''
+>>> from longsheet.anew import Live, changed, reached
+>>> from longsheet.reckoning import hanging, next_cells, on_rings, order_for, value_at, values
+>>> from longsheet.sheets import Sheet
+>>> paid = (("empty",), ("input",), ("total", ("rows", ("by", 0), None, None)))
+>>> balance = (("input",), ("sum", (("name", ("by", 0), ("by", -1)), ("name", ("by", -1), ("by", 0)))), ("name", ("by", 0), ("last", 0)))
+>>> sheet, contents = Sheet([paid, balance]), {(0, 0): 5, (0, 1): -2, (1, -1): 100}
+>>> [value_at(sheet, 2, contents, (1, 2)), next_cells(sheet, 2, (1, 1)), hanging(sheet, 2, (1, 0)), on_rings(sheet, 2)]
+[103, [(0, 1), (1, 0)], [(0, 0), (1, -1)], []]
+>>> values(sheet, 1, {})
+{(0, -1): None, (0, 0): None, (0, 1): 0, (1, -1): None, (1, 0): 0, (1, 1): 0}
+>>> live = Live(sheet, 2, contents)
+>>> [live.put((0, 1), -3), live.worked(), live.value((0, 2)), live.put((0, 1), -3), live.worked()]
+[[(0, 1), (0, 2), (1, 1), (1, 2)], [(0, 2), (1, 1), (1, 2)], 2, [], []]
+>>> [reached(sheet, 2, (0, 1)), changed(sheet, 2, contents, {(0, 0): 3, (1, -1): 100})]
+[[(0, 1), (0, 2), (1, 1), (1, 2)], [(0, 0), (0, 1), (1, 0)]]
+'''
+
+# What it shows of rising.py; the lines of far.py and alike.py stand with their parts.
+PART_7 = '''
+>>> from longsheet.rising import first_values, is_rising, shares
+>>> from longsheet.sheets import Sheet
+>>> above, left = ("name", ("by", 0), ("by", -1)), ("name", ("by", -1), ("by", 0))
+>>> none = ("empty",)
+>>> paid, grow = (none, ("input",), none), (("input",), ("sum", (("times", 2, above), left)), none)
+>>> running = (none, ("total", ("rows", ("at", 0), None, 0)), none)
+>>> sheet = Sheet([paid, grow, running, (none, ("sum", (above, ("name", ("at", 0), ("by", 0)))), none)])
+>>> flows = ({1: 1}, {0: [1, 0]})
+>>> [is_rising(sheet), first_values(sheet, flows, 3), shares(sheet, 1, 2)]
+[True, [[1, 3, 1, 1], [0, 6, 1, 1], [1, 13, 2, 2]], (0, {1: 8}, {(0, 0): 4, (0, 1): 2, (0, 2): 1})]
+'''
+
 
 class Examples(unittest.TestCase):
     def check(self, text):
@@ -90,6 +138,15 @@ class Examples(unittest.TestCase):
 
     def test_part_4(self):
         self.check(PART_4)
+
+    def test_part_5(self):
+        self.check(PART_5)
+
+    def test_part_6(self):
+        self.check(PART_6)
+
+    def test_part_7(self):
+        self.check(PART_7)
 
     def test_readme(self):
         blocks = [block for block in README.read_text(encoding="utf-8").split("```") if ">>>" in block]

@@ -26,13 +26,30 @@ FUNCTIONS = {
                "first_late(web, rows, cells)"],
     "sweeps": ["are_sweeps(web, thing)", "is_row(web, thing)", "fewest_sweeps(web, first)",
                "row_needs(web, first, row)", "sweeps(web, first)", "needing_row(web, first)"],
+    "reach": ["hangs(web, rows, cell, other)", "is_bar_between(web, rows, cell, other, thing)",
+              "hanging_on(web, rows, cell)", "hanging_from(web, rows, cell)", "depends(web, rows, here, there)",
+              "bar_between(web, rows, cell, other)"],
+    "distances": ["distances(web, here, there)", "is_distance(tide, number)", "are_steps(web, here, there, thing)",
+                  "count_distances(tide, low, high)", "steps_for(web, here, there, number)"],
+    "contents": ["is_contents(sheet, rows, thing)", "only_inputs(sheet, rows, contents)",
+                 "lengthened(sheet, rows, contents, more)"],
+    "working": ["worked_out(formula, others)"],
+    "reckoning": ["next_cells(sheet, rows, address)", "hanging(sheet, rows, address)", "on_rings(sheet, rows)",
+                  "value_at(sheet, rows, contents, address)", "values(sheet, rows, contents)", "order_for(sheet, rows)",
+                  "is_order(sheet, rows, thing)", "is_ring(sheet, rows, thing)"],
+    "anew": ["reached(sheet, rows, address)", "changed(sheet, rows, contents, later)"],
+    "rising": ["is_rising(sheet)", "is_flows(sheet, thing)", "first_values(sheet, flows, rows)",
+               "shares(sheet, column, row)"],
 }
 CLASSES = {
     ("sheets", "Sheet(columns)"): ["columns(self)", "inputs(self, rows)", "addresses(self, rows)",
                                    "formula_at(self, address, rows)", "means(self, address, read, rows)"],
     ("graph", "Web(many, edges)"): ["edges(self)"],
+    ("anew", "Live(sheet, rows, contents)"): ["value(self, address)", "put(self, address, number)", "worked(self)",
+                                              "contents(self)"],
 }
-OPERATORS = {"Sheet": ["__len__", "__eq__", "__getitem__"], "Web": ["__len__", "__eq__", "__invert__"]}
+OPERATORS = {"Sheet": ["__len__", "__eq__", "__getitem__"], "Web": ["__len__", "__eq__", "__invert__"],
+             "Live": ["__init__"]}
 
 
 class Interface(unittest.TestCase):

@@ -3,7 +3,8 @@
 import copy
 import unittest
 
-from longsheet import edits, formulas, graph, led, names, notation, orders, parts, rings, slopes, sweeps, walks
+from longsheet import (anew, contents, distances, edits, formulas, graph, led, names, notation, orders, parts, reach, reckoning, rings,
+                       rising, slopes, sweeps, walks, working)
 from longsheet.errors import SheetError
 from longsheet.graph import Web
 from longsheet.sheets import Sheet
@@ -123,6 +124,76 @@ class Promises(unittest.TestCase):
             self.ask(edits.exchange, sheet, at, to)
             self.ask(edits.copy_columns, sheet, at, to, draw.number(1, 2))
             self.ask(edits.set_formula, sheet, at, draw.one(["head", "body", "foot"]), draw.formula("body"))
+
+    def test_reach(self):
+        draw = Draw(7)
+        for _ in range(40):
+            web, rows = draw.web(3), draw.number(1, 5)
+            for cell in cells_of(web, rows)[:2]:
+                other = draw.one(cells_of(web, rows))
+                for asked in (reach.hanging_on, reach.hanging_from):
+                    self.ask(asked, web, rows, cell)
+                for asked in (reach.hangs, reach.bar_between):
+                    self.ask(asked, web, rows, cell, other)
+                self.ask(reach.is_bar_between, web, rows, cell, other, reach.hanging_on(web, rows, cell))
+                self.ask(reach.depends, web, rows, cell[0], other[0])
+        for _ in range(20):
+            web = Web(2, [(draw.number(0, 1), draw.number(0, 1)) + draw.one([(2, 2), (-3, -3), (None, 1), (0, 1)]) for _ in range(3)])
+            tide = self.ask(distances.distances, web, 0, 1)
+            self.ask(distances.is_distance, tide, 5)
+            self.ask(distances.count_distances, tide, -8, 9)
+            self.ask(distances.are_steps, web, 0, 1, self.ask(distances.steps_for, web, 0, 1, draw.number(-9, 9)))
+
+    def test_reckoning(self):
+        draw = Draw(8)
+        for _ in range(60):
+            sheet, rows = draw.sheet(), draw.number(0, 4)
+            told, later = draw.contents(sheet, rows, True), draw.contents(sheet, rows)
+            for asked in (contents.only_inputs, contents.is_contents, reckoning.values):
+                self.ask(asked, sheet, rows, told)
+            self.ask(contents.lengthened, sheet, rows, told, draw.number(0, 6))
+            self.ask(anew.changed, sheet, rows, told, later)
+            self.ask(reckoning.on_rings, sheet, rows)
+            order = self.ask(reckoning.order_for, sheet, rows)
+            self.ask(reckoning.is_order, sheet, rows, order)
+            self.ask(reckoning.is_ring, sheet, rows, order)
+            for address in sheet.addresses(rows)[:5]:
+                for asked in (reckoning.next_cells, reckoning.hanging, anew.reached):
+                    self.ask(asked, sheet, rows, address)
+                self.ask(reckoning.value_at, sheet, rows, told, address)
+                formula = sheet.formula_at(address, rows)
+                if formula != ("input",):
+                    self.ask(working.worked_out, formula, [[1, None] for _ in formulas.reads(formula)])
+            live = anew.Live(sheet, rows, later)
+            for address in sheet.inputs(rows)[:3]:
+                live.put(address, 5)
+                for asked in (live.worked, live.contents):
+                    self.ask(asked)
+                self.ask(live.value, address)
+
+    def test_order_of_keys_means_nothing(self):
+        draw = Draw(9)
+        for _ in range(60):
+            sheet, rows = draw.sheet(), draw.number(0, 4)
+            told = draw.contents(sheet, rows, True)
+            turned = {key: told[key] for key in list(told)[::-1]}
+            other = Sheet([list(column) for column in sheet.columns()])
+            for asked in (contents.only_inputs, reckoning.values):
+                self.assertEqual(list(asked(sheet, rows, told).items()), list(asked(other, rows, turned).items()))
+            live, again = [anew.Live(sheet, rows, contents.only_inputs(sheet, rows, told)) for _ in range(2)]
+            for address in sheet.inputs(rows)[:3]:
+                self.assertEqual([live.put(address, 3), live.worked()], [again.put(address, 3), again.worked()])
+
+    def test_rising(self):
+        draw = Draw(10)
+        for _ in range(40):
+            sheet = draw.one([draw.rising_sheet(), draw.sheet(), draw.linear_sheet()])
+            flows = draw.flows(sheet)
+            self.ask(rising.is_rising, sheet)
+            self.ask(rising.is_flows, sheet, flows)
+            self.ask(rising.first_values, sheet, flows, draw.number(0, 6))
+            if len(sheet):
+                self.ask(rising.shares, sheet, draw.number(0, len(sheet) - 1), draw.number(0, 6))
 
     def test_formulas(self):
         draw = Draw(5)

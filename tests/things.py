@@ -100,6 +100,92 @@ class Draw:
             columns.append(tuple(column))
         return Sheet(columns)
 
+    def contents(self, sheet, rows, others=False):
+        """Numbers for some of the inputs, in any order; others brings keys that mean nothing."""
+        found = {}
+        inputs = sheet.inputs(rows)
+        self.random.shuffle(inputs)
+        for address in inputs:
+            if self.number(0, 3):
+                found[address] = self.one([0, 1, -1, FAR, -FAR, self.number(-9, 9), self.number(-99, 99)])
+        if others:
+            for address in sheet.addresses(rows + 1) + [(len(sheet), 0)]:
+                if address not in inputs and self.number(0, 2) == 0:
+                    found[address] = self.number(-9, 9)
+        return found
+
+    def linear_formula(self, place, reads, deep=2):
+        """A linear formula that is no input, of reads that are drawn by a call."""
+        kind = self.one(["number", "empty", "read", "read", "read"] + ["sum", "sum", "times"] * min(deep, 1))
+        if kind == "number":
+            return ("number", self.number(-5, 5))
+        if kind == "empty":
+            return ("empty",)
+        if kind == "read":
+            read = reads()
+            return read if read[0] == "name" else ("total", read)
+        if kind == "times":
+            return ("times", self.number(-3, 3), self.linear_formula(place, reads, deep - 1))
+        return ("sum", tuple([self.linear_formula(place, reads, deep - 1) for _ in range(self.number(0, 3))]))
+
+    def linear_sheet(self, most=4):
+        """A sheet of linear formulas without lost names, with inputs, perhaps with rings."""
+        many = self.number(1, most)
+        leans = self.one([0, 1, 2])
+        columns = []
+        for column in range(many):
+            found = []
+            for place in ("head", "body", "foot"):
+                found.append(self.linear_formula(place, lambda: self.linear_read(place, column, many, leans)))
+            for at in (0, 1):
+                if self.number(0, 2) == 0:
+                    found[at] = ("input",)
+            columns.append(tuple(found))
+        return Sheet(columns)
+
+    def linear_read(self, place, column, many, leans):
+        there = self.number(0, many - 1)
+        if leans and (place != "body" or leans == 2):
+            # To columns ahead alone, if there are any: no ring comes of these.
+            there = self.number(0, max(0, column - 1))
+        part = self.one([("at", there), ("by", there - column)])
+        if place == "head":
+            return ("name", part, ("head",))
+        if place == "foot":
+            kinds = [("head",), ("last", self.number(0, 3))] + ([("foot",)] if there < column else [])
+            return self.one([("name", part, self.one(kinds)), ("rows", part, None, None)])
+        d = self.number(-3, 3 if leans == 2 and there < column else -1)
+        ends = (None, d) if self.number(0, 1) else (d - 1, d)
+        return self.one([("name", part, self.one([("head",), ("by", d), ("by", d)])), ("rows", part) + ends])
+
+    def rising_sheet(self, most=4):
+        """A rising sheet: each column reads those ahead of it in its row, and all in the rows above."""
+        many = self.number(1, most)
+        order = list(range(many))
+        self.random.shuffle(order)
+        columns = [None] * many
+        for at, column in enumerate(order):
+            def read():
+                there = order[self.number(0, many - 1)]
+                top = 0 if there in order[:at] else -1
+                part = self.one([("at", there), ("by", there - column)])
+                d = self.number(-3, top)
+                low = self.one([None, None, d, -3, -1, 1])
+                return self.one([("name", part, ("by", d)), ("name", part, ("by", d)), ("name", part, ("head",)),
+                                 ("rows", part, low, d)])
+            body = ("input",) if self.number(0, 3) == 0 else self.linear_formula("body", read)
+            columns[column] = (self.one([NONE, ("input",), ("over", NONE, NONE)]), body, NONE)
+        return Sheet(columns)
+
+    def flows(self, sheet, most=61):
+        heads = {column: self.number(-9, 9) for column in range(len(sheet)) if self.number(0, 2)}
+        lists = {}
+        for column in range(len(sheet)):
+            if sheet[column][1] == ("input",) and self.number(0, 4):
+                many = self.one([1, min(2, most), min(3, most), most, self.number(1, most)])
+                lists[column] = [self.number(-9, 9) for _ in range(many)]
+        return (heads, lists)
+
     def end(self, spread=5):
         return self.one([None, self.number(-spread, spread), self.number(-spread, spread)])
 
