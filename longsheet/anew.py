@@ -1,10 +1,11 @@
-"""Values that are reckoned anew behind each change, where the change can reach, and nowhere else."""
+"""What a change reaches, and values that are kept up behind each change of contents."""
 
-from longsheet.cells import is_address, is_input, value_by
-from longsheet.contents import is_contents, only_inputs
+from longsheet.cells import is_address, is_input
+from longsheet.contents import is_contents
 from longsheet.errors import NoCell, NoInput, Wrong
-from longsheet.ordering import hung_from, order_of, reached_from
-from longsheet.reckoning import all_meant, next_by, values, values_by
+from longsheet.kept import Kept
+from longsheet.ordering import hung_from, reached_from
+from longsheet.reckoning import all_meant, next_by, values
 from longsheet.sheets import Sheet
 from longsheet.values import is_integer, is_number
 
@@ -21,19 +22,14 @@ class Live:
             raise Wrong(2)
         self._of = sheet
         self._long = rows
-        self._numbers = {address: contents[address] for address in contents}
-        self._meant = all_meant(sheet, rows)
-        self._known = values_by(sheet, rows, contents, self._meant)
-        following = next_by(self._meant)
-        self._back = hung_from(following)
-        self._order = order_of(following)
+        self._kept = Kept(sheet, rows, contents)
         self._worked = []
 
     def value(self, address):
         """The value of a cell."""
         if not is_address(self._of, self._long, address):
             raise NoCell(address)
-        return self._known[address]
+        return self._kept.known(address)
 
     def put(self, address, number):
         """Changes what an input cell has; the ascending list of the addresses whose values have changed."""
@@ -41,20 +37,8 @@ class Live:
             raise NoInput(address)
         if number is not None and not is_number(number):
             raise Wrong(1)
-        if number is None:
-            self._numbers.pop(address, None)
-        else:
-            self._numbers[address] = number
-        unlike = {}
-        touched = {address: True}
-        for cell in self._order:
-            if cell in touched and self._reckon(cell):
-                unlike[cell] = True
-                for other in self._back[cell]:
-                    touched[other] = True
-        del touched[address]
-        self._worked = sorted(list(touched))
-        return sorted(list(unlike))
+        unlike, self._worked = self._kept.change(address, number)
+        return unlike
 
     def worked(self):
         """The ascending list of the addresses whose formulas the last put has worked out anew."""
@@ -62,13 +46,7 @@ class Live:
 
     def contents(self):
         """The contents, without empty cells."""
-        return only_inputs(self._of, self._long, self._numbers)
-
-    def _reckon(self, cell):
-        """Works a cell out; whether its value is another one then."""
-        old = self._known[cell]
-        self._known[cell] = value_by(self._of, self._long, self._numbers, cell, self._meant[cell], self._known)
-        return self._known[cell] != old
+        return self._kept.numbers()
 
 
 def reached(sheet, rows, address):

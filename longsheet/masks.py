@@ -5,7 +5,12 @@ from longsheet.graph import turned_edge
 
 def rows_of(mask):
     """The ascending list of the rows in a mask."""
-    return [row for row in range(mask.bit_length()) if mask >> row & 1]
+    rows = []
+    while mask != 0:
+        least = mask & -mask
+        rows.append(least.bit_length() - 1)
+        mask = mask ^ least
+    return rows
 
 
 def led_along(mask, low, high, rows):

@@ -12,7 +12,7 @@ def next_cells(sheet, rows, address):
 
 def hanging(sheet, rows, address):
     """The ascending list of the addresses on which a cell hangs."""
-    meant = _meant_from(sheet, rows, address)
+    meant = meant_from(sheet, rows, address)
     return sorted(list(reached_from(next_by(meant), address)))
 
 
@@ -23,7 +23,7 @@ def on_rings(sheet, rows):
 
 def value_at(sheet, rows, contents, address):
     """The value of a cell."""
-    return values_by(sheet, rows, contents, _meant_from(sheet, rows, address))[address]
+    return values_by(sheet, rows, contents, meant_from(sheet, rows, address))[address]
 
 
 def values(sheet, rows, contents):
@@ -77,7 +77,7 @@ def values_by(sheet, rows, contents, meant):
     return known
 
 
-def _meant_from(sheet, rows, address):
+def meant_from(sheet, rows, address):
     """What is meant by a cell and by all on which it hangs."""
     meant = {}
     waiting = [address]

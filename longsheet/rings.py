@@ -1,32 +1,30 @@
 """Rings: loops that go against each other, and the least number of rows at which cells hang on themselves."""
 
 from longsheet.formulas import reads
-from longsheet.graph import turned_edge, web_of
+from longsheet.graph import web_of
 from longsheet.heights import edges_within
+from longsheet.loops import no_steps, one_step_more, strongest_steps, turned_loop
 from longsheet.masks import cells_in, ringed_masks
 from longsheet.names import column_of
 from longsheet.parts import parts, way
 from longsheet.walks import is_loop, sum_of, walk_of_steps
-
-# Beyond all ends of edges: a loop with a distance so great has a sum above 0, whatever its other steps are.
-FAR = 1000
 
 
 def against(web, part):
     """Two loops from one column of a part whose way is "ring", with sums not below and not above 0; or None."""
     if way(web, part) != "ring":
         return None
-    risen = _strongest_steps(web, part)
-    fallen = _strongest_steps(~web, part)
+    risen = strongest_steps(web, part)
+    fallen = strongest_steps(~web, part)
     ups, downs = {}, {}
-    up_walks, down_walks = _no_steps(part), _no_steps(part)
+    up_walks, down_walks = no_steps(part), no_steps(part)
     while True:
-        up_walks, down_walks = _one_step_more(up_walks, risen), _one_step_more(down_walks, fallen)
+        up_walks, down_walks = one_step_more(up_walks, risen), one_step_more(down_walks, fallen)
         _keep_loops(up_walks, ups)
         _keep_loops(down_walks, downs)
         for column in part:
             if column in ups and column in downs:
-                return (ups[column], _turned_loop(downs[column]))
+                return (ups[column], turned_loop(downs[column]))
 
 
 def is_against(web, part, thing):
@@ -104,39 +102,7 @@ def _has_ring(web, edges, rows):
     return any([mask != 0 for mask in ringed_masks(len(web), edges, rows)])
 
 
-def _strongest_steps(web, part):
-    """For each two columns between which edges lead, the tuple (edge, distance) with the greatest distance."""
-    steps = {}
-    for edge in edges_within(web, part):
-        here, there, low, high = edge
-        distance = max(0, low or 0) + FAR if high is None else high
-        if (here, there) not in steps or steps[(here, there)][1] < distance:
-            steps[(here, there)] = (edge, distance)
-    return list(steps.values())
-
-
-def _no_steps(part):
-    return {(column, column): (0, []) for column in part}
-
-
-def _one_step_more(walks, steps):
-    """Of the walks with one step more, for each two ends the one with the greatest sum, as a tuple (sum, steps)."""
-    longer = {}
-    for (start, end), (total, walk) in walks.items():
-        for step in steps:
-            here, there = step[0][:2]
-            key = (start, there)
-            if here == end and (key not in longer or longer[key][0] < total + step[1]):
-                longer[key] = (total + step[1], walk + [step])
-    return longer
-
-
 def _keep_loops(walks, loops):
     for (start, end), (total, walk) in walks.items():
         if start == end and total >= 0 and start not in loops:
             loops[start] = walk
-
-
-def _turned_loop(loop):
-    # The loop was looked for in the Web turned upside down.
-    return [(turned_edge(edge), -distance) for edge, distance in loop]

@@ -3,21 +3,27 @@
 import unittest
 
 from longsheet.anew import Live, changed, reached
+from longsheet.charts import draws, read_levels, show_levels, show_rounds
 from longsheet.contents import is_contents, lengthened, only_inputs
 from longsheet.distances import distances, is_distance
 from longsheet.edits import exchange, move_column, put_column, strike_column
 from longsheet.formulas import depth, reads
+from longsheet.goals import bar, form_at, solutions
 from longsheet.graph import Web, next_from, next_on, web_of
+from longsheet.levels import busiest, far_level, level, level_walk, levels, round_cells, rounds
 from longsheet.notation import read_formula, show_formula
 from longsheet.orders import first_late, is_plan, is_web_order, order_by, plan
 from longsheet.parts import parts, way
+from longsheet.rates import is_rate_paper, longest_between, rate, rate_paper
 from longsheet.reach import bar_between, depends, hanging_from, hanging_on, hangs, is_bar_between
 from longsheet.reckoning import hanging, is_order, is_ring, next_cells, on_rings, order_for, value_at, values
 from longsheet.rings import against, first_ring, is_against, least_ring, ring_at, ringed
 from longsheet.sheets import Sheet
 from longsheet.slopes import slope
 from longsheet.sweeps import are_sweeps, fewest_sweeps, needing_row, row_needs, sweeps
+from longsheet.texts import show_grid, show_sheet
 from longsheet.walks import is_walk, is_web_ring, walk_between
+from longsheet.whatif import first_with, table, what_if
 from tests.things import NONE, Draw
 
 ALL = list(range(8))
@@ -133,6 +139,40 @@ class SheetChains(unittest.TestCase):
         wide = Web(8, [(here, there, None, None) for here in range(6) for there in ALL])
         self.assertEqual(len(hanging_on(wide, 60, (5, 30))), 480)
         self.assertEqual(depends(wide, 60, 0, 7), list(range(-59, 60)))
+
+
+    def test_forms_and_goals(self):
+        sheet = chain_sheet()
+        self.assertEqual(form_at(sheet, 30, (7, 30)), (255, {(0, -1): 1}))
+        self.assertEqual(solutions(sheet, 30, {}, ((7, 30), 5), [(0, -1)]), ([-250], []))
+        self.assertEqual(what_if(sheet, 30, {}, (7, 30), [(0, -1)], [[1], [None], [-255]]), [256, 255, 0])
+        self.assertEqual(first_with(sheet, 30, {}, ((7, 30), 300), (0, -1), -100, 100), 45)
+        self.assertIsNone(first_with(sheet, 30, {}, ((7, 30), 300), (0, -1), 46, 246))
+        self.assertEqual(table(sheet, 30, {}, (6, 30), (0, -1), (0, -1), [1, 2], [3]), [[257], [257]])
+        doubled = Sheet([(head, ("times", 2, body) if body[0] == "sum" else body, foot) for head, body, foot in sheet.columns()])
+        self.assertEqual(form_at(doubled, 30, (7, 29))[1], {(0, -1): 2 ** 240})
+        self.assertEqual(bar(doubled, 30, {}, ((7, 29), 1), [(0, -1)]), 2 ** 240)
+
+    def test_levels(self):
+        cells = [(column, row) for row in range(30) for column in ALL]
+        self.assertEqual([levels(CHAIN, 30)[cell] for cell in cells], list(range(240)))
+        self.assertEqual([level(CHAIN, 30, (7, 29)), rounds(CHAIN, 30), busiest(CHAIN, 30), round_cells(CHAIN, 30, 239)], [239, 240, 1, [(7, 29)]])
+        self.assertEqual(level_walk(CHAIN, 30, (7, 29)), cells[::-1])
+        self.assertEqual(far_level(CHAIN, 7, 10 ** 30), 8 * 10 ** 30 + 7)
+        self.assertEqual([rate(CHAIN, ALL), rate(~CHAIN, ALL)], [(8, 1), (8, 1)])
+        self.assertIs(is_rate_paper(~CHAIN, ALL, rate_paper(~CHAIN, ALL)), True)
+        self.assertEqual(longest_between(CHAIN, ALL, 30, (7, 29), (0, 0)), 239)
+        text = show_levels(CHAIN, 30)
+        self.assertEqual(text.split("\n")[29], "232 233 234 235 236 237 238 239")
+        self.assertIs(draws(CHAIN, read_levels(text)), True)
+        self.assertEqual(len(show_rounds(CHAIN, 30).split("\n")), 241)
+        self.assertIs(draws(CHAIN, [[8 * row + column for column in ALL] for row in range(500)]), True)
+        self.assertEqual(rounds(COLUMNS, 30), 240)
+
+    def test_texts(self):
+        sheet = chain_sheet()
+        self.assertEqual(len(show_sheet(sheet).split("\n")), 9)
+        self.assertEqual(show_grid(sheet, 30, {(0, -1): 0}).split("\n")[31], "248 | 249 | 250 | 251 | 252 | 253 | 254 | 255")
 
 
 class Widest(unittest.TestCase):

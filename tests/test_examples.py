@@ -6,7 +6,7 @@ import unittest
 
 README = pathlib.Path(__file__).resolve().parent.parent / "README.md"
 
-PART_1 = '''
+PART_1 = r'''
 >>> from longsheet.formulas import fits, is_linear, reads
 >>> from longsheet.notation import read_at, read_formula, show_at, show_formula
 >>> above, left = ("name", ("by", 0), ("by", -1)), ("name", ("by", -1), ("by", 0))
@@ -21,7 +21,7 @@ PART_1 = '''
 (('name', ('by', 0), ('by', -1)), '>=', ('number', 0))
 '''
 
-PART_2 = '''
+PART_2 = r'''
 >>> from longsheet.edits import copy_columns, exchange, move_column, put_column, set_formula, strike_column
 >>> from longsheet.sheets import Sheet
 >>> paid, none = (("empty",), ("input",), ("total", ("rows", ("by", 0), None, None))), ("empty",)
@@ -37,7 +37,7 @@ PART_2 = '''
 [True, True]
 '''
 
-PART_3 = '''
+PART_3 = r'''
 >>> from longsheet.graph import Web, next_on
 >>> from longsheet.parts import parts, way
 >>> from longsheet.rings import is_against, least_ring, ring_at, ringed
@@ -55,7 +55,7 @@ PART_3 = '''
 True
 '''
 
-PART_4 = '''
+PART_4 = r'''
 >>> from longsheet.graph import Web
 >>> from longsheet.orders import first_late, is_plan, is_web_order, order_by, plan
 >>> from longsheet.sweeps import are_sweeps, fewest_sweeps, needing_row, row_needs, sweeps
@@ -70,7 +70,7 @@ PART_4 = '''
 True
 '''
 
-PART_5 = '''
+PART_5 = r'''
 >>> from longsheet.distances import count_distances, distances, is_distance, steps_for
 >>> from longsheet.graph import Web
 >>> from longsheet.reach import bar_between, hanging_on, hangs
@@ -86,7 +86,7 @@ PART_5 = '''
 [((0, 2, [0]), [], (0, 1, [])), True, 3, [((0, 0, -3, -3), -3), ((0, 0, -3, -3), -3)]]
 '''
 
-PART_6 = '''
+PART_6 = r'''
 >>> from longsheet.anew import Live, changed, reached
 >>> from longsheet.reckoning import hanging, next_cells, on_rings, order_for, value_at, values
 >>> from longsheet.sheets import Sheet
@@ -104,8 +104,9 @@ PART_6 = '''
 [[(0, 1), (0, 2), (1, 1), (1, 2)], [(0, 0), (0, 1), (1, 0)]]
 '''
 
-# What it shows of rising.py; the lines of far.py and alike.py stand with their parts.
-PART_7 = '''
+PART_7 = r'''
+>>> from longsheet.alike import alike_columns, are_alike, parting
+>>> from longsheet.far import far_total, far_value
 >>> from longsheet.rising import first_values, is_rising, shares
 >>> from longsheet.sheets import Sheet
 >>> above, left = ("name", ("by", 0), ("by", -1)), ("name", ("by", -1), ("by", 0))
@@ -116,6 +117,44 @@ PART_7 = '''
 >>> flows = ({1: 1}, {0: [1, 0]})
 >>> [is_rising(sheet), first_values(sheet, flows, 3), shares(sheet, 1, 2)]
 [True, [[1, 3, 1, 1], [0, 6, 1, 1], [1, 13, 2, 2]], (0, {1: 8}, {(0, 0): 4, (0, 1): 2, (0, 2): 1})]
+>>> [far_value(sheet, flows, 1, 2, 10), far_value(sheet, flows, 2, 10 ** 30, 1000), far_total(sheet, flows, 0, 6, 100)]
+[3, 1, 4]
+>>> [are_alike(sheet, 2, 3), alike_columns(sheet), parting(sheet, 1, 2)]
+[False, [[0], [1], [2], [3]], (0, ({1: 1}, {}))]
+>>> parting(sheet, 2, 3)
+(0, ({3: 1}, {}))
+'''
+
+PART_8 = r'''
+>>> from longsheet.goals import bar, form_at, is_solution, solutions
+>>> from longsheet.sheets import Sheet
+>>> from longsheet.whatif import first_with, table, what_if
+>>> above = ("name", ("by", 0), ("by", -1))
+>>> grow = (("input",), ("sum", (("times", 2, above), ("name", ("by", 1), ("by", 0)))), ("name", ("by", 0), ("last", 0)))
+>>> paid = (("empty",), ("input",), ("empty",))
+>>> sheet = Sheet([grow, paid])
+>>> [form_at(sheet, 2, (0, 2)), bar(sheet, 2, {}, ((0, 2), 6), [(0, -1)])]
+[(0, {(0, -1): 4, (1, 0): 2, (1, 1): 1}), 4]
+>>> [solutions(sheet, 2, {(1, 1): 2}, ((0, 2), 6), [(0, -1)]), is_solution(sheet, 2, {}, ((0, 2), 6), [(0, -1), (1, 0)], [1, 1])]
+[([1], []), True]
+>>> [what_if(sheet, 2, {}, (0, 2), [(1, 0), (1, 1)], [[1, 1], [3, None]]), table(sheet, 1, {}, (0, 0), (0, -1), (1, 0), [1, 2], [0, 5]), first_with(sheet, 2, {}, ((0, 2), 12), (0, -1), -9, 9)]
+[[3, 6], [[2, 7], [4, 9]], 3]
+'''
+
+PART_9 = r'''
+>>> from longsheet.charts import read_levels, show_levels, show_rounds
+>>> from longsheet.graph import Web
+>>> from longsheet.levels import far_level, level_walk, levels, rounds
+>>> from longsheet.rates import is_rate_paper, longest_between, rate
+>>> web = Web(2, [(0, 0, -2, -2), (1, 0, 0, 0), (1, 1, -3, -3)])
+>>> [levels(web, 3), rounds(web, 3), level_walk(web, 3, (1, 2))]
+[{(0, 0): 0, (0, 1): 0, (0, 2): 1, (1, 0): 1, (1, 1): 1, (1, 2): 2}, 3, [(1, 2), (0, 2), (0, 0)]]
+>>> [rate(web, [0]), rate(web, [1]), far_level(web, 1, 10 ** 30), longest_between(web, [1], 9, (1, 8), (1, 2))]
+[(1, 2), (1, 3), 500000000000000000000000000001, 2]
+>>> is_rate_paper(web, [0], ([((0, 0, -2, -2), -2)], {0: 0}))
+True
+>>> [show_levels(web, 2), show_rounds(web, 2), read_levels("0 1\n0 1\n")]
+['0 1\n0 1\n', '0:0 0:1\n1:0 1:1\n', [[0, 1], [0, 1]]]
 '''
 
 
@@ -147,6 +186,12 @@ class Examples(unittest.TestCase):
 
     def test_part_7(self):
         self.check(PART_7)
+
+    def test_part_8(self):
+        self.check(PART_8)
+
+    def test_part_9(self):
+        self.check(PART_9)
 
     def test_readme(self):
         blocks = [block for block in README.read_text(encoding="utf-8").split("```") if ">>>" in block]

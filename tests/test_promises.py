@@ -3,8 +3,8 @@
 import copy
 import unittest
 
-from longsheet import (anew, contents, distances, edits, formulas, graph, led, names, notation, orders, parts, reach, reckoning, rings,
-                       rising, slopes, sweeps, walks, working)
+from longsheet import (alike, anew, charts, contents, distances, edits, far, formulas, goals, graph, led, levels, names, notation, orders,
+                       parts, rates, reach, reckoning, rings, rising, slopes, sweeps, texts, walks, whatif, working)
 from longsheet.errors import SheetError
 from longsheet.graph import Web
 from longsheet.sheets import Sheet
@@ -193,7 +193,72 @@ class Promises(unittest.TestCase):
             self.ask(rising.is_flows, sheet, flows)
             self.ask(rising.first_values, sheet, flows, draw.number(0, 6))
             if len(sheet):
-                self.ask(rising.shares, sheet, draw.number(0, len(sheet) - 1), draw.number(0, 6))
+                one, other = draw.number(0, len(sheet) - 1), draw.number(0, len(sheet) - 1)
+                self.ask(rising.shares, sheet, one, draw.number(0, 6))
+                told = self.ask(alike.parting, sheet, one, other)
+                self.ask(alike.is_parting, sheet, one, other, told)
+                self.ask(alike.are_alike, sheet, one, other)
+                self.ask(alike.plain_column, sheet, one)
+                flows = draw.flows(sheet, 4)
+                for asked in (far.far_value, far.far_total):
+                    self.ask(asked, sheet, flows, one, draw.one([2, 5, 10 ** 20]), 1000)
+            self.ask(alike.alike_columns, sheet)
+
+    def test_goals(self):
+        draw = Draw(11)
+        for _ in range(60):
+            sheet, rows = draw.linear_sheet(), draw.number(0, 3)
+            told = draw.contents(sheet, rows, True)
+            address, inputs = draw.one(sheet.addresses(rows)), sheet.inputs(rows)
+            moving = draw.random.sample(inputs, draw.number(0, len(inputs)))
+            goal = (address, draw.number(-5, 5))
+            self.ask(goals.form_at, sheet, rows, address)
+            found = self.ask(goals.solutions, sheet, rows, told, goal, moving)
+            self.ask(goals.is_solution, sheet, rows, told, goal, moving, found and found[0])
+            self.ask(goals.is_bar, sheet, rows, told, goal, moving, self.ask(goals.bar, sheet, rows, told, goal, moving))
+            lists = [[draw.one([None, 3]) for _ in moving] for _ in range(2)]
+            self.ask(whatif.what_if, sheet, rows, told, address, moving, lists)
+            if len(inputs) > 1:
+                self.ask(whatif.table, sheet, rows, told, address, inputs[0], inputs[1], [1, 2], [3])
+                self.ask(whatif.first_with, sheet, rows, told, goal, inputs[0], -9, 9)
+            turned = {key: told[key] for key in list(told)[::-1]}
+            self.assertEqual(whatif.what_if(sheet, rows, told, address, moving, lists), whatif.what_if(sheet, rows, turned, address, moving, lists))
+
+    def test_levels(self):
+        draw = Draw(12)
+        for _ in range(80):
+            web, rows = draw.web(4), draw.number(1, 5)
+            if len(web) == 0:
+                continue
+            cell = draw.one(cells_of(web, rows))
+            for asked in (levels.level, levels.level_walk):
+                self.ask(asked, web, rows, cell)
+            for asked in (levels.levels, levels.rounds, levels.busiest, charts.show_levels, charts.show_rounds):
+                self.ask(asked, web, rows)
+            self.ask(levels.round_cells, web, rows, 0)
+            text = self.ask(charts.show_levels, web, rows)
+            self.ask(charts.draws, web, self.ask(charts.read_levels, text))
+            for part in parts.parts(web):
+                self.ask(rates.rate, web, part)
+                cells = [one for one in cells_of(web, rows) if one[0] in part]
+                self.ask(rates.longest_between, web, part, rows, draw.one(cells), draw.one(cells))
+                if parts.way(web, part) in ("up", "down"):
+                    self.ask(rates.is_rate_paper, web, part, self.ask(rates.rate_paper, web, part))
+        web = Web(3, [(0, 1, -2, 0), (1, 0, -1, -1), (2, 0, -3, 0)])
+        for row in (0, 7, 10 ** 30):
+            self.ask(levels.far_level, web, 2, row)
+
+    def test_texts(self):
+        draw = Draw(13)
+        for _ in range(40):
+            sheet, rows = draw.sheet(), draw.number(0, 3)
+            told = draw.contents(sheet, rows)
+            self.ask(texts.show_sheet, sheet)
+            self.ask(texts.show_contents, told)
+            self.assertEqual(texts.show_contents({key: told[key] for key in list(told)[::-1]}), texts.show_contents(told))
+            self.ask(texts.show_grid, sheet, rows, told)
+            for address in sheet.addresses(rows)[:4]:
+                self.ask(texts.show_cell, address, rows)
 
     def test_formulas(self):
         draw = Draw(5)

@@ -2,19 +2,26 @@
 
 import unittest
 
+from longsheet.alike import alike_columns, are_alike
 from longsheet.anew import Live, changed, reached
 from longsheet.contents import lengthened, only_inputs
 from longsheet.distances import distances, is_distance
 from longsheet.edits import exchange, move_column, put_column, strike_column
+from longsheet.errors import NoGoal, NotLinear
+from longsheet.far import far_total, far_value
 from longsheet.formulas import reads
+from longsheet.goals import bar, form_at, solutions
 from longsheet.graph import web_of
+from longsheet.levels import far_level, level_walk, levels, round_cells, rounds
 from longsheet.orders import order_by, plan
 from longsheet.reach import hanging_on
-from longsheet.reckoning import hanging, order_for, values
+from longsheet.reckoning import hanging, order_for, value_at, values
 from longsheet.rings import least_ring
 from longsheet.rising import first_values, shares
 from longsheet.sweeps import sweeps
+from longsheet.values import plain
 from longsheet.walks import walk_between
+from longsheet.whatif import first_with, what_if
 from longsheet.working import worked_out
 from tests.test_rising import contents_of, with_input_heads
 from tests.things import NONE, Draw
@@ -124,6 +131,91 @@ class TwoWays(unittest.TestCase):
             one, other = values(heads, 4, contents), values(heads, 7, longer)
             self.assertEqual([one[(0, row)] for row in range(4)], [other[(0, row)] for row in range(4)])
             self.assertEqual([one[(0, row)] or 0 for row in range(4)], [row[0] for row in first_values(sheet, flows, 4)])
+
+
+    def test_goals_and_values(self):
+        draw = Draw(605)
+        led = 0
+        for _ in range(300):
+            sheet, rows = draw.linear_sheet(), draw.number(0, 3)
+            contents, cell = draw.contents(sheet, rows), draw.one(sheet.addresses(rows))
+            inputs = sheet.inputs(rows)
+            moving = draw.random.sample(inputs, draw.number(0, min(3, len(inputs))))
+            goal = (cell, draw.number(-9, 9))
+            try:
+                point, steps = solutions(sheet, rows, contents, goal, moving)
+            except NotLinear:
+                continue
+            except NoGoal:
+                if moving:
+                    self.assertIsNone(first_with(sheet, rows, contents, goal, moving[0], -20, 20))
+                continue
+            led += 1
+            for many in (0, 1, -2):
+                thing = [one + sum([many * step[at] for step in steps]) for at, one in enumerate(point)]
+                later = dict(contents)
+                later.update(zip(moving, thing))
+                self.assertEqual(plain(value_at(sheet, rows, later, cell)), goal[1])
+                self.assertEqual([plain(one) for one in what_if(sheet, rows, contents, cell, moving, [thing])], [goal[1]])
+            if len(moving) == 1 and steps == [] and abs(point[0]) <= 20:
+                self.assertEqual(first_with(sheet, rows, contents, goal, moving[0], -20, 20), point[0])
+            self.assertIsNone(bar(sheet, rows, contents, goal, moving))
+        self.assertGreater(led, 20)
+
+    def test_rounds_and_levels(self):
+        draw = Draw(606)
+        asked = 0
+        while asked < 40:
+            web, rows = draw.web(5), draw.number(0, 7)
+            if least_ring(web) is not None:
+                continue
+            asked += 1
+            told = levels(web, rows)
+            self.assertEqual(rounds(web, rows), max(list(told.values()) + [-1]) + 1)
+            for number in range(rounds(web, rows)):
+                for cell in round_cells(web, rows, number)[:2]:
+                    self.assertEqual(len(level_walk(web, rows, cell)), number + 1)
+
+    def test_forms_and_shares(self):
+        draw = Draw(607)
+        for _ in range(40):
+            sheet, rows = draw.rising_sheet(), draw.number(1, 6)
+            heads = with_input_heads(sheet)
+            for column in range(len(sheet)):
+                row = draw.number(0, rows - 1)
+                constant, head_weights, weights = shares(sheet, column, row)
+                told = {(at, -1): weight for at, weight in head_weights.items()}
+                told.update(weights)
+                self.assertEqual(form_at(heads, rows, (column, row)), (constant, told))
+
+    def test_shares_and_alike_columns(self):
+        draw = Draw(608)
+        pairs = 0
+        for _ in range(40):
+            sheet = draw.rising_sheet()
+            groups = {column: at for at, group in enumerate(alike_columns(sheet)) for column in group}
+            for one in range(len(sheet)):
+                for other in range(one):
+                    same = all(shares(sheet, one, row) == shares(sheet, other, row) for row in range(30))
+                    self.assertIs(are_alike(sheet, one, other), same)
+                    self.assertIs(groups[one] == groups[other], same)
+                    if same:
+                        pairs += 1
+                        flows = draw.flows(sheet, 4)
+                        for asked in (far_value, far_total):
+                            for row in (5, 10 ** 30):
+                                self.assertEqual(*[asked(sheet, flows, column, row, 10 ** 9) for column in (one, other)])
+        self.assertGreater(pairs, 3)
+
+    def test_far_levels_of_sheets(self):
+        draw = Draw(609)
+        for _ in range(30):
+            sheet = draw.rising_sheet()
+            web = web_of(sheet)
+            if all(edge[2] is not None for edge in web.edges()):
+                for column in range(len(sheet)):
+                    self.assertEqual(far_level(web, column, 12), levels(web, 20)[(column, 12)])
+                    self.assertLessEqual(far_level(web, column, 10 ** 30), 4 * (10 ** 30 + 1))
 
 
 class Whole(unittest.TestCase):
