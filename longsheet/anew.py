@@ -29,7 +29,7 @@ class Live:
         """The value of a cell."""
         if not is_address(self._of, self._long, address):
             raise NoCell(address)
-        return self._kept.known(address)
+        return self._kept.value_of(address)
 
     def put(self, address, number):
         """Changes what an input cell has; the ascending list of the addresses whose values have changed."""

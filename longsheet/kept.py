@@ -23,7 +23,7 @@ class Kept:
         """The contents, without empty cells."""
         return only_inputs(self._of, self._long, self._numbers)
 
-    def known(self, address):
+    def value_of(self, address):
         """The value of a cell."""
         return self._known[address]
 

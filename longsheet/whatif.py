@@ -21,7 +21,7 @@ def first_with(sheet, rows, contents, goal, one, low, high):
     kept = Kept(sheet, rows, contents)
     for number in range(low, high + 1):
         kept.change(one, number)
-        if plain(kept.known(address)) == wished:
+        if plain(kept.value_of(address)) == wished:
             return number
     return None
 
@@ -31,5 +31,5 @@ def _values_with(kept, address, moving, lists):
     for numbers in lists:
         for here, number in zip(moving, numbers):
             kept.change(here, number)
-        found.append(kept.known(address))
+        found.append(kept.value_of(address))
     return found
