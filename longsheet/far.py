@@ -29,7 +29,7 @@ def _far(sheet, flows, asked, row, modulus):
     if row < EVEN:
         return _first(asked, near) % modulus
     forms = _row_forms(sheet)
-    needed = needed_for(asked, lambda one: [other for other in _next_form(one, forms) if other[0] not in GIVEN])
+    needed = needed_for(asked, lambda thing: [other for other in _next_form(thing, forms) if other[0] not in GIVEN])
     vector = [_first(one, near) % modulus for one in needed] + [1]
     matrices = [_matrix(needed, forms, flows, EVEN + turn, modulus) for turn in range(_turns(flows))]
     block = matrices[0]

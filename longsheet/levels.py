@@ -53,7 +53,7 @@ def far_level(web, column, row):
     must_have_plan(web)
     forms = _row_forms(web)
     asked = ("level", column, 0)
-    needed = [UNIT] + needed_for(asked, lambda one: [other for other in _next_form(one, forms) if other != UNIT])
+    needed = [UNIT] + needed_for(asked, lambda thing: [other for other in _next_form(thing, forms) if other != UNIT])
     matrix = []
     for one in needed:
         form = _next_form(one, forms)

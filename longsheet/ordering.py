@@ -42,7 +42,7 @@ def reached_from(following, start):
 def ring_of(following, ordered):
     """A ring of keys that do not stand in their order."""
     done = {here: True for here in ordered}
-    here = [here for here in following if here not in done][0]
+    here = [key for key in following if key not in done][0]
     places, walk = {}, []
     # Each key without a place in the order hangs next on one without; in the end one of them comes again.
     while here not in places:

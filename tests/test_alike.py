@@ -13,26 +13,23 @@ from tests.things import NONE, Draw, nested, some_values
 
 class Alike(unittest.TestCase):
     def test_made_another_way(self):
-        for texts in (("sum(1, $2[0])", "sum($2[0], 1)"), ("$2[-1]", "times(1, $2[-1])"), ("$2[-2]", ">1[-2]"), ("sum(.[-1], $2[0])", "sum(.[-1], $2[0])"),
+        for texts in (("sum(1, $2[0])", "sum($2[0], 1)"), ("$2[-1]", "times(1, $2[-1])"), ("$2[-2]", ">1[-2]"), 
                       ("total($2[-2:0])", "sum($2[0], total($2[-2:-1]))"), ("total($2[:0])", "sum(total($2[:-1]), $2[0])"),
                       ("times(2, $2[0])", "sum($2[0], $2[0])"), ("3", "sum(1, times(2, 1))"), ("empty", "0"), ("empty", "times(0, $2[0])"),
                       ("sum(5, $0 head)", "sum($0 head, times(-1, -5))"), ("total($2[:-1])", "total($2[:-1])")):
             sheet = bodies(texts[0], texts[1], "input")
-            if texts[0][:6] == "sum(.[":
-                # The heads come in by the row ahead of the first one, so that these two part there.
-                self.assertEqual(parting(sheet, 0, 1), (0, ({0: 1}, {})))
-                continue
-            if texts[1].startswith(">"):
-                self.assertIs(are_alike(sheet, 0, 1), True)
             self.assertIs(are_alike(sheet, 0, 1), True, texts)
             self.assertIsNone(parting(sheet, 1, 0), texts)
             self.assertEqual(alike_columns(sheet)[0][:2], [0, 1])
 
+    def test_own_heads(self):
+        # The same text, but each has a head of its own in the row ahead of the first one.
+        self.assertEqual(parting(bodies("sum(.[-1], $2[0])", "sum(.[-1], $2[0])", "input"), 0, 1), (0, ({0: 1}, {})))
+
     def test_a_running_total_by_two_ways(self):
         # The head goes in where the row ahead is named, and is taken out again.
-        sheet = bodies("input", "sum(total(.[:-1]), 0)".replace("total(.[:-1])", "total($0[:0])"), "sum(.[-1], $0[0], times(-1, $3[0]))", "sum($2 head, times(-1, .[-1]), $3 head)")
-        told = parting(sheet, 1, 2)
-        self.assertIs(is_parting(sheet, 1, 2, told), True)
+        sheet = bodies("input", "total($0[:0])", "sum(.[-1], $0[0])", "sum($2[0], times(-1, $2 head))")
+        self.assertEqual([parting(sheet, 1, 2), parting(sheet, 1, 3)], [(0, ({2: 1}, {})), None])
         sheet = bodies("input", "total($0[:0])", "sum(total($0[:-1]), $0[0])", "sum(total($0[:-3]), total($0[-2:0]))")
         self.assertEqual(alike_columns(sheet), [[0], [1, 2, 3]])
 
@@ -46,6 +43,16 @@ class Alike(unittest.TestCase):
             self.assertEqual(parting(sheet, 0, 1), told, (one, other))
             self.assertEqual(parting(sheet, 1, 0), told)
             self.assertIs(are_alike(sheet, 0, 1), False)
+            self.assertIs(is_parting(sheet, 0, 1, told), True)
+
+    def test_what_both_have_parts_nothing(self):
+        for one, other, told in (("sum($0 head, $1 head)", "sum($0 head, $2 head)", (0, ({1: 1}, {}))),
+                                 ("sum($0 head, $3[0])", "sum($0 head, times(2, $3[0]))", (0, ({}, {3: [1]}))),
+                                 ("sum($2[0], $3[0])", "sum($2[0], $3[0], $3[0])", (0, ({}, {3: [1]}))),
+                                 ("sum(1, $0 head, $2[-1])", "sum(1, $0 head, times(3, $2[-1]))", (0, ({2: 1}, {}))),
+                                 ("total($3[-1:0])", "sum($3[0], times(2, $3[-1]), times(-1, $3 head))", (0, ({3: 1}, {})))):
+            sheet = bodies(one, other, "input", "input")
+            self.assertEqual(parting(sheet, 0, 1), told)
             self.assertIs(is_parting(sheet, 0, 1, told), True)
 
     def test_parting_far_down(self):

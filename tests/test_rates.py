@@ -108,6 +108,17 @@ class Rates(unittest.TestCase):
             self.assertIs(is_rate_paper(Web(1, []), [0], thing), False)
             self.assertIs(is_rate_paper(Web(1, [(0, 0, 0, 0)]), [0], thing), False)
 
+    def test_papers_of_other_parts(self):
+        web = Web(2, [(0, 0, -2, -2), (1, 1, -1, -1)])
+        own, other = ([((0, 0, -2, -2), -2)], {0: 0}), ([((1, 1, -1, -1), -1)], {0: 0})
+        self.assertEqual([is_rate_paper(web, [0], thing) for thing in (own, other)], [True, False])
+        self.assertIs(is_rate_paper(web, [1], ([((1, 1, -1, -1), -1)], {1: 0})), True)
+
+    def test_papers_of_parts_that_are_rings(self):
+        for edge in ((0, 0, 0, 0), (0, 0, None, None), (0, 0, -1, 1), (0, 0, -1, None), (0, 0, None, 1), (0, 0, None, 0)):
+            for distance in (-1, 0, 1):
+                self.assertIs(is_rate_paper(Web(1, [edge]), [0], ([(edge, distance)], {0: 0})), False, edge)
+
     def test_ends_of_no_use(self):
         web = Web(1, [(0, 0, None, -2)])
         self.assertEqual(rate_paper(web, [0]), ([((0, 0, None, -2), -2)], {0: 0}))

@@ -56,6 +56,17 @@ class IsRising(unittest.TestCase):
                      "times(2, sum(1, most(2)))", ".[0]", "total(.[:0])", "total(.[-1:0])", "sum(.[-1], .[0])"):
             self.check(False, "input", text)
 
+    def test_ranges_of_other_columns(self):
+        for text in ("total($0[-1:1])", "total($0[:1])", "total($0[:])", "total($0[0:])", "total($0[1:1])", "total($0[-4:0])", "total($0[-5:-4])",
+                     "total($0[:-4])", "$0[1]", "$0[-4]", "$0[5]"):
+            sheet = bodies("input", text)
+            self.assertIs(is_rising(sheet), False, text)
+            with self.assertRaises(NotLinear) as caught:
+                first_values(sheet, ({}, {}), 1)
+            self.assertEqual(caught.exception.address, (1, 0))
+        for text in ("total($0[-3:0])", "total($0[:0])", "total($0[0:0])", "total($0[:-3])", "total($0[-3:-3])", "$0[0]", "$0[-3]"):
+            self.assertIs(is_rising(bodies("input", text)), True, text)
+
     def test_rings_in_a_row(self):
         self.check(False, ">1[0]", "<1[0]")
         self.check(False, ">1[0]", "total($0[:0])")
