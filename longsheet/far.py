@@ -32,13 +32,14 @@ def _far(sheet, flows, asked, row, modulus):
     needed = needed_for(asked, lambda thing: [other for other in _next_form(thing, forms) if other[0] not in GIVEN])
     vector = [_first(one, near) % modulus for one in needed] + [1]
     matrices = [_matrix(needed, forms, flows, EVEN + turn, modulus) for turn in range(_turns(flows))]
+    once = lambda lines, told: _once(lines, told, modulus)
     block = matrices[0]
     for matrix in matrices[1:]:
-        block = joined(matrix, block, lambda lines, told: _once(lines, told, modulus))
+        block = joined(matrix, block, once)
     times = row - EVEN + 1
-    vector = applied(block, vector, times // len(matrices), lambda lines, told: _once(lines, told, modulus))
+    vector = applied(block, vector, times // len(matrices), once)
     for matrix in matrices[:times % len(matrices)]:
-        vector = _once(matrix, vector, modulus)
+        vector = once(matrix, vector)
     return vector[0]
 
 

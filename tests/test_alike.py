@@ -15,7 +15,8 @@ class Alike(unittest.TestCase):
     def test_made_another_way(self):
         for texts in (("sum(1, $2[0])", "sum($2[0], 1)"), ("$2[-1]", "times(1, $2[-1])"), ("$2[-2]", ">1[-2]"), 
                       ("total($2[-2:0])", "sum($2[0], total($2[-2:-1]))"), ("total($2[:0])", "sum(total($2[:-1]), $2[0])"),
-                      ("times(2, $2[0])", "sum($2[0], $2[0])"), ("3", "sum(1, times(2, 1))"), ("empty", "0"), ("empty", "times(0, $2[0])"),
+                      ("times(2, $2[0])", "sum($2[0], $2[0])"), ("3", "sum(1, times(2, 1))"), ("empty", "0"),
+                      ("empty", "times(0, $2[0])"),
                       ("sum(5, $0 head)", "sum($0 head, times(-1, -5))"), ("total($2[:-1])", "total($2[:-1])")):
             sheet = bodies(texts[0], texts[1], "input")
             self.assertIs(are_alike(sheet, 0, 1), True, texts)
@@ -35,10 +36,14 @@ class Alike(unittest.TestCase):
 
     def test_but_for_a_number_or_a_distance(self):
         for one, other, told in (
-                ("3", "4", (0, ({}, {}))), ("times(2, $2[0])", "times(3, $2[0])", (0, ({}, {2: [1]}))), ("$2[-1]", "$2[0]", (0, ({2: 1}, {}))),
-                ("total($2[:-1])", "total($2[-3:-1])", (4, ({}, {2: [1, 0, 0, 0, 0]}))), ("$0 head", "$1 head", (0, ({0: 1}, {}))),
-                ("total($2[-2:0])", "total($2[-1:0])", (2, ({}, {2: [1, 0, 0]}))), ("sum($2[-2], $2[-1])", "sum($2[-3], $2[-1])", (1, ({2: 1}, {}))),
-                ("total($2[:-2])", "total($2[:-3])", (2, ({}, {2: [1, 0, 0]}))), ("sum(1, $0 head)", "sum(2, times(0, $0 head))", (0, ({}, {})))):
+                ("3", "4", (0, ({}, {}))), ("times(2, $2[0])", "times(3, $2[0])", (0, ({}, {2: [1]}))),
+                ("$2[-1]", "$2[0]", (0, ({2: 1}, {}))),
+                ("total($2[:-1])", "total($2[-3:-1])", (4, ({}, {2: [1, 0, 0, 0, 0]}))),
+                ("$0 head", "$1 head", (0, ({0: 1}, {}))),
+                ("total($2[-2:0])", "total($2[-1:0])", (2, ({}, {2: [1, 0, 0]}))),
+                ("sum($2[-2], $2[-1])", "sum($2[-3], $2[-1])", (1, ({2: 1}, {}))),
+                ("total($2[:-2])", "total($2[:-3])", (2, ({}, {2: [1, 0, 0]}))),
+                ("sum(1, $0 head)", "sum(2, times(0, $0 head))", (0, ({}, {})))):
             sheet = bodies(one, other, "input")
             self.assertEqual(parting(sheet, 0, 1), told, (one, other))
             self.assertEqual(parting(sheet, 1, 0), told)
@@ -61,7 +66,8 @@ class Alike(unittest.TestCase):
         self.assertEqual(parting(sheet, 2, 3), (6, ({}, {0: [1] + [0] * 6})))
         self.assertEqual(parting(sheet, 3, 0), (0, ({}, {0: [1]})))
         sheet = bodies("sum(.[-3], times(-1, total(.[-3:-3])))", "total($0[-3:-3])", "total($1[-3:-3])", "empty")
-        self.assertEqual([parting(sheet, 2, 3), parting(sheet, 1, 3), parting(sheet, 0, 3)], [(8, ({0: 1}, {})), (5, ({0: 1}, {})), (2, ({0: 1}, {}))])
+        self.assertEqual([parting(sheet, 2, 3), parting(sheet, 1, 3), parting(sheet, 0, 3)],
+                         [(8, ({0: 1}, {})), (5, ({0: 1}, {})), (2, ({0: 1}, {}))])
         sheet = bodies("1", "total($0[-3:-3])", "total($1[-3:-3])", "total($2[-3:-3])")
         self.assertEqual([parting(sheet, 3, 2), parting(sheet, 2, 1)], [(6, ({}, {})), (3, ({}, {}))])
 
@@ -95,7 +101,8 @@ class Alike(unittest.TestCase):
         for _ in range(30):
             columns = draw.rising_sheet(2).columns()
             many = len(columns)
-            more = [(NONE, ("times", 1, ("sum", (("name", ("at", draw.number(0, many - 1)), ("by", 0)), NONE))), NONE) for _ in range(2)]
+            more = [(NONE, ("times", 1, ("sum", (("name", ("at", draw.number(0, many - 1)), ("by", 0)), NONE))),
+                     NONE) for _ in range(2)]
             sheet = Sheet(columns + more)
             groups = alike_columns(sheet)
             self.assertEqual(sorted(column for group in groups for column in group), list(range(len(sheet))))
@@ -122,12 +129,16 @@ class IsParting(unittest.TestCase):
     SHEET = bodies("input", "$0[-1]", "3", "$2 head")
 
     def test_told(self):
-        for one, other, thing in ((0, 1, (0, ({0: 1}, {}))), (0, 1, (5, ({}, {0: [1, 2]}))), (0, 1, (60, ({}, {0: list(range(61))}))), (2, 3, (0, ({}, {}))),
+        for one, other, thing in ((0, 1, (0, ({0: 1}, {}))), (0, 1, (5, ({}, {0: [1, 2]}))),
+                                  (0, 1, (60, ({}, {0: list(range(61))}))), (2, 3, (0, ({}, {}))),
                                   (2, 3, (60, ({2: 4}, {0: [7]}))), (1, 0, (0, ({}, {0: [1]})))):
             self.assertIs(is_parting(self.SHEET, one, other, thing), True, thing)
-        for one, other, thing in ((0, 1, (0, ({}, {}))), (0, 1, (5, ({}, {0: [4]}))), (2, 3, (0, ({2: 3}, {}))), (0, 0, (0, ({0: 1}, {}))), (2, 3, (61, ({}, {}))),
-                                  (2, 3, (-1, ({}, {}))), (2, 3, (False, ({}, {}))), (2, 3, (None, ({}, {}))), (2, 3, [0, ({}, {})]), (2, 3, (0, {})),
-                                  (2, 3, (0, ({}, {2: [1]}))), (2, 3, (0, ({4: 1}, {}))), (2, 3, (0, ({}, {0: []}))), (2, 3, (0, ({}, {}), 0)), (2, 3, None)):
+        for one, other, thing in ((0, 1, (0, ({}, {}))), (0, 1, (5, ({}, {0: [4]}))), (2, 3, (0, ({2: 3}, {}))),
+                                  (0, 0, (0, ({0: 1}, {}))), (2, 3, (61, ({}, {}))),
+                                  (2, 3, (-1, ({}, {}))), (2, 3, (False, ({}, {}))), (2, 3, (None, ({}, {}))),
+                                  (2, 3, [0, ({}, {})]), (2, 3, (0, {})),
+                                  (2, 3, (0, ({}, {2: [1]}))), (2, 3, (0, ({4: 1}, {}))), (2, 3, (0, ({}, {0: []}))),
+                                  (2, 3, (0, ({}, {}), 0)), (2, 3, None)):
             self.assertIs(is_parting(self.SHEET, one, other, thing), False, thing)
 
     def test_any_value(self):
@@ -137,10 +148,14 @@ class IsParting(unittest.TestCase):
 
 class Errors(unittest.TestCase):
     def test_in_their_order(self):
-        for sheet, error, field in ((bodies("1", ".[1]", "most()"), NotLinear, (1, 0)), (bodies(".[0]", "1"), NoPlan, 1), (bodies("$1[0]", "$0[0]"), NoPlan, 1),
-                                    (bodies(".[0]", ".[-4]"), NotLinear, (1, 0)), (bodies(".[0]", ".[-4]", "1", "1", "1"), NotLinear, (4, 0))):
-            for asked in (lambda: are_alike(sheet, 0, 1), lambda: are_alike(sheet, 0, 0), lambda: parting(sheet, 0, 1), lambda: is_parting(sheet, 0, 1, None),
-                          lambda: is_parting(sheet, 0, 1, (0, ({}, {}))), lambda: alike_columns(sheet), lambda: plain_column(sheet, 0)):
+        for sheet, error, field in ((bodies("1", ".[1]", "most()"), NotLinear, (1, 0)), (bodies(".[0]", "1"), NoPlan, 1),
+                                    (bodies("$1[0]", "$0[0]"), NoPlan, 1),
+                                    (bodies(".[0]", ".[-4]"), NotLinear, (1, 0)),
+                                    (bodies(".[0]", ".[-4]", "1", "1", "1"), NotLinear, (4, 0))):
+            for asked in (lambda: are_alike(sheet, 0, 1), lambda: are_alike(sheet, 0, 0), lambda: parting(sheet, 0, 1),
+                          lambda: is_parting(sheet, 0, 1, None),
+                          lambda: is_parting(sheet, 0, 1, (0, ({}, {}))), lambda: alike_columns(sheet),
+                          lambda: plain_column(sheet, 0)):
                 with self.assertRaises(error) as caught:
                     asked()
                 self.assertEqual(list(vars(caught.exception).values()), [field])

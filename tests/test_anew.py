@@ -10,7 +10,8 @@ from tests.test_reckoning import sheet_of
 from tests.things import FAR, NONE, Draw, nested, some_values
 
 # The balance of what is paid in, row by row, and what lies on a ring or hangs on one.
-PAID = sheet_of("input | sum(.[-1], >1[0]) | . last 0", "empty | input | total(.[:])", "sum(. head, $0 head) | sum(<1[0], . head) | 7")
+PAID = sheet_of("input | sum(.[-1], >1[0]) | . last 0", "empty | input | total(.[:])",
+                "sum(. head, $0 head) | sum(<1[0], . head) | 7")
 
 
 def told(live, sheet, rows):
@@ -55,7 +56,8 @@ class Lives(unittest.TestCase):
                 Live(PAID, rows, None)
             self.assertEqual(caught.exception.place, 1)
         for contents in [thing for thing in some_values() if thing != {} or not isinstance(thing, dict)] + [
-                {(0, 0): 1}, {(1, 0): True}, {(1, 0): FAR + 1}, {(1, 2): 1}, {(1, 0): None}, {(True, 0): 1}, {(0, -1): 1, (1, -1): 2}]:
+                {(0, 0): 1}, {(1, 0): True}, {(1, 0): FAR + 1}, {(1, 2): 1}, {(1, 0): None}, {(True, 0): 1},
+                {(0, -1): 1, (1, -1): 2}]:
             with self.assertRaises(Wrong) as caught:
                 Live(PAID, 2, contents)
             self.assertEqual(caught.exception.place, 2)
@@ -68,7 +70,8 @@ class Lives(unittest.TestCase):
         self.assertEqual([live.value((0, 2)), list(live.contents().items())], [14, [((0, -1), 10), ((1, 1), 4)]])
         live.contents()[(1, 0)] = 5
         live.worked().append(1)
-        self.assertEqual([live.contents(), live.worked(), live.put((1, 0), 5)], [{(0, -1): 10, (1, 1): 4}, [], [(0, 0), (0, 1), (0, 2), (1, 0), (1, 2)]])
+        self.assertEqual([live.contents(), live.worked(), live.put((1, 0), 5)],
+                         [{(0, -1): 10, (1, 1): 4}, [], [(0, 0), (0, 1), (0, 2), (1, 0), (1, 2)]])
 
     def test_put(self):
         live = Live(PAID, 2, {})
@@ -89,7 +92,8 @@ class Lives(unittest.TestCase):
         live = Live(PAID, 2, {(1, 0): 3})
         live.put((1, 1), 5)
         kept = [live.worked(), live.contents(), told(live, PAID, 2)]
-        for address in some_values() + [(0, 0), (1, 2), (1, -1), (2, 0), (3, 0), (1, 3), (1, True), (True, 0), (0, -2), [1, 0], nested(30)]:
+        for address in some_values() + [(0, 0), (1, 2), (1, -1), (2, 0), (3, 0), (1, 3), (1, True), (True, 0), (0, -2), [1, 0],
+                                        nested(30)]:
             for number in (1, True):
                 with self.assertRaises(NoInput) as caught:
                     live.put(address, number)

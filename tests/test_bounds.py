@@ -156,7 +156,8 @@ class SheetChains(unittest.TestCase):
     def test_levels(self):
         cells = [(column, row) for row in range(30) for column in ALL]
         self.assertEqual([levels(CHAIN, 30)[cell] for cell in cells], list(range(240)))
-        self.assertEqual([level(CHAIN, 30, (7, 29)), rounds(CHAIN, 30), busiest(CHAIN, 30), round_cells(CHAIN, 30, 239)], [239, 240, 1, [(7, 29)]])
+        self.assertEqual([level(CHAIN, 30, (7, 29)), rounds(CHAIN, 30), busiest(CHAIN, 30), round_cells(CHAIN, 30, 239)],
+                         [239, 240, 1, [(7, 29)]])
         self.assertEqual(level_walk(CHAIN, 30, (7, 29)), cells[::-1])
         self.assertEqual(far_level(CHAIN, 7, 10 ** 30), 8 * 10 ** 30 + 7)
         self.assertEqual([rate(CHAIN, ALL), rate(~CHAIN, ALL)], [(8, 1), (8, 1)])

@@ -35,7 +35,8 @@ class Shown(unittest.TestCase):
             self.assertEqual(read_levels(text), told)
             self.assertIs(draws(web, read_levels(text)), True)
             self.assertEqual(show_rounds(web, rows), "".join(
-                " ".join(f"{column}:{row}" for column, row in round_cells(web, rows, number)) + "\n" for number in range(rounds(web, rows))))
+                " ".join(f"{column}:{row}" for column, row in round_cells(web, rows,
+                                                                          number)) + "\n" for number in range(rounds(web, rows))))
             for at in range(rows):
                 for column in range(len(web)):
                     for change in (-1, 1):
@@ -45,18 +46,23 @@ class Shown(unittest.TestCase):
             if rows:
                 # With a row less or more it is that of this number of rows, or of none.
                 self.assertIs(draws(web, told[:-1]), read_levels(show_levels(web, rows - 1)) == told[:-1])
-                self.assertIs(draws(web, told + [[0] * len(web)]), read_levels(show_levels(web, rows + 1)) == told + [[0] * len(web)])
+                self.assertIs(draws(web, told + [[0] * len(web)]), read_levels(show_levels(web,
+                                                                                           rows + 1)) == told + [[0] * len(web)])
 
 
 class Read(unittest.TestCase):
     def test_texts(self):
-        for text, told in (("", []), ("0\n", [[0]]), ("0 1\n0 1\n", [[0, 1], [0, 1]]), ("999999 10 0\n", [[999999, 10, 0]]), ("5\n6\n7\n", [[5], [6], [7]])):
+        for text, told in (("", []), ("0\n", [[0]]), ("0 1\n0 1\n", [[0, 1], [0, 1]]), ("999999 10 0\n", [[999999, 10, 0]]),
+                           ("5\n6\n7\n", [[5], [6], [7]])):
             self.assertEqual(read_levels(text), told)
 
     def test_no_texts(self):
-        for text, line in (("0", 1), ("\n", 1), (" \n", 1), ("0 \n", 1), (" 0\n", 1), ("0  1\n", 1), ("00\n", 1), ("01\n", 1), ("1000000\n", 1), ("0000001\n", 1),
-                           ("-1\n", 1), ("+1\n", 1), ("a\n", 1), ("1.5\n", 1), ("1_0\n", 1), ("0,1\n", 1), ("0\t1\n", 1), ("0\r\n", 1), ("0 1\n0\n", 2), ("0\n0 1\n", 2),
-                           ("0 1\n\n0 1\n", 2), ("0 1\n0 1", 2), ("0 1\n0 1\n0 x\n0", 3), ("0 1\n0 x", 2), ("0\n0\n\n", 3), ("0\n ", 2), ("0 1\n2\n3 x\n", 2),
+        for text, line in (("0", 1), ("\n", 1), (" \n", 1), ("0 \n", 1), (" 0\n", 1), ("0  1\n", 1), ("00\n", 1), ("01\n", 1),
+                           ("1000000\n", 1), ("0000001\n", 1),
+                           ("-1\n", 1), ("+1\n", 1), ("a\n", 1), ("1.5\n", 1), ("1_0\n", 1), ("0,1\n", 1), ("0\t1\n", 1),
+                           ("0\r\n", 1), ("0 1\n0\n", 2), ("0\n0 1\n", 2),
+                           ("0 1\n\n0 1\n", 2), ("0 1\n0 1", 2), ("0 1\n0 1\n0 x\n0", 3), ("0 1\n0 x", 2), ("0\n0\n\n", 3),
+                           ("0\n ", 2), ("0 1\n2\n3 x\n", 2),
                            ("0 1\n2 3\n4 5\n6 7", 4), ("\n0\n", 1), ("0\n1\nx", 3), ("\u0660\n", 1), ("\u00b2\n", 1)):
             with self.assertRaises(NoText, msg=repr(text)) as caught:
                 read_levels(text)
@@ -84,7 +90,8 @@ class Read(unittest.TestCase):
 class Draws(unittest.TestCase):
     def test_any_value(self):
         self.assertIs(draws(WEB, []), True)
-        for thing in ([[0, 1], [0, True]], [[False, 1]], [(0, 1)], ([0, 1],), [[0]], [[0, 1, 0]], [[0, 1], []], [[]], [[0, None]], [[0, "1"]], "0 1\n", {}, None):
+        for thing in ([[0, 1], [0, True]], [[False, 1]], [(0, 1)], ([0, 1],), [[0]], [[0, 1, 0]], [[0, 1], []], [[]],
+                      [[0, None]], [[0, "1"]], "0 1\n", {}, None):
             self.assertIs(draws(WEB, thing), False, thing)
         self.assertIs(draws(WEB, [[0, 1], [0, 1]]), True)
         for thing in some_values() + [nested(30)]:
@@ -97,7 +104,8 @@ class Draws(unittest.TestCase):
 
     def test_no_plan(self):
         for web, length in ((Web(1, [(0, 0, 0, 0)]), 1), (Web(2, [(0, 1, 2, 2), (1, 0, -2, -2)]), 3)):
-            for asked in (lambda: show_levels(web, 0), lambda: show_rounds(web, 0), lambda: draws(web, []), lambda: draws(web, None), lambda: show_rounds(web, 9)):
+            for asked in (lambda: show_levels(web, 0), lambda: show_rounds(web, 0), lambda: draws(web, []),
+                          lambda: draws(web, None), lambda: show_rounds(web, 9)):
                 with self.assertRaises(NoPlan) as caught:
                     asked()
                 self.assertEqual(caught.exception.length, length)

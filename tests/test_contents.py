@@ -15,9 +15,12 @@ class Contents(unittest.TestCase):
     def test_is_contents(self):
         for thing in ({}, {(0, 0): 5}, {(1, -1): -FAR, (0, 1): FAR}, {(0, 1): 0, (0, 0): 0}):
             self.assertIs(is_contents(SHEET, 2, thing), True, thing)
-        for thing in ({(0, 0): FAR + 1}, {(0, 0): -FAR - 1}, {(0, 0): True}, {(0, 0): None}, {(0, 0): "1"}, {(0, 2): 1}, {(0, -1): 1},
-                      {(1, 0): 1}, {(1, 2): 1}, {(2, 0): 1}, {(-1, 0): 1}, {(0, 3): 1}, {(0, -2): 1}, {(False, 0): 1}, {(0, False): 1},
-                      {(1, -1, 0): 1}, {0: 1}, {"0": 1}, {None: 1}, {((0, 0),): 1}, {(0, 0): 5, (0, 2): 1}, [((0, 0), 5)], ((0, 0), 5)):
+        for thing in ({(0, 0): FAR + 1}, {(0, 0): -FAR - 1}, {(0, 0): True}, {(0, 0): None}, {(0, 0): "1"}, {(0, 2): 1},
+                      {(0, -1): 1},
+                      {(1, 0): 1}, {(1, 2): 1}, {(2, 0): 1}, {(-1, 0): 1}, {(0, 3): 1}, {(0, -2): 1}, {(False, 0): 1},
+                      {(0, False): 1},
+                      {(1, -1, 0): 1}, {0: 1}, {"0": 1}, {None: 1}, {((0, 0),): 1}, {(0, 0): 5, (0, 2): 1}, [((0, 0), 5)],
+                      ((0, 0), 5)):
             self.assertIs(is_contents(SHEET, 2, thing), False, thing)
         self.assertEqual([is_contents(SHEET, rows, {(0, 0): 1}) for rows in (0, 1, 30)], [False, True, True])
         self.assertIs(is_contents(Sheet([]), 3, {}), True)
@@ -27,7 +30,8 @@ class Contents(unittest.TestCase):
     def test_only_inputs(self):
         told = only_inputs(SHEET, 2, {(1, -1): 4, (0, 2): 9, (0, 1): 3, (7, 0): 1, (0, -1): 2, (0, 0): 0, (0, 5): 6, (1, 0): 7})
         self.assertEqual(list(told.items()), [((0, 0), 0), ((0, 1), 3), ((1, -1), 4)])
-        self.assertEqual([only_inputs(SHEET, 0, {(0, 0): 1, (1, -1): 2}), only_inputs(Sheet([]), 4, {(0, 0): 1}), only_inputs(SHEET, 1, {})],
+        self.assertEqual([only_inputs(SHEET, 0, {(0, 0): 1, (1, -1): 2}), only_inputs(Sheet([]), 4, {(0, 0): 1}),
+                          only_inputs(SHEET, 1, {})],
                          [{(1, -1): 2}, {}, {}])
         passed = {(0, 0): 1}
         self.assertIsNot(only_inputs(SHEET, 2, passed), passed)

@@ -29,7 +29,8 @@ class Near(unittest.TestCase):
                     for modulus in (draw.one(MODULI), draw.number(1, 10 ** 9)):
                         value, total = told[row][column], sum(line[column] for line in told[:row + 1])
                         below += value < 0
-                        self.assertEqual(far_value(sheet, flows, column, row, modulus), value % modulus, (sheet.columns(), flows, row))
+                        self.assertEqual(far_value(sheet, flows, column, row, modulus), value % modulus,
+                                         (sheet.columns(), flows, row))
                         self.assertEqual(far_total(sheet, flows, column, row, modulus), total % modulus)
         self.assertGreater(below, 100)
 
@@ -38,7 +39,8 @@ class Near(unittest.TestCase):
         flows = ({0: 5, 1: -4, 2: 3}, {0: [1, -2, 3, 4]})
         told = first_values(sheet, flows, 60)
         for row in range(60):
-            self.assertEqual([far_value(sheet, flows, column, row, 10 ** 9) for column in range(3)], [one % 10 ** 9 for one in told[row]])
+            self.assertEqual([far_value(sheet, flows, column, row, 10 ** 9) for column in range(3)],
+                             [one % 10 ** 9 for one in told[row]])
             self.assertEqual([far_total(sheet, flows, column, row, 997) for column in range(3)],
                              [sum(line[column] for line in told[:row + 1]) % 997 for column in range(3)])
 
@@ -51,7 +53,8 @@ class Near(unittest.TestCase):
 
 class Far(unittest.TestCase):
     def test_told(self):
-        self.assertEqual(far_value(bodies("sum(times(2, .[-1]), 1)"), ({}, {}), 0, FAR, 10 ** 9), (pow(2, FAR + 1, 10 ** 9) - 1) % 10 ** 9)
+        self.assertEqual(far_value(bodies("sum(times(2, .[-1]), 1)"), ({}, {}), 0, FAR, 10 ** 9),
+                         (pow(2, FAR + 1, 10 ** 9) - 1) % 10 ** 9)
         self.assertEqual(far_value(bodies("5"), ({}, {}), 0, FAR, 3), 2)
         lists = ({}, {0: [1, 2, 3, 4]})
         self.assertEqual([far_value(bodies("input"), lists, 0, FAR + more, 10) for more in range(4)], [1, 2, 3, 4])
@@ -116,14 +119,17 @@ class Far(unittest.TestCase):
         sheet = bodies(*[f"sum({', '.join(names[turn:] + names[:turn])}, total($0[:-3]))" for turn in range(4)])
         flows = ({column: column + 1 for column in range(4)}, {})
         told = first_values(sheet, flows, 60)
-        self.assertEqual([far_value(sheet, flows, column, 59, 10 ** 9) for column in range(4)], [one % 10 ** 9 for one in told[59]])
+        self.assertEqual([far_value(sheet, flows, column, 59, 10 ** 9) for column in range(4)],
+                         [one % 10 ** 9 for one in told[59]])
         self.assertIn(far_value(sheet, flows, 3, FAR, 10 ** 9), range(10 ** 9))
 
 
 class Errors(unittest.TestCase):
     def test_in_their_order(self):
-        for sheet, error, field in ((bodies("1", ".[1]", "most()"), NotLinear, (1, 0)), (bodies(".[0]"), NoPlan, 1), (bodies("$1[0]", "$0[0]"), NoPlan, 1),
-                                    (bodies(".[0]", ".[-4]"), NotLinear, (1, 0)), (bodies(".[0]", ".[-4]", "1", "1", "1"), NotLinear, (4, 0))):
+        for sheet, error, field in ((bodies("1", ".[1]", "most()"), NotLinear, (1, 0)), (bodies(".[0]"), NoPlan, 1),
+                                    (bodies("$1[0]", "$0[0]"), NoPlan, 1),
+                                    (bodies(".[0]", ".[-4]"), NotLinear, (1, 0)),
+                                    (bodies(".[0]", ".[-4]", "1", "1", "1"), NotLinear, (4, 0))):
             for asked in (far_value, far_total):
                 for row in (0, FAR):
                     with self.assertRaises(error) as caught:

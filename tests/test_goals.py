@@ -30,7 +30,8 @@ class Forms(unittest.TestCase):
         self.assertEqual(form_at(sheet, 0, (0, 0)), (0, {(0, -1): 1}))
 
     def test_not_linear(self):
-        sheet = sheet_of("input | most(. head) | sum(. last 0, 1)", "?  head | <1[-1] | total(<1[:])".replace("  ", " "), "empty | ?[0] | total(.[:])",
+        sheet = sheet_of("input | most(. head) | sum(. last 0, 1)", "?  head | <1[-1] | total(<1[:])".replace("  ", " "),
+                         "empty | ?[0] | total(.[:])",
                          "empty | total($9[:]) | 4", "empty | .[0] | sum(. last 0, 1)", "$7 head | . head | empty")
         for rows, linear in ((0, {(0, -1), (0, 0), (1, 0), (2, -1), (2, 0), (3, -1), (3, 0), (4, -1), (4, 0), (5, 0)}),
                              (1, {(0, -1), (1, 0), (2, -1), (3, -1), (3, 1), (4, -1), (5, 1)})):
@@ -38,8 +39,10 @@ class Forms(unittest.TestCase):
                 if address in linear:
                     form_at(sheet, rows, address)
                 else:
-                    for asked in (lambda: form_at(sheet, rows, address), lambda: is_solution(sheet, rows, {}, (address, 1), [], None),
-                                  lambda: solutions(sheet, rows, {}, (address, 1), []), lambda: bar(sheet, rows, {}, (address, 1), []),
+                    for asked in (lambda: form_at(sheet, rows, address),
+                                  lambda: is_solution(sheet, rows, {}, (address, 1), [], None),
+                                  lambda: solutions(sheet, rows, {}, (address, 1), []),
+                                  lambda: bar(sheet, rows, {}, (address, 1), []),
                                   lambda: is_bar(sheet, rows, {}, (address, 1), [], None)):
                         with self.assertRaises(NotLinear, msg=(rows, address)) as caught:
                             asked()
@@ -71,7 +74,8 @@ class Forms(unittest.TestCase):
                     continue
                 linear += 1
                 self.assertFalse(({address} | reckoner.hanging(sheet, rows, address)) & rings)
-                self.assertEqual(plain(told[address]), constant + sum(weight * contents.get(at, 0) for at, weight in weights.items()))
+                self.assertEqual(plain(told[address]), constant + sum(weight * contents.get(at, 0) for at,
+                                                                      weight in weights.items()))
                 self.assertEqual(list(weights), sorted(weights))
                 self.assertTrue(0 not in weights.values() and set(weights) <= set(sheet.inputs(rows)))
         self.assertGreater(linear, 500)
@@ -172,7 +176,8 @@ class Solutions(unittest.TestCase):
         for thing in ([2, 0, 0], [0, -3, 0], [1, 4, 11 - 9 + 0], [-3, 0, 3], [10 ** 30 * 5 + 2, 0, -3 * 10 ** 30]):
             right = 6 * thing[0] - 4 * thing[1] + 10 * thing[2] + 1 == 13
             self.assertIs(is_solution(SUMS, 1, {}, goal, INPUTS, thing), right, thing)
-        for thing in ([2, 0], [2, 0, 0, 0], (2, 0, 0), [2, False, 0], [2, None, 0], [2, "0", 0], [[2, 0, 0]], [], None, {0: 2, 1: 0, 2: 0}):
+        for thing in ([2, 0], [2, 0, 0, 0], (2, 0, 0), [2, False, 0], [2, None, 0], [2, "0", 0], [[2, 0, 0]], [], None,
+                      {0: 2, 1: 0, 2: 0}):
             self.assertIs(is_solution(SUMS, 1, {}, goal, INPUTS, thing), False, thing)
         for thing in some_values() + [nested(30)]:
             self.assertIs(is_solution(SUMS, 1, {}, goal, INPUTS, thing), False, thing)
@@ -184,13 +189,15 @@ class Bars(unittest.TestCase):
         # The weights 6 and 10: what is lacking is 13.
         moving, goal = [(0, -1), (1, -1)], (FOOT, 14)
         self.assertEqual(bar(SUMS, 1, {}, goal, moving), 2)
-        for thing, right in ((2, True), (1, False), (0, False), (-2, False), (3, False), (6, False), (True, False), ("2", False), ([2], False), (None, False)):
+        for thing, right in ((2, True), (1, False), (0, False), (-2, False), (3, False), (6, False), (True, False), ("2", False),
+                             ([2], False), (None, False)):
             self.assertIs(is_bar(SUMS, 1, {}, goal, moving, thing), right, thing)
         # Of the weight 6 alone, 2, 3 and 6 are bars of 13, 2 and 6 of 9, and 6 and 3 of 4.
         for number, bars in ((14, [2, 3, 6]), (10, [2, 6]), (5, [3, 6]), (7, []), (1, [])):
             for thing in range(-7, 14):
                 self.assertIs(is_bar(SUMS, 1, {}, (FOOT, number), [(0, -1)], thing), thing in bars, (number, thing))
-        for number, thing, right in ((1, 0, False), (2, 0, True), (2, 5, False), (2, 2, False), (2, False, False), (4, -1, False)):
+        for number, thing, right in ((1, 0, False), (2, 0, True), (2, 5, False), (2, 2, False), (2, False, False),
+                                     (4, -1, False)):
             self.assertIs(is_bar(SUMS, 1, {}, (FOOT, number), [(2, -1)], thing), right)
         for thing in some_values() + [nested(30)]:
             self.assertIs(is_bar(SUMS, 1, {}, goal, moving, thing), False, thing)
@@ -235,7 +242,8 @@ class Whole(unittest.TestCase):
                     self.assertEqual(plain(other[cell]) - plain(one[cell]), weight)
 
     def test_far_numbers(self):
-        self.assertEqual(form_at(sheet_of(f"input | times({FAR}, times({-FAR}, .[-1])) | . last 0"), 2, (0, 2)), (0, {(0, -1): FAR ** 4}))
+        self.assertEqual(form_at(sheet_of(f"input | times({FAR}, times({-FAR}, .[-1])) | . last 0"), 2, (0, 2)),
+                         (0, {(0, -1): FAR ** 4}))
         self.assertRaises(NotLinear, form_at, Sheet([(("most", ()), ("empty",), ("empty",))]), 0, (0, -1))
 
 

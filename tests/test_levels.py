@@ -77,7 +77,8 @@ class Levels(unittest.TestCase):
         self.assertEqual([rounds(Web(3, []), 5), busiest(Web(3, []), 5)], [1, 15])
         self.assertEqual(round_cells(web, 2, 1), [(1, 0), (1, 1)])
         web = Web(2, [(0, 0, 1, None), (1, 0, None, None)])
-        self.assertEqual([level(web, 30, (0, 0)), level(web, 30, (1, 9)), level_walk(web, 3, (1, 2))], [29, 30, [(1, 2), (0, 0), (0, 1), (0, 2)]])
+        self.assertEqual([level(web, 30, (0, 0)), level(web, 30, (1, 9)), level_walk(web, 3, (1, 2))],
+                         [29, 30, [(1, 2), (0, 0), (0, 1), (0, 2)]])
 
     def test_thirty_rows(self):
         draw = Draw(1101)
@@ -102,11 +103,13 @@ class Levels(unittest.TestCase):
                     self.assertLess(told[other], told[cell])
 
     def test_no_plan(self):
-        for web, length in ((Web(1, [(0, 0, 0, 0)]), 1), (Web(2, [(0, 1, 2, 2), (1, 0, -2, -2)]), 3), (Web(1, [(0, 0, None, None)]), 1),
+        for web, length in ((Web(1, [(0, 0, 0, 0)]), 1), (Web(2, [(0, 1, 2, 2), (1, 0, -2, -2)]), 3),
+                            (Web(1, [(0, 0, None, None)]), 1),
                             (Web(1, [(0, 0, -3, -3), (0, 0, 2, 2)]), 5)):
             self.assertEqual(least_ring(web), length)
             for rows in (0, 1, 30):
-                for asked in (lambda: level(web, rows, (0, 0)), lambda: level_walk(web, rows, (0, 0)), lambda: levels(web, rows), lambda: rounds(web, rows),
+                for asked in (lambda: level(web, rows, (0, 0)), lambda: level_walk(web, rows, (0, 0)), lambda: levels(web, rows),
+                              lambda: rounds(web, rows),
                               lambda: round_cells(web, rows, 0), lambda: busiest(web, rows), lambda: far_level(web, 0, rows)):
                     with self.assertRaises(NoPlan) as caught:
                         asked()
@@ -116,8 +119,10 @@ class Levels(unittest.TestCase):
 class Far(unittest.TestCase):
     def test_told(self):
         web = Web(2, [(0, 0, -2, -2), (1, 0, 0, 0), (1, 1, -3, -3)])
-        self.assertEqual([far_level(web, 0, FAR), far_level(web, 0, FAR + 1), far_level(web, 1, FAR)], [FAR // 2, FAR // 2, FAR // 2 + 1])
-        self.assertEqual([far_level(Web(1, []), 0, FAR), far_level(Web(1, [(0, 0, -3, -3)]), 0, 2), far_level(Web(1, [(0, 0, -3, -3)]), 0, 3)], [0, 0, 1])
+        self.assertEqual([far_level(web, 0, FAR), far_level(web, 0, FAR + 1), far_level(web, 1, FAR)],
+                         [FAR // 2, FAR // 2, FAR // 2 + 1])
+        self.assertEqual([far_level(Web(1, []), 0, FAR), far_level(Web(1, [(0, 0, -3, -3)]), 0, 2),
+                          far_level(Web(1, [(0, 0, -3, -3)]), 0, 3)], [0, 0, 1])
         self.assertEqual(far_level(Web(1, [(0, 0, -3, -1)]), 0, FAR), FAR)
         chain = Web(4, [(at, at - 1, 0, 0) for at in (1, 2, 3)] + [(0, 3, -1, -1)])
         self.assertEqual([far_level(chain, column, FAR) for column in range(4)], [4 * FAR + column for column in range(4)])

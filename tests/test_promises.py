@@ -3,7 +3,8 @@
 import copy
 import unittest
 
-from longsheet import (alike, anew, charts, contents, distances, edits, far, formulas, goals, graph, led, levels, names, notation, orders,
+from longsheet import (alike, anew, charts, contents, distances, edits, far, formulas, goals, graph, led, levels, names,
+                       notation, orders,
                        parts, rates, reach, reckoning, rings, rising, slopes, sweeps, texts, walks, whatif, working)
 from longsheet.errors import SheetError
 from longsheet.graph import Web
@@ -138,7 +139,8 @@ class Promises(unittest.TestCase):
                 self.ask(reach.is_bar_between, web, rows, cell, other, reach.hanging_on(web, rows, cell))
                 self.ask(reach.depends, web, rows, cell[0], other[0])
         for _ in range(20):
-            web = Web(2, [(draw.number(0, 1), draw.number(0, 1)) + draw.one([(2, 2), (-3, -3), (None, 1), (0, 1)]) for _ in range(3)])
+            web = Web(2, [(draw.number(0, 1), draw.number(0, 1)) + draw.one([(2, 2), (-3, -3), (None, 1),
+                                                                             (0, 1)]) for _ in range(3)])
             tide = self.ask(distances.distances, web, 0, 1)
             self.ask(distances.is_distance, tide, 5)
             self.ask(distances.count_distances, tide, -8, 9)
@@ -222,7 +224,8 @@ class Promises(unittest.TestCase):
                 self.ask(whatif.table, sheet, rows, told, address, inputs[0], inputs[1], [1, 2], [3])
                 self.ask(whatif.first_with, sheet, rows, told, goal, inputs[0], -9, 9)
             turned = {key: told[key] for key in list(told)[::-1]}
-            self.assertEqual(whatif.what_if(sheet, rows, told, address, moving, lists), whatif.what_if(sheet, rows, turned, address, moving, lists))
+            self.assertEqual(whatif.what_if(sheet, rows, told, address, moving, lists),
+                             whatif.what_if(sheet, rows, turned, address, moving, lists))
 
     def test_levels(self):
         draw = Draw(12)

@@ -51,7 +51,8 @@ class Rates(unittest.TestCase):
         self.assertEqual(rate(Web(2, [(0, 0, -3, -3), (0, 1, 0, 0), (1, 0, -5, -4)]), [0, 1]), (1, 2))
         self.assertEqual(rate(Web(3, [(0, 1, -1, -1), (1, 2, -1, -1), (2, 0, -5, -5)]), [0, 1, 2]), (3, 7))
         self.assertEqual(rate(Web(1, [(0, 0, None, -4)]), [0]), (1, 4))
-        self.assertEqual([rate(Web(1, []), [0]), rate(Web(1, [(0, 0, 0, 0)]), [0]), rate(Web(1, [(0, 0, -1, 1)]), [0])], [(0, 1), None, None])
+        self.assertEqual([rate(Web(1, []), [0]), rate(Web(1, [(0, 0, 0, 0)]), [0]), rate(Web(1, [(0, 0, -1, 1)]), [0])],
+                         [(0, 1), None, None])
         self.assertEqual(rate(Web(8, [(at, (at + 1) % 8, 5, 5) for at in range(8)]), list(range(8))), (1, 5))
 
     def test_drawn(self):
@@ -96,12 +97,15 @@ class Rates(unittest.TestCase):
             self.assertIs(is_rate_paper(web, [0, 1], thing), True, thing)
             self.assertIs(is_rate_paper(web, [2], thing), False)
         alone, more = [((0, 0, -3, -3), -3)], [((0, 1, 1, 1), 1), ((1, 0, -4, -3), -4)]
-        for thing in ((two, {0: 1, 1: 0}), (two, {0: 3, 1: 0}), (two, {0: 2}), (two, {0: 2, 1: 0, 2: 0}), (two, {}), (two, [2, 0]), (two, {0: 2, True: 0}),
-                      (two, {0: 2, 1: False}), (two, {0: 2, 1: None}), (alone, {0: 2, 1: 0}), (more, {0: 2, 1: 0}), ([], {0: 2, 1: 0}), (two[:1], {0: 2, 1: 0}),
+        for thing in ((two, {0: 1, 1: 0}), (two, {0: 3, 1: 0}), (two, {0: 2}), (two, {0: 2, 1: 0, 2: 0}), (two, {}),
+                      (two, [2, 0]), (two, {0: 2, True: 0}),
+                      (two, {0: 2, 1: False}), (two, {0: 2, 1: None}), (alone, {0: 2, 1: 0}), (more, {0: 2, 1: 0}),
+                      ([], {0: 2, 1: 0}), (two[:1], {0: 2, 1: 0}),
                       (tuple(two), {0: 2, 1: 0}), [two, {0: 2, 1: 0}], (two,), (two, {0: 2, 1: 0}, 0), None):
             self.assertIs(is_rate_paper(web, [0, 1], thing), False, thing)
         own = [((2, 2, 2, None), 2)]
-        self.assertEqual([is_rate_paper(web, [2], thing) for thing in ((own, {2: 0}), (own * 2, {2: 7}), ([((2, 2, 2, None), 3)], {2: 0}), (own, {0: 0}))],
+        self.assertEqual([is_rate_paper(web, [2], thing) for thing in ((own, {2: 0}), (own * 2, {2: 7}),
+                                                                       ([((2, 2, 2, None), 3)], {2: 0}), (own, {0: 0}))],
                          [True, True, False, False])
         for thing in some_values() + [nested(30), (two, {0: 2, 1: 0})]:
             self.assertIs(is_rate_paper(web, [2], thing), False)
@@ -128,8 +132,10 @@ class Rates(unittest.TestCase):
 class Longest(unittest.TestCase):
     def test_told(self):
         web = Web(3, [(0, 0, -3, -2), (0, 1, 1, 1), (1, 0, -3, -3), (2, 0, 0, 0)])
-        self.assertEqual([longest_between(web, [0, 1], 9, (0, 8), (0, 2)), longest_between(web, [0, 1], 9, (0, 7), (0, 7)), longest_between(web, [0, 1], 9, (0, 2), (0, 7)),
-                          longest_between(web, [0, 1], 9, (0, 7), (0, 6)), longest_between(web, [0, 1], 9, (1, 8), (0, 5))], [5, 0, None, None, 1])
+        self.assertEqual([longest_between(web, [0, 1], 9, (0, 8), (0, 2)), longest_between(web, [0, 1], 9, (0, 7), (0, 7)),
+                          longest_between(web, [0, 1], 9, (0, 2), (0, 7)),
+                          longest_between(web, [0, 1], 9, (0, 7), (0, 6)), longest_between(web, [0, 1], 9, (1, 8), (0, 5))],
+                          [5, 0, None, None, 1])
         # At eight rows the last one has no row below: the way by the other column begins one row later.
         self.assertEqual([longest_between(web, [0, 1], rows, (0, 7), (0, 3)) for rows in (8, 9)], [3, 4])
         self.assertEqual([longest_between(web, [2], 9, (2, 4), (2, 4)), longest_between(web, [2], 9, (2, 4), (2, 3))], [0, None])
@@ -157,7 +163,8 @@ class Longest(unittest.TestCase):
         web = Web(1, [(0, 0, 2, 2), (0, 0, -2, -2)])
         self.assertEqual([longest_between(web, [0], 2, (0, 0), (0, 0)), longest_between(web, [0], 2, (0, 0), (0, 1))], [0, None])
         # Walks by a ring have no greatest number.
-        self.assertEqual([longest_between(web, [0], 4, (0, 0), (0, 2)), longest_between(web, [0], 3, (0, 1), (0, 1)), longest_between(web, [0], 3, (0, 0), (0, 0))], [None, 0, None])
+        self.assertEqual([longest_between(web, [0], 4, (0, 0), (0, 2)), longest_between(web, [0], 3, (0, 1), (0, 1)),
+                          longest_between(web, [0], 3, (0, 0), (0, 0))], [None, 0, None])
 
 
 if __name__ == "__main__":

@@ -129,7 +129,8 @@ class Bars(unittest.TestCase):
             told = bar_between(web, rows, cell, other)
             self.assertEqual(told, None if other in hung else hung)
             for _ in range(6):
-                thing = sorted(draw.random.sample(cells, draw.number(0, len(cells))) if draw.number(0, 1) else set(hung + [draw.one(cells)]))
+                thing = sorted(draw.random.sample(cells, draw.number(0, len(cells))) if draw.number(0,
+                                                                                                    1) else set(hung + [draw.one(cells)]))
                 inside = set(thing)
                 right = other not in inside and set(plain_next(web, rows, cell)) <= inside
                 right = right and all(set(plain_next(web, rows, one)) <= inside for one in thing)

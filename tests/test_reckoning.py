@@ -86,9 +86,11 @@ class Reckoning(unittest.TestCase):
             self.check(sheet, rows, {})
 
     def test_what_hangs_on_a_ring(self):
-        sheet = sheet_of("$0 head | case(1 = 1, 5, . head) | . last 0", "empty | sum(<1[-1], 1) | <1 foot", "empty | 3 | many(<1[:])")
+        sheet = sheet_of("$0 head | case(1 = 1, 5, . head) | . last 0", "empty | sum(<1[-1], 1) | <1 foot",
+                         "empty | 3 | many(<1[:])")
         told = values(sheet, 2, {})
-        self.assertEqual(told, {(0, -1): "#ring", (0, 0): "#ring", (0, 1): "#ring", (0, 2): "#ring", (1, -1): None, (1, 0): "#ring",
+        self.assertEqual(told, {(0, -1): "#ring", (0, 0): "#ring", (0, 1): "#ring", (0, 2): "#ring", (1, -1): None,
+                                (1, 0): "#ring",
                                 (1, 1): "#ring", (1, 2): "#ring", (2, -1): None, (2, 0): 3, (2, 1): 3, (2, 2): "#ring"})
         self.assertEqual([value_at(sheet, 2, {}, address) for address in ((0, 0), (1, 2), (2, 2), (2, 0))], ["#ring"] * 3 + [3])
         # A name of no column means no cell: it closes no ring.
@@ -97,14 +99,17 @@ class Reckoning(unittest.TestCase):
 
     def test_lost_and_far_names(self):
         sheet = sheet_of("empty | sum($7[0], 1) | >1 last 0", "4 | <2[-1] | <1 last 5", "empty | <1[-1] | <1 last 2")
-        self.assertEqual(values(sheet, 2, {}), {(0, -1): None, (0, 0): "#lost", (0, 1): "#lost", (0, 2): "#lost", (1, -1): 4, (1, 0): "#lost",
-                                                (1, 1): "#lost", (1, 2): None, (2, -1): None, (2, 0): 4, (2, 1): "#lost", (2, 2): 4})
+        self.assertEqual(values(sheet, 2, {}), {(0, -1): None, (0, 0): "#lost", (0, 1): "#lost", (0, 2): "#lost", (1, -1): 4,
+                                                (1, 0): "#lost",
+                                                (1, 1): "#lost", (1, 2): None, (2, -1): None, (2, 0): 4, (2, 1): "#lost",
+                                                (2, 2): 4})
         self.assertEqual(values(sheet, 0, {}), {(0, -1): None, (0, 0): 4, (1, -1): 4, (1, 0): None, (2, -1): None, (2, 0): None})
 
     def test_contents_with_other_keys(self):
         sheet = sheet_of("empty | input | sum(. last 0, 1)", "input | 5 | . head")
         contents = {(0, 1): 8, (0, 2): 99, (1, 0): 7, (1, -1): 3, (0, 0): 2, (9, 9): 1, (0, -1): 4, (0, 7): 4}
-        self.assertEqual(values(sheet, 2, contents), {(0, -1): None, (0, 0): 2, (0, 1): 8, (0, 2): 9, (1, -1): 3, (1, 0): 5, (1, 1): 5, (1, 2): 3})
+        self.assertEqual(values(sheet, 2, contents), {(0, -1): None, (0, 0): 2, (0, 1): 8, (0, 2): 9, (1, -1): 3, (1, 0): 5,
+                                                      (1, 1): 5, (1, 2): 3})
         self.assertEqual(values(sheet, 1, contents)[(0, 1)], 3)
         self.assertEqual(len(contents), 8)
 
@@ -118,7 +123,8 @@ class Reckoning(unittest.TestCase):
         right = [(0, -1), (0, 0), (0, 1), (0, 2)]
         self.assertIs(is_order(sheet, 2, right), True)
         self.assertIs(is_order(sheet, 2, right[3:] + right[:3]), True)
-        for thing in (right[::-1], right[:3], right + right[:1], right[:3] + right[:1], tuple(right), [right], right[:3] + [(0, 3)],
+        for thing in (right[::-1], right[:3], right + right[:1], right[:3] + right[:1], tuple(right), [right],
+                      right[:3] + [(0, 3)],
                       right[:3] + [(1, 0)], [(0, -1), (0, 1), (0, 0), (0, 2)], [(False, -1)] + right[1:], [[0, -1]] + right[1:],
                       right[:1] + [(0, False)] + right[2:], right[:1] + [(0, 0, 0)] + right[2:], dict.fromkeys(right), None):
             self.assertIs(is_order(sheet, 2, thing), False, thing)
@@ -130,14 +136,16 @@ class Reckoning(unittest.TestCase):
         sheet = sheet_of("$0 head | >1[1] | . foot", "empty | <1[-1] | empty")
         for thing in ([(0, -1)], [(0, 0), (1, 1)], [(1, 2), (0, 1)], [(0, 3)]):
             self.assertIs(is_ring(sheet, 3, thing), True, thing)
-        for thing in ([(0, 2)], [(1, 0)], [(1, 1)], [(0, 0), (1, 1), (0, 0), (1, 1)], [(0, 0), (1, 2)], [], [(0, -1), (0, -1)], ((0, -1),), [(0, 4)],
+        for thing in ([(0, 2)], [(1, 0)], [(1, 1)], [(0, 0), (1, 1), (0, 0), (1, 1)], [(0, 0), (1, 2)], [], [(0, -1), (0, -1)],
+                      ((0, -1),), [(0, 4)],
                       [(0, True), (1, 2)], [(0, 1), (True, 2)], [[0, -1]], None, [(0, 0)], [(0, 0), (1, 1), (0, 3)], [(0, -2)]):
             self.assertIs(is_ring(sheet, 3, thing), False, thing)
         for thing in some_values() + [nested(30)]:
             self.assertIs(is_ring(sheet, 3, thing), False, thing)
 
     def test_the_ring_of_order_for(self):
-        sheet = sheet_of("empty | >1[0] | empty", "empty | >1[0] | empty", "empty | sum(<1[0], 1) | empty", "empty | <3[0] | <3 last 0")
+        sheet = sheet_of("empty | >1[0] | empty", "empty | >1[0] | empty", "empty | sum(<1[0], 1) | empty",
+                         "empty | <3[0] | <3 last 0")
         with self.assertRaises(Ring) as caught:
             order_for(sheet, 1)
         self.assertIn(caught.exception.ring, [[(1, 0), (2, 0)], [(2, 0), (1, 0)]])

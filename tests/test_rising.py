@@ -43,28 +43,35 @@ class IsRising(unittest.TestCase):
             self.assertEqual(first_values(sheet, ({}, {}), 0), [])
 
     def test_told(self):
-        for texts in (("input",), ("5",), ("empty",), ("sum(.[-1], times(-2, .[-3]), 1)",), ("total(.[:-1])",), ("total(.[-3:-1])",),
-                      ("$0 head",), (">1[0]", "input"), (">1[0]", "<1[-1]"), ("total($1[:0])", "input"), ("total($1[-3:0])", "input"),
+        for texts in (("input",), ("5",), ("empty",), ("sum(.[-1], times(-2, .[-3]), 1)",), ("total(.[:-1])",),
+                      ("total(.[-3:-1])",),
+                      ("$0 head",), (">1[0]", "input"), (">1[0]", "<1[-1]"), ("total($1[:0])", "input"),
+                      ("total($1[-3:0])", "input"),
                       ("total(.[-1:-2])",), ("total(.[2:0])",), ("times(0, .[-1])",), ("1", "2", "3", "4"), ("sum()",)):
             self.check(True, *texts)
         self.assertIs(is_rising(Sheet([])), True)
 
     def test_one_formula_otherwise(self):
-        for text in (".[1]", "sum(1, .[5])", ".[-4]", "total(.[-4:-1])", "total(.[:-4])", "total(.[-4:-4])", "total(.[-1:1])", "total(.[-1:])",
-                     "total(.[:])", "total(.[:1])", "?[-1]", "? head", "total(?[:-1])", "$2[-1]", "<2[-1]", ">1[-1]", "$2 head", "total($5[:-1])",
-                     "most(.[-1])", "least()", "over(.[-1], 2)", "many(.[:-1])", "top(.[:-1])", "low(.[:-1])", "case(1 = 1, 2, 3)",
+        for text in (".[1]", "sum(1, .[5])", ".[-4]", "total(.[-4:-1])", "total(.[:-4])", "total(.[-4:-4])", "total(.[-1:1])",
+                     "total(.[-1:])",
+                     "total(.[:])", "total(.[:1])", "?[-1]", "? head", "total(?[:-1])", "$2[-1]", "<2[-1]", ">1[-1]", "$2 head",
+                     "total($5[:-1])",
+                     "most(.[-1])", "least()", "over(.[-1], 2)", "many(.[:-1])", "top(.[:-1])", "low(.[:-1])",
+                     "case(1 = 1, 2, 3)",
                      "times(2, sum(1, most(2)))", ".[0]", "total(.[:0])", "total(.[-1:0])", "sum(.[-1], .[0])"):
             self.check(False, "input", text)
 
     def test_ranges_of_other_columns(self):
-        for text in ("total($0[-1:1])", "total($0[:1])", "total($0[:])", "total($0[0:])", "total($0[1:1])", "total($0[-4:0])", "total($0[-5:-4])",
+        for text in ("total($0[-1:1])", "total($0[:1])", "total($0[:])", "total($0[0:])", "total($0[1:1])", "total($0[-4:0])",
+                     "total($0[-5:-4])",
                      "total($0[:-4])", "$0[1]", "$0[-4]", "$0[5]"):
             sheet = bodies("input", text)
             self.assertIs(is_rising(sheet), False, text)
             with self.assertRaises(NotLinear) as caught:
                 first_values(sheet, ({}, {}), 1)
             self.assertEqual(caught.exception.address, (1, 0))
-        for text in ("total($0[-3:0])", "total($0[:0])", "total($0[0:0])", "total($0[:-3])", "total($0[-3:-3])", "$0[0]", "$0[-3]"):
+        for text in ("total($0[-3:0])", "total($0[:0])", "total($0[0:0])", "total($0[:-3])", "total($0[-3:-3])", "$0[0]",
+                     "$0[-3]"):
             self.assertIs(is_rising(bodies("input", text)), True, text)
 
     def test_rings_in_a_row(self):
@@ -85,7 +92,8 @@ class IsRising(unittest.TestCase):
 
 class Errors(unittest.TestCase):
     def check(self, sheet, error, field):
-        for asked in (lambda: first_values(sheet, ({}, {}), 0), lambda: first_values(sheet, ({}, {}), 60), lambda: shares(sheet, 0, 0),
+        for asked in (lambda: first_values(sheet, ({}, {}), 0), lambda: first_values(sheet, ({}, {}), 60),
+                      lambda: shares(sheet, 0, 0),
                       lambda: shares(sheet, len(sheet) - 1, 60)):
             with self.assertRaises(error) as caught:
                 asked()
@@ -108,11 +116,15 @@ class Flows(unittest.TestCase):
     SHEET = Sheet([INPUT, (NONE, ("number", 1), NONE), INPUT])
 
     def test_is_flows(self):
-        for thing in (({}, {}), ({1: 5}, {}), ({0: FAR, 2: -FAR}, {2: [0]}), ({}, {2: [1] * 61, 0: [FAR, -FAR]}), ({2: 0, 0: 0}, {})):
+        for thing in (({}, {}), ({1: 5}, {}), ({0: FAR, 2: -FAR}, {2: [0]}), ({}, {2: [1] * 61, 0: [FAR, -FAR]}),
+                      ({2: 0, 0: 0}, {})):
             self.assertIs(is_flows(self.SHEET, thing), True, thing)
-        for thing in (({3: 1}, {}), ({-1: 1}, {}), ({0: FAR + 1}, {}), ({0: True}, {}), ({0: None}, {}), ({True: 1}, {}), ({(0, -1): 1}, {}),
-                      ({}, {1: [1]}), ({}, {3: [1]}), ({}, {0: []}), ({}, {0: [1] * 62}), ({}, {0: (1,)}), ({}, {0: 1}), ({}, {0: [None]}),
-                      ({}, {0: [1, True]}), ({}, {0: [FAR + 1]}), ({}, {False: [1]}), ({}, {0: [1], 1: [1]}), ({},), ({}, {}, {}), [{}, {}],
+        for thing in (({3: 1}, {}), ({-1: 1}, {}), ({0: FAR + 1}, {}), ({0: True}, {}), ({0: None}, {}), ({True: 1}, {}),
+                      ({(0, -1): 1}, {}),
+                      ({}, {1: [1]}), ({}, {3: [1]}), ({}, {0: []}), ({}, {0: [1] * 62}), ({}, {0: (1,)}), ({}, {0: 1}),
+                      ({}, {0: [None]}),
+                      ({}, {0: [1, True]}), ({}, {0: [FAR + 1]}), ({}, {False: [1]}), ({}, {0: [1], 1: [1]}), ({},),
+                      ({}, {}, {}), [{}, {}],
                       ({}, []), ([], {}), ({}, None), {}, None, ({}, {(0, 0): [1]}), ({"a": 1}, {})):
             self.assertIs(is_flows(self.SHEET, thing), False, thing)
         for thing in some_values() + [nested(30)]:
@@ -135,7 +147,8 @@ class FirstValues(unittest.TestCase):
     def test_rows_up_to_heads(self):
         # Two rows and three rows up: the row ahead of the first one is the head, what is above is empty.
         sheet = bodies("sum(.[-2], 1)", "sum(.[-3], 1)", "sum(total(.[:-1]), .[-1], 1)")
-        self.assertEqual(first_values(sheet, ({0: 10, 1: 20, 2: 30}, {}), 4), [[1, 1, 31], [11, 1, 63], [2, 21, 158], [12, 2, 411]])
+        self.assertEqual(first_values(sheet, ({0: 10, 1: 20, 2: 30}, {}), 4),
+                         [[1, 1, 31], [11, 1, 63], [2, 21, 158], [12, 2, 411]])
 
     def test_drawn(self):
         draw = Draw(900)
@@ -146,7 +159,8 @@ class FirstValues(unittest.TestCase):
             self.assertIs(is_flows(sheet, flows), True)
             told = values(with_input_heads(sheet), rows, contents_of(sheet, flows, rows))
             found = first_values(sheet, flows, rows)
-            self.assertEqual(found, [[plain(told[(column, row)]) for column in range(len(sheet))] for row in range(rows)], sheet.columns())
+            self.assertEqual(found, [[plain(told[(column, row)]) for column in range(len(sheet))] for row in range(rows)],
+                             sheet.columns())
             self.assertEqual(first_values(sheet, flows, 60)[:rows], found)
 
 
@@ -184,7 +198,8 @@ class Shares(unittest.TestCase):
                     self.assertEqual([list(head_weights), list(input_weights)], [sorted(head_weights), sorted(input_weights)])
 
     def test_doubled_to_row_sixty(self):
-        self.assertEqual(shares(bodies("input", "sum(times(2, .[-1]), $0[0])"), 1, 60)[1:], ({1: 2 ** 61}, {(0, row): 2 ** (60 - row) for row in range(61)}))
+        self.assertEqual(shares(bodies("input", "sum(times(2, .[-1]), $0[0])"), 1, 60)[1:],
+                         ({1: 2 ** 61}, {(0, row): 2 ** (60 - row) for row in range(61)}))
 
 
 if __name__ == "__main__":

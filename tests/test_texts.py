@@ -33,7 +33,8 @@ class Texts(unittest.TestCase):
         self.assertEqual(show_cell((7, 29), 30), "7 29")
 
     def test_values(self):
-        self.assertEqual([show_value(value) for value in (0, 5, -17, None, "#lost", "#ring", "#zero")], ["0", "5", "-17", "-", "#lost", "#ring", "#zero"])
+        self.assertEqual([show_value(value) for value in (0, 5, -17, None, "#lost", "#ring", "#zero")],
+                         ["0", "5", "-17", "-", "#lost", "#ring", "#zero"])
         self.assertEqual([show_value(sign * 10 ** many) for sign in (1, -1) for many in (59, 60, 61)],
                          [sign + "1" + "0" * many for sign in ("", "-") for many in (59, 60, 61)])
         # More digits than Python writes at once.
@@ -41,7 +42,8 @@ class Texts(unittest.TestCase):
         self.assertEqual(show_value(-(12 * 10 ** 9000 + 34 * 10 ** 60 + 56)), "-12" + ("34" + "56".zfill(60)).zfill(9000))
 
     def test_grids(self):
-        sheet = sheet_of("input | case(>1[0] = 0, ?[0], over(6, >1[0])) | most(. head)", "empty | input | total(.[:])", "$2 head | 3 | <2 last 1",
+        sheet = sheet_of("input | case(>1[0] = 0, ?[0], over(6, >1[0])) | most(. head)", "empty | input | total(.[:])",
+                         "$2 head | 3 | <2 last 1",
                          "7 | .[-1] | over(1, <1 last 5)")
         self.assertEqual(show_grid(sheet, 3, {(0, -1): 4, (1, 0): 0, (1, 1): -4, (1, 2): 3, (2, 0): 8}),
                          "4 | - | #ring | 7\n#lost | 0 | 3 | 7\n-2 | -4 | 3 | 7\n2 | 3 | 3 | 7\n4 | -1 | -2 | #zero\n")

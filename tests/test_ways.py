@@ -44,7 +44,8 @@ def swept(web, rows, first):
     """All cells in the order in which sweeps come to them."""
     order = []
     for step, starts in sweeps(web, first):
-        order += [cell for _, cell in sorted((starts[column] + step * row, (column, row)) for column in starts for row in range(rows))]
+        order += [cell for _, cell in sorted((starts[column] + step * row,
+                                              (column, row)) for column in starts for row in range(rows))]
     return order
 
 
@@ -244,7 +245,8 @@ class Whole(unittest.TestCase):
             for later, places in (
                     (put_column(sheet, at, (NONE, ("number", 5), NONE)), [column + (column >= at) for column in columns]),
                     (strike_column(sheet, at), [None if column == at else column - (column > at) for column in columns]),
-                    (move_column(sheet, at, to), [moved.index(column) for column in columns]), (exchange(sheet, at, to), changes)):
+                    (move_column(sheet, at, to), [moved.index(column) for column in columns]),
+                    (exchange(sheet, at, to), changes)):
                 asked += self.check_led(sheet, later, places, rows, draw.contents(sheet, rows))
         self.assertGreater(asked, 500)
 

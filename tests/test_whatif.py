@@ -32,7 +32,8 @@ class WhatIf(unittest.TestCase):
         self.assertEqual(contents, {(0, -1): 7, (1, 1): 50})
 
     def test_other_keys_and_errors(self):
-        self.assertEqual(what_if(sheet_of("empty | input | over(6, . last 0)"), 1, {(0, 1): 9, (0, -1): 5, (7, 7): 1}, (0, 1), [(0, 0)], [[0], [4], [None]]),
+        self.assertEqual(what_if(sheet_of("empty | input | over(6, . last 0)"), 1, {(0, 1): 9, (0, -1): 5, (7, 7): 1}, (0, 1),
+                                 [(0, 0)], [[0], [4], [None]]),
                          ["#zero", 1, "#zero"])
 
     def test_integers_beyond_numbers(self):
@@ -47,7 +48,8 @@ class WhatIf(unittest.TestCase):
         contents = {(0, -1): 7, (1, 1): 50}
         self.assertEqual(table(SHEET, 2, contents, (0, 2), (0, -1), (1, 1), [1, 2, 3], [0, 4]), [[1, 25], [2, 25], [3, 25]])
         self.assertEqual(table(SHEET, 2, contents, (0, 2), (1, 1), (0, -1), [0, 4], [1, 2, 3]), [[1, 2, 3], [25, 25, 25]])
-        self.assertEqual([table(SHEET, 2, {}, (0, 2), (1, 1), (0, -1), *lists) for lists in (([], [1]), ([1, 2], []), ([], []))], [[], [[], []], []])
+        self.assertEqual([table(SHEET, 2, {}, (0, 2), (1, 1), (0, -1), *lists) for lists in (([], [1]), ([1, 2], []), ([], []))],
+                         [[], [[], []], []])
         self.assertEqual(table(SHEET, 2, {}, (1, 1), (1, 1), (0, -1), [0, 4], [1]), [[0], [4]])
 
     def test_first_with(self):
@@ -57,7 +59,9 @@ class WhatIf(unittest.TestCase):
         self.assertEqual(first_with(SHEET, 1, {(0, -1): 5}, ((0, 1), 5), (1, 0), 3, 50), 17)
         self.assertIsNone(first_with(SHEET, 1, {(0, -1): 6}, ((0, 1), 5), (1, 0), 21, 50))
         self.assertIsNone(first_with(SHEET, 1, {}, ((0, 1), 25), (1, 0), 5, 205))
-        self.assertEqual([first_with(SHEET, 1, {}, ((0, 1), 25), (1, 0), *ends) for ends in ((4, 4), (3, 3), (-FAR, -FAR + 200))], [4, None, None])
+        self.assertEqual([first_with(SHEET, 1, {}, ((0, 1), 25), (1, 0), *ends) for ends in ((4, 4), (3, 3),
+                                                                                             (-FAR, -FAR + 200))],
+                                                                                             [4, None, None])
         self.assertEqual(first_with(SHEET, 1, {}, ((1, 0), FAR), (1, 0), FAR - 200, FAR), FAR)
         # An empty value is 0, and an error is no number.
         sheet = sheet_of("empty | input | case(over(1, . last 0) = 0, empty, 5)")
@@ -77,13 +81,15 @@ class WhatIf(unittest.TestCase):
             self.assertEqual(what_if(sheet, rows, contents, address, moving, lists),
                              [value_at(sheet, rows, put_in(contents, moving, numbers), address) for numbers in lists])
             goal = (address, draw.number(-3, 5))
-            told = [number for number in range(-6, 7) if plain(value_at(sheet, rows, put_in(contents, inputs[:1], [number]), address)) == goal[1]]
+            told = [number for number in range(-6, 7) if plain(value_at(sheet, rows, put_in(contents, inputs[:1], [number]),
+                                                                        address)) == goal[1]]
             self.assertEqual(first_with(sheet, rows, contents, goal, inputs[0], -6, 6), (told + [None])[0])
             if len(inputs) > 1:
                 one, other = draw.random.sample(inputs, 2)
                 firsts, seconds = [[draw.number(-9, 9) for _ in range(2)] for _ in range(2)]
                 self.assertEqual(table(sheet, rows, contents, address, one, other, firsts, seconds),
-                                 [[value_at(sheet, rows, put_in(contents, [one, other], [first, second]), address) for second in seconds]
+                                 [[value_at(sheet, rows, put_in(contents, [one, other], [first, second]),
+                                            address) for second in seconds]
                                   for first in firsts])
             asked += 1
         self.assertGreater(asked, 40)

@@ -61,21 +61,26 @@ class Working(unittest.TestCase):
         self.assertEqual(worked_out(read_formula(text), others), value, (text, others))
 
     def test_numbers_and_names(self):
-        for text, others, value in (("5", [], 5), ("empty", [], None), (".[0]", [[7]], 7), (".[0]", [[None]], None), (".[0]", [[]], None),
+        for text, others, value in (("5", [], 5), ("empty", [], None), (".[0]", [[7]], 7), (".[0]", [[None]], None),
+                                    (".[0]", [[]], None),
                                     ("?[0]", [None], "#lost"), (".[0]", [["#zero"]], "#zero"), (".[0]", [["#ring"]], "#ring")):
             self.check(text, others, value)
 
     def test_sums_and_times(self):
         for text, others, value in (
-                ("sum()", [], 0), ("sum(empty)", [], 0), ("sum(1, empty, .[0])", [[4]], 5), ("sum(.[0], ?[0])", [["#zero"], None], "#zero"),
+                ("sum()", [], 0), ("sum(empty)", [], 0), ("sum(1, empty, .[0])", [[4]], 5),
+                ("sum(.[0], ?[0])", [["#zero"], None], "#zero"),
                 ("sum(?[0], .[0])", [None, ["#zero"]], "#lost"), ("times(3, empty)", [], 0), ("times(-2, .[0])", [[7]], -14),
-                ("times(0, .[0])", [["#ring"]], "#ring"), ("times(0, ?[0])", [None], "#lost"), ("sum(1, times(2, .[0]))", [[]], 1)):
+                ("times(0, .[0])", [["#ring"]], "#ring"), ("times(0, ?[0])", [None], "#lost"),
+                ("sum(1, times(2, .[0]))", [[]], 1)):
             self.check(text, others, value)
 
     def test_most_and_least(self):
         for text, others, value in (
-                ("most()", [], None), ("least()", [], None), ("most(empty, .[0])", [[None]], None), ("most(-3, empty, .[0])", [[-5]], -3),
-                ("least(-3, empty, .[0])", [[-5]], -5), ("most(.[0], empty)", [[-5]], -5), ("most(9, .[0], ?[0])", [["#zero"], None], "#zero"),
+                ("most()", [], None), ("least()", [], None), ("most(empty, .[0])", [[None]], None),
+                ("most(-3, empty, .[0])", [[-5]], -3),
+                ("least(-3, empty, .[0])", [[-5]], -5), ("most(.[0], empty)", [[-5]], -5),
+                ("most(9, .[0], ?[0])", [["#zero"], None], "#zero"),
                 ("least(.[0], 1)", [[None]], 1)):
             self.check(text, others, value)
 
