@@ -18,13 +18,13 @@ def joined(later, first, once):
     return [[column[at] for column in columns] for at in range(len(first))]
 
 
-def needed_for(asked, next_form):
-    """The list of all things by which what is asked is told from row to row; next_form(thing) is a dict of some."""
+def needed_for(asked, told_by):
+    """The list of all on which what is asked rests from row to row; told_by(thing) lists those of the row ahead."""
     needed = [asked]
     at = 0
     while at < len(needed):
-        form = next_form(needed[at])
-        for other in form:
+        others = told_by(needed[at])
+        for other in others:
             if other not in needed:
                 needed.append(other)
         at += 1
