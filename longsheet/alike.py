@@ -1,7 +1,8 @@
 """Columns of rising sheets that have the same values at all flows, and flows at which others part."""
 
-from longsheet.rising import MOST_NUMBERS, first_rows, is_flows, must_be_rising, shares_of
+from longsheet.rising import MOST_NUMBERS, first_rows, is_flows, must_be_rising
 from longsheet.values import is_integer
+from longsheet.weights import weight_rows
 
 
 def are_alike(sheet, one, other):
@@ -12,10 +13,9 @@ def are_alike(sheet, one, other):
 def parting(sheet, one, other):
     """The least row in which two columns can have unlike values, with flows at which they have, or None."""
     must_be_rising(sheet)
-    for row in range(MOST_NUMBERS):
-        first, second = shares_of(sheet, one, row), shares_of(sheet, other, row)
-        if first != second:
-            return (row, _flows_between(first, second, row))
+    for row, weights in enumerate(weight_rows(sheet, [one, other])):
+        if weights[one] != weights[other]:
+            return (row, _flows_between(weights[one], weights[other], row, len(sheet)))
     return None
 
 
@@ -34,40 +34,33 @@ def is_parting(sheet, one, other, thing):
 def alike_columns(sheet):
     """The list of the lists of columns that are alike."""
     must_be_rising(sheet)
+    rows = weight_rows(sheet, list(range(len(sheet))))
     groups = []
     for column in range(len(sheet)):
-        told = _all_shares(sheet, column)
-        alike = [group for group, others in groups if others == told]
+        alike = [group for group in groups if _have_alike(rows, group[0], column)]
         if alike:
             alike[0].append(column)
         else:
-            groups.append(([column], told))
-    return [group for group, _ in groups]
+            groups.append([column])
+    return groups
 
 
 def plain_column(sheet, column):
     """Whether the body cells of a column are 0 in all rows at all flows."""
     must_be_rising(sheet)
-    return all([told == (0, {}, {}) for told in _all_shares(sheet, column)])
+    return all([not any(weights[column]) for weights in weight_rows(sheet, [column])])
 
 
-def _all_shares(sheet, column):
-    # What is told from row to row has less than sixty numbers: columns that part do so in one of these rows.
-    return [shares_of(sheet, column, row) for row in range(MOST_NUMBERS)]
+def _have_alike(rows, one, other):
+    return all([weights[one] == weights[other] for weights in rows])
 
 
-def _flows_between(first, second, row):
-    """Flows by which unlike shares come to unlike values: with nothing, with one head, or with one input."""
-    if first[0] != second[0]:
+def _flows_between(first, second, row, many):
+    """Flows by which unlike weights come to unlike values: with nothing, with one head, or with one input."""
+    at = [here for here in range(len(first)) if first[here] != second[here]][0]
+    if at == 0:
         return ({}, {})
-    heads = _unlike(first[1], second[1])
-    if heads:
-        return ({heads[0]: 1}, {})
-    column, at = _unlike(first[2], second[2])[0]
-    return ({}, {column: [1 if here == at else 0 for here in range(row + 1)]})
-
-
-def _unlike(one, other):
-    """The ascending list of the keys that have unlike weights in two dicts."""
-    keys = sorted(list(one) + [key for key in other if key not in one])
-    return [key for key in keys if one.get(key, 0) != other.get(key, 0)]
+    if at <= many:
+        return ({at - 1: 1}, {})
+    # In the least row that parts, an input of any row but the first can't: it has come less far down.
+    return ({}, {at - 1 - many: [1] + [0] * row})
