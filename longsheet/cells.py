@@ -33,4 +33,9 @@ def value_by(sheet, rows, contents, address, meant, known):
     formula = sheet.formula_at(address, rows)
     if formula[0] == "input":
         return contents.get(address)
-    return worked_out(formula, [None if cells is None else [known[cell] for cell in cells] for cells in meant])
+    return worked_out(formula, values_meant(meant, known))
+
+
+def values_meant(meant, known):
+    """The list that has for each name and range the list of the known values of the cells that it means, or None."""
+    return [None if cells is None else [known[cell] for cell in cells] for cells in meant]

@@ -3,7 +3,8 @@
 from longsheet.errors import NoColumn, NoFit
 from longsheet.formulas import fits, is_formula
 from longsheet.led import led
-from longsheet.sheets import PLACES, Sheet, is_column
+from longsheet.places import places_to_exchange, places_to_move, places_to_put, places_to_strike
+from longsheet.sheets import PLACES, Sheet, is_column, is_place
 from longsheet.values import is_integer
 
 
@@ -11,38 +12,32 @@ def put_column(sheet, at, column):
     """The sheet with a column put in ahead of the column at, or at the end."""
     if not is_integer(at) or not 0 <= at <= len(sheet):
         raise NoColumn(at)
-    columns = _moved_columns(sheet, [old if old < at else old + 1 for old in range(len(sheet))])
+    columns = _moved_columns(sheet, places_to_put(len(sheet), at))
     return Sheet(columns[:at] + [column] + columns[at:])
 
 
 def strike_column(sheet, at):
     """The sheet without a column."""
     _must_be_columns(sheet, [at])
-    places = [old if old < at else old - 1 for old in range(len(sheet))]
-    places[at] = None
-    return Sheet(_moved_columns(sheet, places))
+    return Sheet(_moved_columns(sheet, places_to_strike(len(sheet), at)))
 
 
 def move_column(sheet, at, to):
     """The sheet with a column moved so that it is column to."""
     _must_be_columns(sheet, [at, to])
-    others = [old for old in range(len(sheet)) if old != at]
-    order = others[:to] + [at] + others[to:]
-    return Sheet(_moved_columns(sheet, [order.index(old) for old in range(len(sheet))]))
+    return Sheet(_moved_columns(sheet, places_to_move(len(sheet), at, to)))
 
 
 def exchange(sheet, at, to):
     """The sheet with two columns exchanged."""
     _must_be_columns(sheet, [at, to])
-    places = list(range(len(sheet)))
-    places[at], places[to] = to, at
-    return Sheet(_moved_columns(sheet, places))
+    return Sheet(_moved_columns(sheet, places_to_exchange(len(sheet), at, to)))
 
 
 def set_formula(sheet, at, place, formula):
     """The sheet with another formula at a place of a column."""
     _must_be_columns(sheet, [at])
-    if not _is_place(place) or not is_formula(formula) or not fits(formula, place):
+    if not is_place(place) or not is_formula(formula) or not fits(formula, place):
         raise NoFit((at, place))
     columns = sheet.columns()
     columns[at] = tuple([formula if here == place else old for here, old in zip(PLACES, columns[at])])
@@ -61,10 +56,6 @@ def _must_be_columns(sheet, things):
     for thing in things:
         if not is_column(sheet, thing):
             raise NoColumn(thing)
-
-
-def _is_place(thing):
-    return isinstance(thing, str) and thing in PLACES
 
 
 def _moved_columns(sheet, places):

@@ -30,7 +30,7 @@ def is_formula(thing):
     if word == "over":
         return len(rest) == 2 and _are_formulas(rest)
     if word == "case":
-        return len(rest) == 5 and _is_sign(rest[1]) and _are_formulas(rest[:1] + rest[2:])
+        return len(rest) == 5 and is_sign(rest[1]) and _are_formulas(rest[:1] + rest[2:])
     return False
 
 
@@ -38,7 +38,7 @@ def fits(formula, place):
     """Whether a formula may stand in a "head", a "body" or a "foot"."""
     if formula[0] == "input":
         return place != "foot"
-    if _has_input(formula):
+    if has_input(formula):
         return False
     return all([_read_fits(read, place) for read in reads(formula)])
 
@@ -84,6 +84,16 @@ def with_reads(formula, reads):
     return _filled(formula, list(reads))
 
 
+def is_sign(thing):
+    """Whether any value is one of the signs of a case."""
+    return isinstance(thing, str) and thing in SIGNS
+
+
+def has_input(formula):
+    """Whether a formula is an input or has one within it."""
+    return formula[0] == "input" or any([has_input(part) for part in parts(formula)])
+
+
 def _filled(formula, waiting):
     # Takes what it puts in off the front of the list, so that the next part finds its own there.
     word = formula[0]
@@ -112,14 +122,6 @@ def _are_formulas(things):
         if not is_formula(thing):
             return False
     return True
-
-
-def _is_sign(thing):
-    return isinstance(thing, str) and thing in SIGNS
-
-
-def _has_input(formula):
-    return formula[0] == "input" or any([_has_input(part) for part in parts(formula)])
 
 
 def _is_plainly_made(formula):

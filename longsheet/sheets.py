@@ -71,6 +71,11 @@ def is_column(sheet, thing):
     return is_integer(thing) and 0 <= thing < len(sheet)
 
 
+def is_place(thing):
+    """Whether any value is one of the words "head", "body" and "foot"."""
+    return isinstance(thing, str) and thing in PLACES
+
+
 def _are_columns(things):
     if not isinstance(things, (list, tuple)):
         return False

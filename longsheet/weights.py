@@ -3,11 +3,10 @@
 from longsheet.forms import terms_of
 from longsheet.names import column_of
 from longsheet.rising import MOST_NUMBERS
-from longsheet.formulas import reads
 
-# As many rows stand ahead of the first one as names and ranges look further up than to the row of their cell.
+# In the lists of rows four stand ahead of row 0, as far as sums reach up; the last one of them is that of the heads.
 AHEAD = 4
-HEADS = AHEAD - 1
+HEADS = 3
 
 
 def weight_rows(sheet, asked):

@@ -1,7 +1,7 @@
 """Formulas that are worked out by the values of the cells that they mean."""
 
 from longsheet.formulas import RANGING, parts, reads
-from longsheet.values import first_error, is_error, plain
+from longsheet.values import first_error, plain
 
 
 def worked_out(formula, others):
@@ -14,46 +14,45 @@ def worked_out(formula, others):
     if word == "name":
         return _named(others[0])
     if word in RANGING:
-        return _ranged(word, others[0])
-    split = _split(parts(formula), others)
-    if word == "case":
-        return _chosen(formula[2], split)
-    return _joined(formula, split)
+        return ranged(word, others[0])
+    return put_together(formula, [worked_out(part, told) for part, told in split_among(formula, others)])
 
 
-def _named(values):
-    if values is None:
-        return "#lost"
-    return values[0] if values else None
-
-
-def _ranged(word, values):
+def ranged(word, values):
+    """The value of a formula of a range with these values, or None without a column."""
     if values is None:
         return "#lost"
     error = first_error(values)
     return _gathered(word, values) if error is None else error
 
 
-def _split(inner, others):
-    """The list of tuples of a part and what others have for the reads of this part."""
+def put_together(formula, values):
+    """The value of a formula by those of its parts; of a case that of the part that is not chosen means nothing."""
+    word = formula[0]
+    error = first_error(values[:2] if word == "case" else values)
+    if error is not None:
+        return error
+    if word == "case":
+        return values[2] if holds(plain(values[0]), formula[2], plain(values[1])) else values[3]
+    if word == "times":
+        return formula[1] * plain(values[0])
+    if word == "over":
+        return _divided(plain(values[0]), plain(values[1]))
+    return _gathered(word, values)
+
+
+def split_among(formula, others):
+    """The list of tuples of a part of a formula and what others have for the reads of this part."""
     split = []
-    for part in inner:
+    for part in parts(formula):
         many = len(reads(part))
         split.append((part, others[:many]))
         others = others[many:]
     return split
 
 
-def _chosen(sign, split):
-    one, other = [worked_out(part, told) for part, told in split[:2]]
-    error = first_error([one, other])
-    if error is not None:
-        return error
-    part, told = split[2] if _holds(plain(one), sign, plain(other)) else split[3]
-    return worked_out(part, told)
-
-
-def _holds(one, sign, other):
+def holds(one, sign, other):
+    """Whether one integer is to another one as a sign tells."""
     if sign == "=":
         return one == other
     if sign == "<>":
@@ -65,18 +64,10 @@ def _holds(one, sign, other):
     return one > other if sign == ">" else one >= other
 
 
-def _joined(formula, split):
-    word = formula[0]
-    values = []
-    for part, told in split:
-        values.append(worked_out(part, told))
-        if is_error(values[-1]):
-            return values[-1]
-    if word == "times":
-        return formula[1] * plain(values[0])
-    if word == "over":
-        return _divided(plain(values[0]), plain(values[1]))
-    return _gathered(word, values)
+def _named(values):
+    if values is None:
+        return "#lost"
+    return values[0] if values else None
 
 
 def _divided(one, other):
