@@ -125,6 +125,88 @@ class Alike(unittest.TestCase):
         self.assertEqual(alike_columns(Sheet([])), [])
 
 
+class ByShares(unittest.TestCase):
+    """The answers against the shares of [90], row by row, through all rows."""
+
+    def check(self, sheet):
+        told = [[shares(sheet, column, row) for row in range(61)] for column in range(len(sheet))]
+        groups = []
+        for column, one in enumerate(told):
+            alike = [group for group in groups if told[group[0]] == one]
+            if alike:
+                alike[0].append(column)
+            else:
+                groups.append([column])
+            self.assertIs(plain_column(sheet, column), all(share == (0, {}, {}) for share in one))
+            for to, other in enumerate(told):
+                unlike = [row for row in range(61) if one[row] != other[row]]
+                found = parting(sheet, column, to)
+                self.assertIs(are_alike(sheet, column, to), not unlike, sheet.columns())
+                self.assertEqual(found if found is None else found[0], unlike[0] if unlike else None)
+                if unlike:
+                    self.check_flows(sheet, column, to, found)
+        self.assertEqual(alike_columns(sheet), groups)
+        return groups
+
+    def check_flows(self, sheet, one, other, told):
+        row, (heads, lists) = told
+        self.assertIs(is_flows(sheet, told[1]), True)
+        self.assertIs(is_parting(sheet, one, other, told), True)
+        last = first_values(sheet, told[1], row + 1)[-1]
+        self.assertNotEqual(last[one], last[other])
+        self.assertIn((list(heads.values()), list(lists.values())), [([], []), ([1], []), ([], [[1] + [0] * row])])
+
+    def test_drawn(self):
+        draw = Draw(922)
+        for _ in range(30):
+            self.check(draw.rising_sheet())
+
+    def test_drawn_with_columns_made_another_way(self):
+        draw = Draw(923)
+        for _ in range(25):
+            columns = draw.rising_sheet(2).columns()
+            many = len(columns)
+            one, other = [("at", draw.number(0, many - 1)) for _ in range(2)]
+            d = draw.number(-3, -1)
+            upper, sums = [("sum", (("total", ("rows", one, None, 0)), ("times", -1, ("total", ("rows", one, None, d))))),
+                           ("total", ("rows", one, d + 1, 0))], ("total", ("rows", other, d, d))
+            more = [("sum", (upper[0], sums)), ("sum", (sums, upper[1]))]
+            groups = self.check(Sheet(columns + [(NONE, body, NONE) for body in more]))
+            self.assertTrue(any(many in group and many + 1 in group for group in groups))
+
+    def test_delays(self):
+        for texts in ((".[-3]", "total($0[-3:-3])", "total($1[-3:-3])", "total($2[-3:-3])"),
+                      ("input", "total($0[-3:-3])", "$1[-3]", "sum(.[-3], $2[-3])"),
+                      ("input", "sum(.[-1], .[-2], $0[0])", "sum(.[-2], .[-1], $0[0])", "sum($1[-1], $1[-2], $0[0])"),
+                      ("$1[-3]", "$2[-3]", "$3[-3]", ".[-3]"), ("$1[-3]", "$2[-3]", "$3[-2]", "$0[-3]"),
+                      ("sum(.[-3], 1)", "sum(.[-3], 1)", "total(.[-3:-1])", "sum(total(.[-3:-1]), times(0, $0[0]))")):
+            self.check(bodies(*texts))
+        # The first row that is not 0 comes late: the sum is 0 ahead of it.
+        self.assertIs(plain_column(bodies(".[-3]", "total($0[-3:-3])", "total($1[-3:-3])", "total($2[-3:-3])"), 3), False)
+
+    def test_no_inputs_no_heads_and_numbers_alone(self):
+        self.assertEqual(self.check(bodies("1", "sum(2, -1)", "sum(.[-1], 0)", "total($2[:0])")), [[0, 1], [2], [3]])
+        self.assertEqual(self.check(bodies("0", "empty", "times(0, $0[-1])", "total(.[-1:-2])")), [[0, 1, 2, 3]])
+        self.assertEqual(self.check(bodies("1", "total($0[-1:0])", "2", "input")), [[0], [1], [2], [3]])
+        self.assertEqual(parting(bodies("1", "total($0[-3:0])", "total($0[:0])"), 1, 2), (4, ({}, {})))
+
+    def test_a_hundred_times(self):
+        left2, left1, above = [("name", ("by", by), ("by", row)) for by, row in ((-2, 0), (-1, 0), (0, -1))]
+        sheet = Sheet([
+            (("number", 3), ("input",), NONE),
+            (("number", 3), ("sum", (("times", 2, above), left1, ("total", ("rows", ("by", -1), None, 0)))), NONE),
+            (("number", 3), ("sum", (("times", 2, above), left2, ("total", ("rows", ("by", -2), None, 0)))), NONE),
+            (("number", 3), ("sum", (("name", ("at", 1), ("by", -1)), ("name", ("at", 2), ("by", -1)),
+                                     ("total", ("rows", ("at", 1), None, -1)), ("total", ("rows", ("at", 2), None, -1)))),
+             NONE),
+        ])
+        self.assertEqual(self.check(sheet), [[0], [1], [2], [3]])
+        for _ in range(100):
+            self.assertEqual(alike_columns(sheet), [[0], [1], [2], [3]])
+            self.assertIs(are_alike(sheet, 1, 1), True)
+            self.assertIs(plain_column(sheet, 3), False)
+
+
 class IsParting(unittest.TestCase):
     SHEET = bodies("input", "$0[-1]", "3", "$2 head")
 

@@ -157,6 +157,66 @@ True
 ['0 1\n0 1\n', '0:0 0:1\n1:0 1:1\n', [[0, 1], [0, 1]]]
 '''
 
+PART_10 = r'''
+>>> from longsheet.book import Book
+>>> from longsheet.desk import Desk
+>>> from longsheet.readers import read_sheet
+>>> from longsheet.texts import show_sheet
+>>> text = "empty | input | total(.[:])\ninput | sum(.[-1], <1[0]) | . last 0\n"
+>>> [len(read_sheet(text)), show_sheet(read_sheet(text)) == text]
+[2, True]
+>>> desk = Desk(read_sheet(text))
+>>> [desk.execute(line) for line in ("rows 2", "value 1 head 100", "value 0 1 -30", "cell 1 foot", "move 0 1", "cell 0 foot", "formula 0 body", "back", "at 1 1")]
+['1', '2', '3', '70', '4', '70', 'sum(.[-1], >1[0])', '3', 'sum(b1, a2)']
+>>> book = Book(read_sheet(text), rows=1, rings=False)
+>>> [book.do_all([("value", (0, 0), 5), ("rows", 3)]), book.contents(), len(book), book.back(), book.contents(), book.rows]
+[None, {(0, 0): 5}, 1, (('value', (0, 0), 5), ('rows', 3)), {}, 1]
+'''
+
+PART_11 = r'''
+>>> from longsheet.back import back, errors_for, nearest, numbers_for, outcomes
+>>> from longsheet.chains import chain, leads_once
+>>> from longsheet.leading import led_back
+>>> from longsheet.sheets import Sheet
+>>> from longsheet.spans import Spans
+>>> own, left = ("name", ("by", 0), ("by", -1)), ("name", ("by", -1), ("by", 0))
+>>> share = (("empty",), ("over", ("number", 12), ("sum", (left, ("number", -3)))), ("top", ("rows", ("by", 0), None, None)))
+>>> sheet = Sheet([(("empty",), ("input",), ("empty",)), share])
+>>> [chain(sheet, 2, (0, 1), (1, 2)), leads_once(sheet, 2, (0, 1), (1, 0))]
+[[(1, 2), (1, 1), (0, 1)], False]
+>>> [numbers_for(sheet, 2, {}, (0, 1), (1, 1), 4).pairs(), errors_for(sheet, 2, {}, (0, 1), (1, 2))["#zero"].pairs()]
+[[(6, 6)], [(3, 3)]]
+>>> [nearest(sheet, 1, {}, (0, 0), (1, 0), 1), [some.pairs() for some in outcomes(sheet, 1, {}, (0, 0), (1, 0), [12, 0, "#zero"])]]
+[10, [[(4, 4)], [(16, 1000000000000)], [(3, 3)], [(-1000000000000, 2), (5, 15)]]]
+>>> led_back(("times", 3, left), 0, 0, [[None]], (Spans([(5, 12)]), True, ()))[0].pairs()
+[(2, 4)]
+'''
+
+PART_12 = r'''
+>>> from longsheet.book import Book
+>>> from longsheet.classes import bands, class_entries
+>>> from longsheet.safe import outcome, safe_order, stuck
+>>> from longsheet.sheets import Sheet
+>>> from longsheet.sure import is_ready, zero_entry
+>>> from longsheet.wards import Ward
+>>> own, left = ("name", ("at", 0), ("by", 0)), ("name", ("by", -1), ("by", 0))
+>>> given = (("empty",), ("input",), ("empty",))
+>>> sheet = Sheet([given, (("empty",), ("over", ("number", 12), ("sum", (left, ("number", -3)))), ("empty",))])
+>>> large = ("asks", ("over", ("number", 12), ("sum", (own, ("number", -3)))), ">", 2)
+>>> other = ("asks", own, "<>", 3)
+>>> bands([large])
+[(True, [(-1000000000000, 2), (8, 1000000000000)]), (False, [(3, 3)]), (False, [(4, 7)])]
+>>> [class_entries(sheet, [large]), safe_order(sheet, [large, other]), outcome([large, other], [0, 1], {0: 3}), stuck(sheet, [large])]
+[[{0: 0}, {0: 3}, {0: 4}], [1, 0], ('broken', 0), ([0], {0: {0: 3}})]
+>>> [is_ready(sheet, 1), zero_entry(sheet, [], 1), zero_entry(sheet, [other], 1)]
+[True, {0: 3}, None]
+>>> ward = Ward(Book(sheet, rows=2), [large, other])
+>>> [ward.order(), ward.do(("value", (0, 1), 5)), ward.refusals(("value", (0, 0), 3)), ward.refusals(("value", (0, 0), 8))]
+[[1, 0], None, [(0, 1)], [(0, 0)]]
+>>> [ward.do(("put", 0, given)), ward.checks()[1], ward.back()[0], ward.checks()[1] == other]
+[None, ('asks', ('name', ('at', 1), ('by', 0)), '<>', 3), 'put', True]
+'''
+
 
 class Examples(unittest.TestCase):
     def check(self, text):
@@ -192,6 +252,15 @@ class Examples(unittest.TestCase):
 
     def test_part_9(self):
         self.check(PART_9)
+
+    def test_part_10(self):
+        self.check(PART_10)
+
+    def test_part_11(self):
+        self.check(PART_11)
+
+    def test_part_12(self):
+        self.check(PART_12)
 
     def test_readme(self):
         blocks = [block for block in README.read_text(encoding="utf-8").split("```") if ">>>" in block]

@@ -56,6 +56,24 @@ FUNCTIONS = {
     "charts": ["show_levels(web, rows)", "show_rounds(web, rows)", "draws(web, thing)", "read_levels(text)"],
     "texts": ["show_sheet(sheet)", "show_contents(contents)", "show_cell(address, rows)", "show_value(value)",
               "show_grid(sheet, rows, contents)"],
+    "readers": ["read_sheet(text)", "read_contents(text)", "read_cell(text, rows)"],
+    "chains": ["leads_once(sheet, rows, address, cell)", "chain(sheet, rows, address, cell)"],
+    "lots": ["is_lot(thing)", "in_lot(lot, value)", "all_values()", "lot_of(value)", "other_lot(lot)", "both_lots(one, other)"],
+    "leading": ["led_back(formula, index, place, others, lot)"],
+    "back": ["back(sheet, rows, contents, address, cell, lot)", "numbers_for(sheet, rows, contents, address, cell, value)",
+             "errors_for(sheet, rows, contents, address, cell)", "outcomes(sheet, rows, contents, address, cell, values)",
+             "nearest(sheet, rows, contents, address, cell, value)"],
+    "asks": ["input_columns(sheet)", "is_entry(sheet, thing)", "is_test(thing)", "entry_at(sheet, contents, row)", "column_asked(test)",
+             "test_answer(test, value)", "told_by(test)"],
+    "checks": ["is_check(thing)", "fits_sheet(check, sheet)", "tests_of(check)", "asked_of(check, entry)", "check_answer(check, entry)"],
+    "classes": ["bands(tests)", "class_entries(sheet, checks)", "class_entry(sheet, checks, entry)", "are_like(sheet, checks, one, other)",
+                "entry_apart(sheet, one, other)"],
+    "safe": ["outcome(checks, order, entry)", "are_in_order(checks, thing)", "is_stuck(sheet, checks, thing)", "must_lead(sheet, checks, one, other)",
+             "broken_entry(sheet, checks, order)", "safe_order(sheet, checks)", "stuck(sheet, checks)"],
+    "guards": ["are_guards(sheet, checks, at, thing)", "all_guards(sheet, checks, at)", "least_guards(sheet, checks, at)",
+               "bare_entry(sheet, checks, at)"],
+    "sure": ["is_kept(checks, entry)", "covers(sheet, one, other)", "is_ready(sheet, column)", "entry_between(sheet, one, other)",
+             "needless(sheet, checks)", "divisors(formula)", "zero_entry(sheet, checks, column)", "protecting(sheet, checks, column)"],
 }
 CLASSES = {
     ("sheets", "Sheet(columns)"): ["columns(self)", "inputs(self, rows)", "addresses(self, rows)",
@@ -63,9 +81,21 @@ CLASSES = {
     ("graph", "Web(many, edges)"): ["edges(self)"],
     ("anew", "Live(sheet, rows, contents)"): ["value(self, address)", "put(self, address, number)", "worked(self)",
                                               "contents(self)"],
+    ("book", "Book(sheet, *, rows=0, rings=True)"): ["contents(self)", "value(self, address)", "do(self, edit)", "do_all(self, edits)",
+                                                     "back(self)", "again(self)", "log(self)", "copied(self)"],
+    ("desk", "Desk(sheet)"): ["execute(self, line)", "book(self)"],
+    ("spans", "Spans(pairs)"): ["pairs(self)", "least(self)", "many(self)"],
+    ("wards", "Ward(book, checks)"): ["do(self, edit)", "do_all(self, edits)", "refusals(self, edit)", "back(self)", "again(self)",
+                                      "book(self)", "checks(self)", "order(self)", "copied(self)"],
 }
+PROPERTIES = {("book", "Book"): ["sheet", "rows", "rings"]}
 OPERATORS = {"Sheet": ["__len__", "__eq__", "__getitem__"], "Web": ["__len__", "__eq__", "__invert__"],
-             "Live": ["__init__"]}
+             "Live": ["__init__"], "Book": ["__len__", "__eq__"], "Desk": ["__init__"], "Ward": ["__eq__"],
+             "Spans": ["__iter__", "__len__", "__contains__", "__or__", "__and__", "__sub__", "__invert__", "__eq__"]}
+
+ERRORS = ["Wrong(place)", "NoColumn(column)", "NoRow(row)", "NoFit(place)", "Beyond(at)", "Ring(ring)", "NoPlan(length)", "NotLinear(address)",
+          "NotOnce(cell)", "NoCell(address)", "NoInput(address)", "Stopped(index)", "Refused(row, at)", "Unasked(at)", "NotReady(column)",
+          "Stuck(lot)", "NoText(line)"]
 
 
 class Interface(unittest.TestCase):
@@ -90,6 +120,19 @@ class Interface(unittest.TestCase):
                 self.assertEqual(method.split("(")[0] + str(inspect.signature(own)), method)
             for method in OPERATORS[found.__name__]:
                 self.assertIn(method, vars(found))
+
+    def test_properties(self):
+        for (file, name), told in PROPERTIES.items():
+            found = getattr(importlib.import_module(f"longsheet.{file}"), name)
+            for one in told:
+                self.assertIsInstance(vars(found)[one], property)
+
+    def test_errors(self):
+        module = importlib.import_module("longsheet.errors")
+        for told in ERRORS:
+            name, _, rest = told.partition("(")
+            self.assertEqual(str(inspect.signature(getattr(module, name))), "(" + rest)
+            self.assertEqual(getattr(module, name).__module__, "longsheet.errors")
 
 
 if __name__ == "__main__":

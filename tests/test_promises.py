@@ -3,12 +3,17 @@
 import copy
 import unittest
 
-from longsheet import (alike, anew, charts, contents, distances, edits, far, formulas, goals, graph, led, levels, names,
-                       notation, orders,
-                       parts, rates, reach, reckoning, rings, rising, slopes, sweeps, texts, walks, whatif, working)
+from longsheet import (alike, anew, asks, back, chains, charts, checks, classes, contents, distances, edits, far, formulas, goals, graph,
+                       guards, leading, led, levels, lots, names, notation, orders, parts, rates, reach, readers, reckoning, rings,
+                       rising, safe, slopes, sure, sweeps, texts, walks, whatif, working)
+from longsheet.book import Book
+from longsheet.desk import Desk
 from longsheet.errors import SheetError
 from longsheet.graph import Web
 from longsheet.sheets import Sheet
+from longsheet.spans import Spans
+from longsheet.wards import Ward
+from tests.test_safe import drawn_checks
 from tests.things import NONE, Draw, cells_of
 
 
@@ -18,6 +23,14 @@ def snapshot(thing):
         return ("sheet", thing.columns())
     if isinstance(thing, Web):
         return ("web", len(thing), thing.edges())
+    if isinstance(thing, Spans):
+        return ("spans", thing.pairs())
+    if isinstance(thing, Book):
+        return ("book", thing.sheet.columns(), thing.rows, thing.rings, thing.contents(), thing.log())
+    if isinstance(thing, Ward):
+        return ("ward", snapshot(thing.book()), thing.checks(), thing.order())
+    if isinstance(thing, dict):
+        return {key: snapshot(value) for key, value in thing.items()}
     if isinstance(thing, (list, tuple)):
         return type(thing)([snapshot(part) for part in thing])
     return copy.deepcopy(thing)
@@ -262,6 +275,116 @@ class Promises(unittest.TestCase):
             self.ask(texts.show_grid, sheet, rows, told)
             for address in sheet.addresses(rows)[:4]:
                 self.ask(texts.show_cell, address, rows)
+
+    def test_spans_and_lots(self):
+        draw = Draw(14)
+        for _ in range(60):
+            one, other, lot, more = draw.spans(), draw.spans(), draw.lot(), draw.lot()
+            for asked in (one.pairs, one.least, one.many, one.__len__, one.__invert__):
+                self.ask(asked)
+            for asked in (one.__or__, one.__and__, one.__sub__, one.__eq__):
+                self.ask(asked, other)
+            self.ask(lots.all_values)
+            for asked in (lots.is_lot, lots.other_lot):
+                self.ask(asked, lot)
+            self.ask(lots.both_lots, lot, more)
+            self.ask(lots.in_lot, lot, draw.one([None, 3, "#zero"]))
+            formula = draw.formula_of(("name", ("at", 0), ("by", 0)))
+            self.ask(leading.led_back, formula, 0, 0, [[None]], lot)
+            self.ask(leading.led_back, ("total", ("rows", ("by", 0), 0, 1)), 0, 1, [[4, 5]], lot)
+
+    def test_back(self):
+        draw = Draw(15)
+        for _ in range(60):
+            sheet, rows = draw.input_sheet(), draw.number(1, 3)
+            told = draw.contents(sheet, rows, True)
+            for address in sheet.inputs(rows)[:3]:
+                cell = draw.one(sheet.addresses(rows))
+                self.ask(chains.leads_once, sheet, rows, address, cell)
+                self.ask(chains.chain, sheet, rows, address, cell)
+                self.ask(back.back, sheet, rows, told, address, cell, draw.lot())
+                for asked in (back.numbers_for, back.nearest):
+                    self.ask(asked, sheet, rows, told, address, cell, draw.one([None, 0, "#zero", 3]))
+                self.ask(back.errors_for, sheet, rows, told, address, cell)
+                self.ask(back.outcomes, sheet, rows, told, address, cell, [0, None, "#zero"])
+                turned = {key: told[key] for key in list(told)[::-1]}
+                self.assertEqual(snapshot(self.ask(back.errors_for, sheet, rows, turned, address, cell)),
+                                 snapshot(self.ask(back.errors_for, sheet, rows, told, address, cell)))
+
+    def test_checks(self):
+        draw = Draw(16)
+        for _ in range(60):
+            sheet = draw.input_sheet()
+            columns = asks.input_columns(sheet)
+            some = drawn_checks(draw, sheet, 3) if draw.number(0, 1) else draw.checks(columns, 3)
+            entry, other = [{column: draw.one([None, 0, 1, -3]) for column in columns[::-1]} for _ in range(2)]
+            self.ask(asks.input_columns, sheet)
+            self.ask(asks.entry_at, sheet, draw.contents(sheet, 2, True), 1)
+            self.ask(asks.is_entry, sheet, entry)
+            for check in some:
+                self.ask(checks.is_check, check)
+                self.ask(checks.fits_sheet, check, sheet)
+                for test in self.ask(checks.tests_of, check):
+                    self.ask(asks.told_by, test)
+                    self.ask(asks.test_answer, test, 3)
+                    self.ask(classes.bands, [test])
+                self.ask(checks.asked_of, check, entry)
+                self.ask(checks.check_answer, check, entry)
+                self.ask(classes.entry_apart, sheet, check, some[0])
+            self.ask(classes.class_entries, sheet, some)
+            self.ask(classes.class_entry, sheet, some, entry)
+            self.ask(classes.are_like, sheet, some, entry, other)
+            order = self.ask(safe.safe_order, sheet, some) or list(range(len(some)))
+            self.ask(safe.outcome, some, order, entry)
+            self.ask(safe.are_in_order, some, order)
+            self.ask(safe.broken_entry, sheet, some, order[::-1])
+            self.ask(safe.is_stuck, sheet, some, self.ask(safe.stuck, sheet, some))
+            for at in range(len(some)):
+                for asked in (guards.all_guards, guards.least_guards, guards.bare_entry):
+                    self.ask(asked, sheet, some, at)
+                self.ask(guards.are_guards, sheet, some, at, [])
+                if at:
+                    self.ask(safe.must_lead, sheet, some, 0, at)
+            self.ask(sure.is_kept, some, entry)
+            for asked in (sure.entry_between, sure.covers):
+                self.ask(asked, sheet, some, some[:1])
+            self.ask(sure.needless, sheet, some)
+            for column in range(len(sheet)):
+                self.ask(sure.divisors, sheet[column][1])
+                self.ask(sure.is_ready, sheet, column)
+                for asked in (sure.zero_entry, sure.protecting):
+                    self.ask(asked, sheet, some, column)
+
+    def test_books_and_wards(self):
+        draw = Draw(17)
+        for _ in range(60):
+            sheet = draw.input_sheet()
+            book, desk = Book(sheet, rows=draw.number(1, 3)), Desk(sheet)
+            for held in (book, Ward(book, [])):
+                for _ in range(4):
+                    edit = draw.edit(sheet, 3)
+                    kept = snapshot(edit)
+                    try:
+                        draw.one([held.do, lambda one: held.do_all([one])])(edit)
+                    except SheetError:
+                        pass
+                    self.assertEqual(snapshot(edit), kept)
+                asked = (book.contents, book.log, book.copied, book.__len__) if held is book else (held.book, held.checks, held.order, held.copied)
+                for one in asked:
+                    self.ask(one)
+                for address in held.copied().sheet.addresses(1) if held is book else []:
+                    self.ask(book.value, address)
+            self.ask(desk.book)
+            for line in ("sheet", "grid", "contents", "cell 0 head"):
+                self.ask(desk.execute, line)
+
+    def test_readers(self):
+        draw = Draw(18)
+        for _ in range(30):
+            sheet = draw.sheet()
+            self.ask(readers.read_sheet, texts.show_sheet(sheet))
+            self.ask(readers.read_contents, texts.show_contents(draw.contents(sheet, 3)))
+            self.ask(readers.read_cell, "0 foot", 3)
 
     def test_formulas(self):
         draw = Draw(5)

@@ -2,9 +2,11 @@
 
 import random
 
+from longsheet.book import Book
 from longsheet.formulas import GATHERING, SIGNS
 from longsheet.graph import Web
 from longsheet.sheets import Sheet
+from longsheet.spans import Spans
 
 FAR = 10 ** 12
 NONE = ("empty",)
@@ -19,6 +21,15 @@ def some_values():
         (None, None), ([], []), [(0, 0)], [[0, 0]], [(0, 0), (0, 0)], (1, {0: 0}), (1, {}), [(1, {})], [([0], 0, {0: 0})],
         Web(0, []), Web(1, [(0, 0, 0, 0)]), Sheet([]), Sheet([(NONE, NONE, NONE)]), frozenset([1]), (1, 2, 3), range(3),
         ("empty", "empty"), (("empty",),), [("empty",)], ("sum", [("empty",)]), ("input",), 10 ** 12, 10 ** 12 + 1,
+    ]
+
+
+def more_values():
+    """Values of more kinds: those of books and of lots and their like."""
+    return some_values() + [
+        Book(Sheet([])), Spans([]), Spans([(1, 2)]), (Spans([]), False, ()), (Spans([(None, None)]), True, ("#lost",)),
+        ("rows", 1), ("value", (0, 0), 1), ("strike", 0), [("rows", 1)], (1, 2), [(1, 2)], ((None, 3),), ("empty", 0),
+        ("asks", ("name", ("at", 0), ("by", 0)), "=", 0), ("all", ()), [("any", ())], ("not", ("empty", 7)), {0: None},
     ]
 
 
@@ -185,6 +196,102 @@ class Draw:
                 many = self.one([1, min(2, most), min(3, most), most, self.number(1, most)])
                 lists[column] = [self.number(-9, 9) for _ in range(many)]
         return (heads, lists)
+
+    def edit(self, sheet, rows):
+        """An edit; now and then one that can't be done."""
+        word = self.one(["rows", "value", "value", "set", "put", "strike", "move", "exchange", "copy"])
+        many = len(sheet)
+        at, to = self.number(-(self.number(0, 9) == 0), many), self.number(0, max(0, many - 1))
+        if word == "rows":
+            return (word, self.number(0, 5))
+        if word == "value":
+            inputs = sheet.inputs(rows)
+            address = self.one(inputs) if inputs and self.number(0, 5) else (self.number(0, 3), self.number(-1, rows))
+            return (word, address, self.one([None, 0, self.number(-9, 9), FAR]))
+        if word == "set":
+            place = self.one(["head", "body", "foot"])
+            formula = ("input",) if self.number(0, 3) == 0 else self.formula(place, 2, False, max(1, many - 1))
+            return (word, at, place, formula)
+        if word == "put":
+            column = [self.formula(place, 2, False, max(1, many)) for place in ("head", "body", "foot")]
+            if self.number(0, 1):
+                column[1] = ("input",)
+            return (word, at, tuple(column))
+        if word == "strike":
+            return (word, at)
+        return (word, at, to, self.number(1, 2)) if word == "copy" else (word, at, to)
+
+    def spans(self, far=20):
+        """Spans of a few stretches, some without an end."""
+        pairs = []
+        for _ in range(self.number(0, 4)):
+            low = self.number(-far, far)
+            pairs.append((low, low + self.one([0, 0, 1, 2, self.number(0, far)])))
+        if self.number(0, 3) == 0:
+            pairs.append((None, self.number(-far, far)))
+        if self.number(0, 3) == 0:
+            pairs.append((self.number(-far, far), None))
+        return Spans(pairs)
+
+    def lot(self, far=20):
+        errors = [error for error in ("#lost", "#ring", "#zero") if self.number(0, 1)]
+        return (self.spans(far), self.one([True, False]), tuple(errors))
+
+    def formula_of(self, read, deep=3, spread=9):
+        """A formula that reads a name just once, and nothing else."""
+        if deep == 0 or self.number(0, 5) == 0:
+            return read
+        inner = self.formula_of(read, deep - 1, spread)
+        others = [("number", self.number(-spread, spread)) for _ in range(3)]
+        kind = self.one(["sum", "most", "least", "times", "over", "over", "case", "case"])
+        if self.number(0, 5) == 0:
+            others[0] = self.one([NONE, ("over", NONE, NONE), ("sum", ()), ("most", ()), ("number", 0)])
+        if kind in GATHERING:
+            formulas = [inner] + others[:self.number(0, 2)]
+            self.random.shuffle(formulas)
+            return (kind, tuple(formulas))
+        if kind == "times":
+            return (kind, self.number(-3, 3), inner)
+        if kind == "over":
+            return (kind,) + self.one([(inner, others[0]), (others[0], inner), (others[1], inner)])
+        at = self.number(0, 3)
+        told = others[:at] + [inner] + others[at:]
+        return (kind, told[0], self.one(SIGNS)) + tuple(told[1:])
+
+    def test(self, column, spread=9):
+        """A test that asks a column."""
+        if self.number(0, 5) == 0:
+            return ("empty", column)
+        formula = self.formula_of(("name", ("at", column), ("by", 0)), self.number(0, 3), spread)
+        return ("asks", formula, self.one(SIGNS), self.number(-spread, spread))
+
+    def check(self, tests, deep=2):
+        """A check that is made of some of these tests."""
+        kind = self.number(0, 5)
+        if not tests or (kind == 0 and deep > 0):
+            return (self.one(["all", "any"]), ())
+        if deep == 0 or kind < 3:
+            return self.one(tests)
+        if kind == 3:
+            return ("not", self.check(tests, deep - 1))
+        inner = [self.check(tests, deep - 1) for _ in range(self.number(1, 3))]
+        return (self.one(["all", "any"]), tuple(inner))
+
+    def checks(self, columns, most=4, each=2):
+        """A list of checks that ask some columns, each by a few tests."""
+        tests = [self.test(column) for column in columns for _ in range(self.number(0, each))]
+        return [self.check(tests) for _ in range(self.number(0, most))]
+
+    def input_sheet(self, most=3):
+        """A sheet with some input columns, and others that divide."""
+        columns = []
+        many = self.number(1, most)
+        for column in range(many):
+            there = self.number(0, many - 1)
+            read = ("name", self.one([("at", there), ("by", there - column)]), ("by", 0))
+            body = ("input",) if self.number(0, 3) else self.formula_of(read, 2)
+            columns.append((self.one([NONE, ("input",)]), body, NONE))
+        return Sheet(columns)
 
     def end(self, spread=5):
         return self.one([None, self.number(-spread, spread), self.number(-spread, spread)])
