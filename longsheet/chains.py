@@ -21,11 +21,9 @@ def chain(sheet, rows, address, cell):
 def way_by(meant, address, cell):
     """This list by what is meant by the cell and by all on which it hangs; None if the input does not lead once."""
     following = next_by(meant)
-    order = order_of(following)
-    if len(order) < len(meant):
-        return None
     leading = {}
-    for here in order:
+    # Cells on rings, and those that hang on one, do not stand in the order: nothing leads from them.
+    for here in order_of(following):
         if here == address or any([other in leading for other in following[here]]):
             leading[here] = True
     if cell not in leading:

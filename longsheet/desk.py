@@ -1,10 +1,10 @@
 """A desk: a book that is led and asked by lines of text."""
 
 from longsheet.book import Book
-from longsheet.errors import NoCommand, NoText, Wrong
+from longsheet.errors import NoCommand, NoText
 from longsheet.notation import read_formula, show_at, show_formula
 from longsheet.readers import read_cell
-from longsheet.sheets import PLACES, Sheet, is_place
+from longsheet.sheets import PLACES, is_place
 from longsheet.texts import BETWEEN, show_contents, show_grid, show_sheet, show_value
 from longsheet.words import count_of, integer_of
 
@@ -15,8 +15,6 @@ class Desk:
     """A Book of a sheet, with rings, and the commands that lead and ask it."""
 
     def __init__(self, sheet):
-        if not isinstance(sheet, Sheet):
-            raise Wrong(0)
         self._book = Book(sheet)
 
     def execute(self, line):
@@ -92,7 +90,7 @@ def _cell(words, rows):
 
 
 def _number(word):
-    number = None if word == "-" else integer_of(word)
+    number = integer_of(word)
     if number is None and word != "-":
         raise NoCommand()
     return number

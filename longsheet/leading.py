@@ -6,7 +6,7 @@ from longsheet.spans import Spans
 from longsheet.undoing import before_adding, before_dividing, before_least, before_most, before_multiplying
 from longsheet.undoing import divisors_into, holding
 from longsheet.values import ERRORS, first_error, is_error, plain
-from longsheet.working import holds, put_together, ranged, split_among, worked_out
+from longsheet.working import holds, put_together, split_among, worked_out
 
 TURNED = {"=": "=", "<>": "<>", "<": ">", "<=": ">=", ">": "<", ">=": "<="}
 
@@ -36,8 +36,7 @@ def _lot_of_one(formula, at, values, lot):
 
 
 def _value_with(formula, at, values, value):
-    told = values[:at] + [value] + values[at + 1:]
-    return ranged(formula[0], told) if formula[0] in RANGING else put_together(formula, told)
+    return put_together(formula, values[:at] + [value] + values[at + 1:])
 
 
 def _integers_of_one(formula, at, values, lot):

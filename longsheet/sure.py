@@ -99,13 +99,13 @@ def _zero_checks(sheet, column):
     """The checks of which one answers "yes" just where a divisor of a ready column, or of one it reads, is 0."""
     if not is_ready(sheet, column):
         raise NotReady(column)
-    inputs, waiting, at = input_columns(sheet), [column], 0
-    found = []
+    waiting, found = [column], []
+    at = 0
     while at < len(waiting):
         here = waiting[at]
         body = sheet[here][1]
         for there in [column_of(read, here) for read in reads(body)]:
-            if there not in inputs and there not in waiting:
+            if there not in waiting:
                 waiting.append(there)
         found.extend([check for divisor in divisors(body) for check in _zero_check(divisor, here)])
         at += 1

@@ -3,7 +3,7 @@
 from longsheet.asks import column_asked, entry_at
 from longsheet.book import Book
 from longsheet.changes import places_behind
-from longsheet.checks import are_checks, fits_sheet, tests_of, with_tests
+from longsheet.checks import are_checks, fits_sheet, with_tests
 from longsheet.errors import Nothing, Refused, Stuck, Unasked, Wrong
 from longsheet.formulas import with_reads
 from longsheet.safe import outcome, safe_order, stuck
@@ -98,21 +98,16 @@ class Ward:
     def _led_along(self, edits, sheet):
         """The checks as they are behind edits that have led to a sheet."""
         places = _places_behind_all(edits, len(self._held.sheet))
-        for at, check in enumerate(self._checks):
-            if None in [places[column_asked(test)] for test in tests_of(check)]:
-                raise Unasked(at)
-            _must_fit_one(_led_check(check, places), sheet, at)
-        return [_led_check(check, places) for check in self._checks]
+        checks = [_led_check(check, places) for check in self._checks]
+        _must_fit(checks, sheet)
+        return checks
 
 
 def _must_fit(checks, sheet):
+    """Raises Unasked for the first check that asks what is no input column; a column that is struck is None here."""
     for at, check in enumerate(checks):
-        _must_fit_one(check, sheet, at)
-
-
-def _must_fit_one(check, sheet, at):
-    if not fits_sheet(check, sheet):
-        raise Unasked(at)
+        if not fits_sheet(check, sheet):
+            raise Unasked(at)
 
 
 def _must_be_kept(refused):

@@ -14,20 +14,15 @@ def worked_out(formula, others):
     if word == "name":
         return _named(others[0])
     if word in RANGING:
-        return ranged(word, others[0])
+        return "#lost" if others[0] is None else put_together(formula, others[0])
     return put_together(formula, [worked_out(part, told) for part, told in split_among(formula, others)])
 
 
-def ranged(word, values):
-    """The value of a formula of a range with these values, or None without a column."""
-    if values is None:
-        return "#lost"
-    error = first_error(values)
-    return _gathered(word, values) if error is None else error
-
-
 def put_together(formula, values):
-    """The value of a formula by those of its parts; of a case that of the part that is not chosen means nothing."""
+    """The value of a formula by those of its parts, or of the cells of its range.
+
+    Of a case that of the part that is not chosen means nothing.
+    """
     word = formula[0]
     error = first_error(values[:2] if word == "case" else values)
     if error is not None:

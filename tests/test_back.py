@@ -74,7 +74,7 @@ class Back(unittest.TestCase):
                 self.check_all(sheet, rows, contents, address, cell, values)
                 asked += 1
                 hung += len(set(found)) > 1 and cell != address
-        self.assertTrue(asked > 500 and hung > 100, (asked, hung))
+        self.assertTrue(asked > 500 and hung > 50, (asked, hung))
 
     def test_drawn_that_hang_on_one_another(self):
         draw = Draw(1341)

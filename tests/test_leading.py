@@ -143,6 +143,14 @@ class LedBack(unittest.TestCase):
             formula = draw.formula_of(("name", ("at", 0), ("by", 0)), 4, 30)
             self.check(formula, 0, 0, [[None]], draw.lot(), range(-40, 41))
 
+    def test_what_is_told_of_the_cell_means_nothing(self):
+        for text, index, place, others in (("sum(total(.[:]), .[0])", 0, 1, [[4, 5], [7]]), ("most(over(.[0], 2), $0[0])", 0, 0, [[1], [2]]),
+                                           ("case(1 < $0[0], top(.[:]), 3)", 1, 0, [[9], [3, 4]])):
+            formula, lot = read_formula(text), (Spans([(4, 9)]), True, ("#lost",))
+            told = led_back(formula, index, place, others, lot)
+            for junk in ("nothing", None, (), [], True, {1: 2}):
+                self.assertEqual(led_back(formula, index, place, with_value(others, index, place, junk), lot), told)
+
     def test_long_integers(self):
         lot = (Spans([(10 ** 60, 10 ** 61)]), False, ())
         self.assertEqual(led_back(read_formula("over(.[0], -1000000000000)"), 0, 0, [[1]], lot)[0].pairs(),

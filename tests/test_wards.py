@@ -332,8 +332,11 @@ class Undoing(WardTests):
         ward.back()
         ward.do(("rows", 2))
         self.refused(Nothing, [], ward.again)
-        self.assertEqual([ward.back(), ward.back()], [("rows", 2), ("value", (0, 0), 1)])
+        self.assertEqual([ward.checks(), ward.back(), ward.checks(), ward.back()], [CHECKS, ("rows", 2), CHECKS, ("value", (0, 0), 1)])
         self.assertEqual(ward, ward_of())
+        self.assertEqual([ward.again(), ward.again()], [("value", (0, 0), 1), ("rows", 2)])
+        self.refused(Nothing, [], ward.again)
+        self.assertEqual(ward.checks(), CHECKS)
 
     def test_copied(self):
         ward = ward_of()
@@ -394,7 +397,7 @@ class Drawn(WardTests):
             for told in states[1:]:
                 ward.again()
                 self.assertEqual((state(ward.book()), ward.checks()), told)
-        self.assertTrue(min(counts[kind] for kind in ("done", "book", "Unasked", "Refused")) > 30, counts)
+        self.assertTrue(min(counts[kind] for kind in ("done", "book", "Unasked", "Refused")) > 10, counts)
 
     def one_turn(self, ward, book, checks, order, edits):
         """One edit or several as one, of the Ward and of the Book; what came of it."""
