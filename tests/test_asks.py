@@ -13,10 +13,8 @@ from tests.things import FAR, NONE, Draw, more_values, nested
 
 OWN = ("name", ("at", 0), ("by", 0))
 GIVEN = (NONE, ("input",), NONE)
-answer_of, is_a_test = test_answer, is_test
 SIGN = {"=": lambda a, b: a == b, "<>": lambda a, b: a != b, "<": lambda a, b: a < b, "<=": lambda a, b: a <= b,
         ">": lambda a, b: a > b, ">=": lambda a, b: a >= b}
-del is_test, test_answer
 
 
 def plain_answer(test, value):
@@ -32,12 +30,12 @@ def plain_answer(test, value):
 class IsTest(unittest.TestCase):
     def test_told(self):
         for column in range(8):
-            self.assertIs(is_a_test(("empty", column)), True)
-            self.assertIs(is_a_test(("asks", ("name", ("at", column), ("by", 0)), "<>", FAR)), True)
+            self.assertIs(is_test(("empty", column)), True)
+            self.assertIs(is_test(("asks", ("name", ("at", column), ("by", 0)), "<>", FAR)), True)
         for formula in (OWN, ("sum", (OWN, ("number", 3), NONE)), ("times", 0, OWN), ("over", ("over", NONE, NONE), OWN),
                         ("case", ("number", 1), "=", NONE, OWN, NONE), ("most", (("least", (("sum", (OWN,)),)),))):
             for sign in SIGNS:
-                self.assertIs(is_a_test(("asks", formula, sign, 0)), True)
+                self.assertIs(is_test(("asks", formula, sign, 0)), True)
 
     def test_refused(self):
         other = ("name", ("at", 1), ("by", 0))
@@ -47,19 +45,19 @@ class IsTest(unittest.TestCase):
                         ("name", ("at", 0), ("foot",)), ("name", ("at", 0), ("last", 0)), ("total", ("rows", ("at", 0), 0, 0)),
                         ("name", ("at", True), ("by", 0)), ("name", ("at", 0), ("by", False)), ("name", ("at", -1), ("by", 0)),
                         ("times", FAR + 1, OWN), ("times", True, OWN), ["name", ("at", 0), ("by", 0)], None, "x", (), ("case", OWN)):
-            self.assertIs(is_a_test(("asks", formula, "=", 0)), False, formula)
+            self.assertIs(is_test(("asks", formula, "=", 0)), False, formula)
         for sign in ("==", "", None, 1, ["="], "< ", "><"):
-            self.assertIs(is_a_test(("asks", OWN, sign, 0)), False, sign)
+            self.assertIs(is_test(("asks", OWN, sign, 0)), False, sign)
         for number in (True, False, None, FAR + 1, -FAR - 1, "0", 10 ** 59, []):
-            self.assertIs(is_a_test(("asks", OWN, "=", number)), False, number)
+            self.assertIs(is_test(("asks", OWN, "=", number)), False, number)
         for column in (8, -1, True, False, None, "0", [0], 10 ** 59):
-            self.assertIs(is_a_test(("empty", column)), False, column)
+            self.assertIs(is_test(("empty", column)), False, column)
         for thing in (("empty",), ("empty", 0, 0), ["empty", 0], ("asks", OWN, "="), ("asks", OWN, "=", 0, 0), ["asks", OWN, "=", 0],
                       ("ask", OWN, "=", 0), (OWN, "=", 0), OWN, ("all", ()), ("not", ("empty", 0))):
-            self.assertIs(is_a_test(thing), False, thing)
+            self.assertIs(is_test(thing), False, thing)
         for thing in more_values() + [nested(30)]:
             if thing not in [("empty", 0), ("asks", OWN, "=", 0)]:
-                self.assertIs(is_a_test(thing), False, thing)
+                self.assertIs(is_test(thing), False, thing)
 
 
 class Entries(unittest.TestCase):
@@ -110,14 +108,14 @@ class Answers(unittest.TestCase):
                            (("asks", ("case", OWN, "=", NONE, ("over", NONE, NONE), NONE), "=", 0), {None: "error", 0: "error", 7: "yes"}),
                            (("asks", ("sum", (("over", NONE, NONE), OWN)), "=", 0), {None: "error", 4: "error"})):
             for value, answer in told.items():
-                self.assertEqual(answer_of(test, value), answer, (test, value))
+                self.assertEqual(test_answer(test, value), answer, (test, value))
 
     def test_told_by(self):
         draw = Draw(1500)
         kinds = {}
         for _ in range(600):
             test = draw.test(draw.number(0, 7), draw.one([9, 30]))
-            self.assertIs(is_a_test(test), True)
+            self.assertIs(is_test(test), True)
             told = told_by(test)
             self.assertEqual(list(told), ["error", "no", "yes"])
             numbers = {-FAR, FAR}
@@ -127,10 +125,10 @@ class Answers(unittest.TestCase):
                 numbers |= {number for number in near(spans) if -FAR <= number <= FAR}
             for number in numbers:
                 answer = plain_answer(test, number)
-                self.assertEqual(answer_of(test, number), answer)
+                self.assertEqual(test_answer(test, number), answer)
                 self.assertEqual([one for one in told if number in told[one][0]], [answer], (test, number))
             self.assertEqual([one for one in told if told[one][1]], [plain_answer(test, None)])
-            self.assertEqual(answer_of(test, None), plain_answer(test, None))
+            self.assertEqual(test_answer(test, None), plain_answer(test, None))
             both = told["error"][0] | told["no"][0] | told["yes"][0]
             self.assertEqual([both, sum(told[one][0].many() for one in told)], [Spans([(-FAR, FAR)]), 2 * FAR + 1])
             for one in told:

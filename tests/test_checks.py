@@ -2,7 +2,7 @@
 
 import unittest
 
-from longsheet.asks import column_asked, test_answer as answer_of
+from longsheet.asks import column_asked, test_answer
 from longsheet.checks import asked_of, check_answer, fits_sheet, is_check, tests_of
 from longsheet.sheets import Sheet
 from tests.things import NONE, Draw, more_values, nested
@@ -20,7 +20,7 @@ def plain_asked(check, entry):
         answer, asked = plain_asked(check[1], entry)
         return ({"yes": "no", "no": "yes"}.get(answer, answer), asked)
     if check[0] not in ("all", "any"):
-        answer = answer_of(check, entry[column_asked(check)])
+        answer = test_answer(check, entry[column_asked(check)])
         return (answer, [(check, answer)])
     asked = []
     for part in check[1]:

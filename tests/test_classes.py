@@ -3,7 +3,7 @@
 import itertools
 import unittest
 
-from longsheet.asks import column_asked, input_columns, is_entry, test_answer as answer_of
+from longsheet.asks import column_asked, input_columns, is_entry, test_answer
 from longsheet.checks import check_answer, tests_of
 from longsheet.classes import are_like, bands, class_entries, class_entry, entry_apart
 from longsheet.sheets import Sheet
@@ -23,7 +23,7 @@ def of_column(checks, column):
 
 
 def answers(tests, value):
-    return [answer_of(test, value) for test in tests]
+    return [test_answer(test, value) for test in tests]
 
 
 def near_values(tests):
